@@ -1,0 +1,1 @@
+"""Termshelf: shelves of terms that are asked for terms alike."""

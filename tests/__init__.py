@@ -1,0 +1,1 @@
+"""The tests of the program; README.md tells how to run them."""
