@@ -113,7 +113,7 @@ def shows_apart(one, other, thing):
     if not isinstance(thing, tuple) or len(thing) not in (2, 3) or not is_list(thing[1], 1, _MOST_ROWS):
         return False
     rows = thing[1]
-    if _first_wrong(sides, rows) is not None or not isinstance(thing[0], str):
+    if _first_wrong(sides, rows) is not None:
         return False
     if len(thing) == 2:
         return thing[0] == "clash" and _clashes(sides, rows[-1])

@@ -8,7 +8,7 @@ WAYS = ("instances", "above", "meets", "variants")
 
 
 def need_way(thing):
-    if not isinstance(thing, str) or thing not in WAYS:
+    if thing not in WAYS:
         raise NoWay(thing)
 
 
@@ -43,7 +43,7 @@ def _bars_two(ask, kept, first, spot):
 
 
 def _bars(ask, kept, thing):
-    if not isinstance(thing, tuple) or len(thing) not in (2, 3) or not isinstance(thing[0], str):
+    if not isinstance(thing, tuple) or len(thing) not in (2, 3):
         return False
     if not all([_is_of_both(ask, kept, spot) for spot in thing[1:]]):
         return False
@@ -72,7 +72,7 @@ def why_no_variant(one, other):
 
 def shows_no_variant(one, other, thing):
     bar = why_no_variant(one, other)
-    if bar is None or not isinstance(thing, tuple) or len(thing) != 4:
+    if not isinstance(thing, tuple) or len(thing) != 4:
         return False
     # Looked at as a spot first, since Python holds True to be equal to 1.
     return one.place_at(thing[1]) is not None and thing == bar

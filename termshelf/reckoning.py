@@ -187,7 +187,7 @@ class Reckoning:
         return [self._told_row(row, numbers) for row in needed], numbers
 
     def _meets(self):
-        return self._clash is None and len(self._whole) == len(self._class_roots())
+        return len(self._whole) == len(self._class_roots())
 
     def paper(self):
         """The paper that both don't meet, None where they meet."""

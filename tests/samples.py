@@ -102,6 +102,12 @@ class Chance:
     def text(self, words, most, letters):
         return " ".join(self._signs(words, 1 + self._random.randrange(most), letters))
 
+    def pair(self):
+        """Two terms of at most sixteen signs and of the same words."""
+        words = self.one_of([WORDS, WIDE, ONE, ONE])
+        letters = self.one_of([["A"], ["A", "B"], ["A", "B", "C", "N0", "Z9"]])
+        return [term(self.text(words, 16, letters), words) for _ in range(2)]
+
     def _signs(self, words, most, letters):
         names = [name for name in words.names() if words.places(name) < most]
         if not names or most == 1 or self._random.randrange(6) == 0:
@@ -137,6 +143,26 @@ class Case(unittest.TestCase):
         before = marked(thing)
         self.refused(error, "found", thing, ask, *things, **named)
         self.assertEqual(marked(thing), before)
+
+    def sixteen(self):
+        """A term that is just small enough to be met."""
+        told = term("f " * 7 + "A " * 7 + "g A")
+        self.assertEqual(len(told), 16)
+        return told
+
+    def refuses_two(self, ask):
+        """An ask of two terms that refuses what is no term, terms of other words, and more than sixteen signs."""
+        other, wide = term("A", OTHER), term("f " * 8 + "A " * 8 + "A")
+        for thing in things_but(Term):
+            self.found(errors.NoTerm, thing, ask, thing, None)
+            self.found(errors.NoTerm, thing, ask, thing, wide)
+            self.found(errors.NoTerm, thing, ask, wide, thing)
+        self.found(errors.Unlike, other, ask, wide, other)
+        self.found(errors.Unlike, wide, ask, other, wide)
+        self.refused(errors.TooGreat, "many", 17, ask, wide, term("c"))
+        self.refused(errors.TooGreat, "many", 17, ask, term("c"), wide)
+        self.refused(errors.TooGreat, "many", 17, ask, wide, great("A", 9999))
+        self.refused(errors.TooGreat, "many", 9999, ask, great("A", 9999), wide)
 
     def told(self, truth, thing):
         """Just True or False, nothing that is only equal to it."""

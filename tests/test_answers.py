@@ -6,7 +6,7 @@ import unittest
 from termshelf.answers import Answer, answer_of
 from termshelf.nomatch import why_not
 from termshelf.puttings import matched, meeting
-from tests.samples import OTHER, WIDE, Case, Chance, any_things, marked, putting, term, terms_of
+from tests.samples import OTHER, Case, Chance, any_things, marked, putting, term, terms_of
 
 ALL = terms_of(4)
 KEPT = [text for text in terms_of(4, ["N0", "N1"]) if term(text).is_normal()]
@@ -63,8 +63,7 @@ class Told(Case):
     def test_terms_by_chance(self):
         chance = Chance(7)
         for _ in range(400):
-            letters = chance.one_of([["A"], ["A", "B"], ["A", "B", "N0", "N1"]])
-            ask, kept = [term(chance.text(WIDE, 16, letters), WIDE) for _ in range(2)]
+            ask, kept = chance.pair()
             for way in WAYS:
                 self.looked_at(way, ask, kept.normal())
                 self.looked_at(way, ask, ask.normal())

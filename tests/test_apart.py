@@ -4,16 +4,13 @@ import itertools
 import unittest
 
 from termshelf.apart import first_wrong, shows_apart, why_apart
-from termshelf.errors import NoList, NoTerm, TooGreat, Unlike
+from termshelf.errors import NoList
 from termshelf.puttings import meeting
-from termshelf.terms import Term
 from tests import plain
-from tests.samples import LAST, LIKE, ONE, OTHER, WIDE, WORDS, Case, Chance, any_things, great, marked, term
-from tests.samples import terms_of, things_but
+from tests.samples import LIKE, WIDE, Case, Chance, any_things, marked, term, terms_of, things_but
 from tests.touched import touched
 
 ALL = terms_of(4)
-SEVENTEEN = "f " * 8 + "A " * 8 + "A"
 ROOTS = ((0, ()), (1, ()))
 
 # Two that clash by way of a letter, and two of which parts lead round a ring.
@@ -100,6 +97,23 @@ class Rows(Case):
                     ((0, (0,)), (1, (1,)), ("joined", -1, -2)), ((0, (0,)), (1, (0,)), ("joined", 2, 0))]:
             self.assertEqual(first_wrong(*CLASH, rows + [row]), 3, row)
 
+    def test_no_row_stands_on_itself_or_on_later_ones(self):
+        same = ((0, (0,)), (0, (0,)))
+        for rows in ([], CLASH_ROWS[:1], CLASH_ROWS[:3]):
+            for why in [("turned", len(rows)), ("turned", -1), ("joined", len(rows), len(rows)), ("joined", -1, -1)]:
+                self.assertEqual(first_wrong(*CLASH, rows + [(*same, why)]), len(rows))
+                self.assertEqual(first_wrong(*CLASH, rows + [(*same, why), (*same, ("letter",))]), len(rows))
+        self.assertEqual(first_wrong(*CLASH, [(*same, ("turned", 1)), (*same, ("letter",))]), 0)
+        rows = [(*same, ("letter",)), (*same, ("turned", 0)), (*same, ("joined", 1, 1)), (*same, ("joined", 2, 0))]
+        self.assertIsNone(first_wrong(*CLASH, rows))
+
+    def test_sides_are_0_and_1(self):
+        for side in (-1, -2, 2, True, False, None, "0", (0,)):
+            for row in [((side, (0,)), (side, (1,)), ("letter",)), ((0, ()), (side, ()), ("over",)),
+                        ((side, ()), (1, ()), ("over",)), ((side, ()), (side, ()), ("over",))]:
+                self.assertEqual(first_wrong(*CLASH, [row]), 0)
+                self.assertEqual(first_wrong(*RING, [row]), 0)
+
     def test_part(self):
         one, other = term("f g A c"), term("f g g B D")
         rows = [(*ROOTS, ("over",)), ((0, (0,)), (1, (0,)), ("part", 0, 0)), ((0, (1,)), (1, (1,)), ("over",))]
@@ -110,6 +124,14 @@ class Rows(Case):
                           ((0, (0,)), (1, (0,)), ("part", 0, -2)), ((0, (1,)), (1, (1,)), ("part", 2, 0)),
                           ((0, (0, 0)), (1, (0, 0)), ("part", 1)), ((0, (0, 0)), (1, (0, 0)), ("part", 1, None))]:
             self.assertEqual(first_wrong(one, other, rows + [(a, b, why)]), 3, why)
+
+    def test_a_part_of_a_greater_number_than_its_rows(self):
+        roots = (*ROOTS, ("over",))
+        for k in range(4):
+            row = ((0, (k,)), (1, (k,)), ("part", 0, k))
+            self.assertIsNone(first_wrong(term("t A B C D", WIDE), term("t c c c c", WIDE), [roots, row]))
+            told = first_wrong(term("h A B C", WIDE), term("h c c c", WIDE), [roots, row])
+            self.assertEqual(told, None if k < 3 else 1)
 
     def test_parts_of_the_same_word_alone(self):
         rows = [((0, ()), (1, ()), ("over",))]
@@ -188,6 +210,17 @@ class Papers(Case):
                       [(7, (0, 0))], [(5, (1, 0))], None, {}, {7: (1, 0)}, "turns", 7, (7, (1, 0)), [None], [7]]:
             self.told(False, shows_apart(*RING, ("ring", rows, turns)))
 
+    def test_a_turn_leads_further_down(self):
+        # Rows that lead round without a part that is smaller show nothing.
+        one, other = term("f A f B A"), term("f g c f C D")
+        rows = [((0, (0,)), (1, (0,)), ("over",)), ((1, (0,)), (0, (0,)), ("turned", 0)),
+                ((0, (0,)), (0, (0,)), ("letter",)), ((0, (0,)), (0, (1, 1)), ("letter",)),
+                ((0, (1, 1)), (0, (0,)), ("letter",))]
+        self.assertIsNone(first_wrong(one, other, rows))
+        for turns in [[(0, (0,)), (1, (0,))], [(1, (0,)), (0, (0,))], [(2, (0,))], [(3, (1, 1)), (4, (0,))]]:
+            self.told(False, shows_apart(one, other, ("ring", rows, turns)))
+            self.told(False, plain.is_paper(plain.tree(one), plain.tree(other), ("ring", rows, turns)))
+
     def test_a_turn_leads_beneath_its_own_row_alone(self):
         one, other = term("f A f B c"), term("f g A f B B")
         rows = [((0, (0,)), (1, (0,)), ("over",)), ((0, (1,)), (1, (1,)), ("over",)),
@@ -265,9 +298,7 @@ class Just(Case):
         chance = Chance(5)
         words = []
         for _ in range(800):
-            letters = chance.one_of([["A"], ["A", "B"], ["A", "B", "C", "N0", "Z9"]])
-            made = chance.one_of([WORDS, WIDE, ONE, ONE])
-            words.append(self.looked_at(*[term(chance.text(made, 16, letters), made) for _ in range(2)]))
+            words.append(self.looked_at(*chance.pair()))
         for word in (None, "clash", "ring"):
             self.assertGreater(words.count(word), 20)
 
@@ -288,25 +319,11 @@ class Just(Case):
 
 class Refusals(Case):
     def test_in_their_order(self):
-        other, wide = term("A", OTHER), term(SEVENTEEN)
-        asks = [why_apart, lambda a, b: shows_apart(a, b, None), lambda a, b: first_wrong(a, b, None)]
-        for ask in asks:
-            for thing in things_but(Term):
-                self.found(NoTerm, thing, ask, thing, None)
-                self.found(NoTerm, thing, ask, thing, wide)
-                self.found(NoTerm, thing, ask, wide, thing)
-            self.found(Unlike, other, ask, wide, other)
-            self.found(Unlike, wide, ask, other, wide)
-            self.found(Unlike, last := term(SEVENTEEN, LAST), ask, wide, last)
-            self.refused(TooGreat, "many", 17, ask, wide, term("c"))
-            self.refused(TooGreat, "many", 17, ask, term("c"), wide)
-            self.refused(TooGreat, "many", 17, ask, wide, great("A", 9999))
-            self.refused(TooGreat, "many", 9999, ask, great("A", 9999), wide)
+        for ask in (why_apart, lambda a, b: shows_apart(a, b, None), lambda a, b: first_wrong(a, b, None)):
+            self.refuses_two(ask)
 
     def test_sixteen_signs_are_not_too_many(self):
-        sixteen = term("f " * 7 + "A " * 7 + "g A")
-        self.assertEqual(len(sixteen), 16)
-        self.assertIsNone(why_apart(sixteen, sixteen))
+        self.assertIsNone(why_apart(self.sixteen(), self.sixteen()))
 
     def test_no_list_of_rows(self):
         for thing in things_but(list, tuple):

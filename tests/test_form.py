@@ -7,17 +7,25 @@ import re
 import unittest
 
 PACKAGE = pathlib.Path(__file__).resolve().parent.parent / "termshelf"
-BUILTINS = """len range enumerate zip min max sum abs sorted reversed int str bool list tuple dict set isinstance ord repr any
-all divmod ValueError KeyError LookupError super""".split()
-METHODS = """append clear copy count endswith extend find get index insert isalnum isalpha isdigit islower isspace isupper
-items join keys ljust lower lstrip partition pop remove replace reverse rfind rjust rpartition rsplit rstrip setdefault split
-splitlines startswith strip update upper values zfill bit_length""".split()
+BUILTINS = """
+    len range enumerate zip min max sum abs sorted reversed int str bool list tuple dict set isinstance ord
+    repr any all divmod ValueError KeyError LookupError super
+""".split()
+METHODS = """
+    append clear copy count endswith extend find get index insert isalnum isalpha isdigit islower isspace
+    isupper items join keys ljust lower lstrip partition pop remove replace reverse rfind rjust rpartition
+    rsplit rstrip setdefault split splitlines startswith strip update upper values zfill bit_length
+""".split()
 DOUBLE = "__init__ __eq__ __repr__ __str__ __len__".split()
-BARRED_NAMES = """register mro elements open input law version_info with_traceback add_note attrgetter breakpoint builtins
-compile copyright delattr dir eval exec exit gc getattr globals hasattr help id importlib license locals methodcaller os quit
-setattr type vars sys""".split()
-BARRED_WORDS = """type typing typing_extensions enum Enum IntEnum StrEnum Flag IntFlag Generic Protocol ABC ABCMeta namedtuple
-NamedTuple TypedDict TYPE_CHECKING abstractmethod""".split()
+BARRED_NAMES = """
+    register mro elements open input law version_info with_traceback add_note attrgetter breakpoint builtins
+    compile copyright delattr dir eval exec exit gc getattr globals hasattr help id importlib license locals
+    methodcaller os quit setattr type vars sys
+""".split()
+BARRED_WORDS = """
+    type typing typing_extensions enum Enum IntEnum StrEnum Flag IntFlag Generic Protocol ABC ABCMeta
+    namedtuple NamedTuple TypedDict TYPE_CHECKING abstractmethod
+""".split()
 BARRED_NODES = (ast.Global, ast.AsyncFunctionDef, ast.AsyncFor, ast.AsyncWith, ast.Await, ast.GeneratorExp, ast.Yield,
                 ast.YieldFrom, ast.Div, ast.AnnAssign, ast.Import, ast.Try, ast.With, ast.Match)
 
@@ -74,7 +82,8 @@ class Statements(unittest.TestCase):
         for path, node in nodes(ast.Compare):
             for sign, side in zip(node.ops, node.comparators):
                 if isinstance(sign, (ast.Is, ast.IsNot)):
-                    self.assertIn(ast.dump(side), [ast.dump(ast.Constant(value)) for value in (None, True, False)], path)
+                    self.assertIsInstance(side, ast.Constant, (path, node.lineno))
+                    self.assertIn(repr(side.value), ["None", "True", "False"], (path, node.lineno))
 
     def test_constants(self):
         for path, node in nodes(ast.Constant):

@@ -5,8 +5,9 @@ import inspect
 import unittest
 
 FUNCTIONS = {
-    "marks": ["is_whole(thing, low, high)", "is_name(thing)", "is_letter(thing)", "is_spot(thing)", "letter_rank(letter)",
-              "normal_letter(number)", "number_in(thing, *, low=0, high=9999)", "words_in(thing)", "rows_in(thing)"],
+    "marks": ["is_whole(thing, low, high)", "is_name(thing)", "is_letter(thing)", "is_spot(thing)",
+              "letter_rank(letter)", "normal_letter(number)", "number_in(thing, *, low=0, high=9999)",
+              "words_in(thing)", "rows_in(thing)"],
     "signs": [],
     "terms": ["term_of(words, text)", "ahead(one, other)", "variants(one, other)", "in_order(terms, *, falling=False)"],
     "puttings": ["matched(ask, kept, *, within=None)", "meeting(one, other)",
@@ -24,8 +25,9 @@ CLASSES = {
         "words(self)", "signs(self)", "head(self)", "parts(self)", "spots(self)", "deep(self)", "letters(self)",
         "part_at(self, spot)", "head_at(self, spot)", "with_part(self, spot, term)", "normal(self)", "is_normal(self)",
         "rank(self)", "__len__(self)"] + SHOWN,
-    ("puttings", "Putting(words, pairs=None)"): ["words(self)", "letters(self)", "given(self, letter)", "put(self, term)",
-                                                 "then(self, other)", "__len__(self)"] + SHOWN,
+    ("puttings", "Putting(words, pairs=None)"): [
+        "words(self)", "letters(self)", "given(self, letter)", "put(self, term)", "then(self, other)",
+        "__len__(self)"] + SHOWN,
     ("answers", "Answer"): ["kept(self)", "notes(self)", "asked(self)", "keeping(self)", "whole(self)"] + SHOWN,
 }
 VALUES = {("marks", "MOST_PLAIN"): 9999, ("terms", "MOST_SIGNS"): 100}

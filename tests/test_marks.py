@@ -5,8 +5,8 @@ import unittest
 
 from termshelf import marks
 from termshelf.errors import NoLetter, NoNumber
-from termshelf.marks import is_letter, is_name, is_spot, is_whole, letter_rank, normal_letter, number_in
-from termshelf.marks import rows_in, words_in
+from termshelf.marks import is_letter, is_name, is_spot, is_whole, letter_rank, normal_letter, number_in, rows_in
+from termshelf.marks import words_in
 from tests.samples import Case, any_things, marked, things_but
 
 MOST = 10 ** 30 - 1

@@ -3,16 +3,13 @@
 import itertools
 import unittest
 
-from termshelf.errors import NoTerm, TooGreat, Unlike
 from termshelf.puttings import Putting, matched, meeting, shows_meeting
 from termshelf.terms import Term, variants
 from tests import plain
-from tests.samples import LAST, LIKE, ONE, OTHER, WIDE, WORDS, Case, Chance, any_things, great, marked, putting
-from tests.samples import term, terms_of, things_but
+from tests.samples import LAST, LIKE, OTHER, WIDE, WORDS, Case, Chance, any_things, great, marked, putting, term
+from tests.samples import terms_of
 
 ALL = terms_of(4)
-SIXTEEN = "f " * 7 + "A " * 7 + "g A"
-SEVENTEEN = "f " * 8 + "A " * 8 + "A"
 
 
 class Whole(Case):
@@ -70,10 +67,7 @@ class Whole(Case):
         chance = Chance(4)
         meet = []
         for _ in range(1500):
-            letters = chance.one_of([["A"], ["A", "B"], ["A", "B", "C", "N0", "Z9"]])
-            words = chance.one_of([WORDS, WIDE, ONE, ONE])
-            meet.append(self.same_as_plain(term(chance.text(words, 16, letters), words),
-                                           term(chance.text(words, 16, letters), words)))
+            meet.append(self.same_as_plain(*chance.pair()))
         self.assertTrue(100 < sum(meet) < 1400)
 
     def test_all_common_instances_are_instances_of_it(self):
@@ -160,22 +154,11 @@ class Shows(Case):
 
 class Refusals(Case):
     def test_in_their_order(self):
-        other, wide = term("A", OTHER), term(SEVENTEEN)
         for ask in (meeting, lambda one, other: shows_meeting(one, other, None, None, None)):
-            for thing in things_but(Term):
-                self.found(NoTerm, thing, ask, thing, None)
-                self.found(NoTerm, thing, ask, thing, wide)
-                self.found(NoTerm, thing, ask, wide, thing)
-            self.found(Unlike, other, ask, wide, other)
-            self.found(Unlike, wide, ask, other, wide)
-            self.refused(TooGreat, "many", 17, ask, wide, term("c"))
-            self.refused(TooGreat, "many", 17, ask, term("c"), wide)
-            self.refused(TooGreat, "many", 17, ask, wide, term("g " * 20 + "c"))
-            self.refused(TooGreat, "many", 9999, ask, great("A", 9999), wide)
+            self.refuses_two(ask)
 
     def test_sixteen_signs_are_not_too_many(self):
-        self.assertEqual([len(term(SIXTEEN)), len(term(SEVENTEEN))], [16, 17])
-        self.assertEqual(meeting(term(SIXTEEN), term(SIXTEEN))[0], term(SIXTEEN).normal())
+        self.assertEqual(meeting(self.sixteen(), self.sixteen())[0], self.sixteen().normal())
 
 
 class Stays(Case):

@@ -4,19 +4,17 @@ import itertools
 import unittest
 
 from termshelf.apart import shows_apart, why_apart
-from termshelf.errors import NoTerm, NoWay, TooGreat, Unlike
+from termshelf.errors import NoWay
 from termshelf.nomatch import shows_no_variant, shows_not, shows_unlike, why_no_variant, why_not, why_unlike
 from termshelf.puttings import matched
-from termshelf.terms import Term, variants
+from termshelf.terms import variants
 from tests import plain
-from tests.samples import LIKE, OTHER, WIDE, WORDS, Case, Chance, any_things, great, marked, term, terms_of, things_but
+from tests.samples import LIKE, OTHER, Case, Chance, any_things, marked, term, terms_of, things_but
 from tests.touched import touched
 
 ALL = terms_of(4)
 SOME = terms_of(3)
 WAYS = ["instances", "above", "meets", "variants"]
-SIXTEEN = "f " * 7 + "A " * 7 + "g A"
-SEVENTEEN = "f " * 8 + "A " * 8 + "A"
 # Each asks of a way, a first and a second term.
 ASKS = {
     "instances": (why_unlike, shows_unlike),
@@ -55,8 +53,7 @@ class Unalike(Case):
     def test_terms_by_chance(self):
         chance = Chance(6)
         for _ in range(600):
-            letters = chance.one_of([["A"], ["A", "B"], ["A", "B", "C", "N0"]])
-            ask, kept = [term(chance.text(WIDE, 16, letters), WIDE) for _ in range(2)]
+            ask, kept = chance.pair()
             told = why_unlike(ask, kept)
             self.assertEqual(repr(told), repr(plain.first_bar(plain.tree(ask), plain.tree(kept))))
             self.told(told is not None, shows_unlike(ask, kept, told))
@@ -182,22 +179,12 @@ class Refusals(Case):
             self.found(NoWay, thing, shows_not, thing, term("A"), term("A", OTHER), ("unlike", ()))
 
     def test_terms_in_their_order(self):
-        other, wide = term("A", OTHER), term(SEVENTEEN)
         for ask in self.asks():
-            for thing in things_but(Term):
-                self.found(NoTerm, thing, ask, thing, None)
-                self.found(NoTerm, thing, ask, thing, wide)
-                self.found(NoTerm, thing, ask, wide, thing)
-            self.found(Unlike, other, ask, wide, other)
-            self.found(Unlike, wide, ask, other, wide)
-            self.refused(TooGreat, "many", 17, ask, wide, term("c"))
-            self.refused(TooGreat, "many", 17, ask, term("c"), wide)
-            self.refused(TooGreat, "many", 17, ask, wide, great("A", 9999))
-            self.refused(TooGreat, "many", 9999, ask, great("A", 9999), wide)
+            self.refuses_two(ask)
 
     def test_sixteen_signs_are_not_too_many(self):
         for way in WAYS:
-            self.assertIsNone(why_not(way, term(SIXTEEN), term(SIXTEEN)))
+            self.assertIsNone(why_not(way, self.sixteen(), self.sixteen()))
 
 
 class Stays(Case):
@@ -209,7 +196,6 @@ class Stays(Case):
                 self.assertEqual(shows_not(way, one, other, thing), shows_not(way, one, other, thing))
                 self.assertEqual(why_not(way, one, other), why_not(way, one, other))
             self.assertEqual(marked([one, other, thing]), before)
-        self.assertEqual(WORDS, LIKE)
 
 
 if __name__ == "__main__":

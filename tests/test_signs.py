@@ -2,7 +2,7 @@
 
 import unittest
 
-from termshelf.errors import NotThere, NoWords
+from termshelf.errors import NoWords, NotThere
 from termshelf.signs import Words
 from tests.samples import LAST, LIKE, OTHER, ROWS, WORDS, Case, any_things
 

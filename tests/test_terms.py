@@ -4,8 +4,8 @@ import itertools
 import unittest
 
 from termshelf import terms
-from termshelf.errors import Beyond, NoList, NoNumber, NoSign, NoSigns, NoSpot, NoTerm, NoTruth, NoWords
-from termshelf.errors import Unended, Unlike
+from termshelf.errors import Beyond, NoList, NoNumber, NoSign, NoSigns, NoSpot, NoTerm, NoTruth, NoWords, Unended
+from termshelf.errors import Unlike
 from termshelf.signs import Words
 from termshelf.terms import Term, ahead, in_order, term_of, variants
 from tests import plain
