@@ -34,9 +34,13 @@ def is_name(thing):
 
 
 def is_letter(thing):
-    if not isinstance(thing, str) or not 1 <= len(thing) <= _MOST_LETTER:
+    if not isinstance(thing, str) or not 1 <= len(thing) <= _MOST_LETTER or thing[0] not in _CAPITALS:
         return False
-    return thing[0] in _CAPITALS and (len(thing) == 1 or number_in(thing[1:], high=_MOST_BEHIND) is not None)
+    return len(thing) == 1 or _is_figures(thing[1:])
+
+
+def _is_figures(text):
+    return _consists_of(text, _FIGURES) and (text[0] != "0" or len(text) == 1)
 
 
 def is_spot(thing):
@@ -45,13 +49,15 @@ def is_spot(thing):
     return all([is_whole(number, 0, _MOST_PART) for number in thing])
 
 
+def rank_among_letters(letter):
+    """The rank of what is known to be a letter; without a number it is shorter, which Python puts ahead."""
+    return (letter,) if len(letter) == 1 else (letter[0], int(letter[1:]))
+
+
 def letter_rank(letter):
-    """A letter without a number has the shorter tuple, which Python puts ahead of the longer ones."""
     if not is_letter(letter):
         raise NoLetter(letter)
-    if len(letter) == 1:
-        return (letter,)
-    return (letter[0], int(letter[1:]))
+    return rank_among_letters(letter)
 
 
 def normal_letter(number):
@@ -61,9 +67,7 @@ def normal_letter(number):
 
 
 def _is_plain(thing):
-    if not isinstance(thing, str) or not 1 <= len(thing) <= _MOST_FIGURES:
-        return False
-    return _consists_of(thing, _FIGURES) and (thing[0] != "0" or len(thing) == 1)
+    return isinstance(thing, str) and 1 <= len(thing) <= _MOST_FIGURES and _is_figures(thing)
 
 
 def number_in(thing, *, low=0, high=MOST_PLAIN):

@@ -1,6 +1,6 @@
 """Why one term is no instance of another, why two are no variants, and the like by a way of asking."""
 
-from termshelf.apart import shows_apart, why_apart
+from termshelf.apart import paper_apart, shows_apart
 from termshelf.errors import NoWay
 from termshelf.terms import need_two_small
 
@@ -14,15 +14,21 @@ def need_way(thing):
 
 def _bar(ask, kept):
     """The first bar, of terms that were looked at already."""
+    table = ask.words().table()
+    signs, ends = kept.signs(), kept.ends()
     first = {}
-    for spot, sign in zip(ask.spots(), ask.signs()):
-        if ask.words().has(sign):
-            if kept.head_at(spot) != sign:
-                return ("unlike", spot)
-        elif sign not in first:
-            first[sign] = spot
-        elif kept.part_at(first[sign]) != kept.part_at(spot):
-            return ("two", first[sign], spot)
+    at = 0
+    for number, sign in enumerate(ask.signs()):
+        if sign in table:
+            if signs[at] != sign:
+                return ("unlike", ask.spot_from(number))
+            at += 1
+        else:
+            part = signs[at:ends[at]]
+            ahead = first.setdefault(sign, (number, part))
+            if ahead[1] != part:
+                return ("two", ask.spot_from(ahead[0]), ask.spot_from(number))
+            at = ends[at]
     return None
 
 
@@ -64,9 +70,9 @@ def shows_unlike(ask, kept, thing):
 
 def why_no_variant(one, other):
     need_two_small(one, other)
-    for spot, left, right in zip(one.spots(), one.normal().signs(), other.normal().signs()):
+    for at, (left, right) in enumerate(zip(one.normal_signs(), other.normal_signs())):
         if left != right:
-            return ("unlike", spot, left, right)
+            return ("unlike", one.spot_from(at), left, right)
     return None
 
 
@@ -86,7 +92,7 @@ def why_not(way, ask, kept):
     if way == "above":
         return _bar(kept, ask)
     if way == "meets":
-        return why_apart(ask, kept)
+        return paper_apart(ask, kept)
     return why_no_variant(ask, kept)
 
 

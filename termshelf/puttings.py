@@ -1,17 +1,16 @@
 """Puttings of terms in the place of letters, instances, and meetings."""
 
 from termshelf.errors import NoLetter, NoPairs, NoPutting, TooGreat
-from termshelf.marks import is_letter, letter_rank
-from termshelf.reckoning import Reckoning
-from termshelf.signs import need_words
+from termshelf.marks import is_letter, rank_among_letters
+from termshelf.signs import need_words, with_normal_letters
 from termshelf.terms import MOST_TOLD, Term, made_term, need_like, need_term, need_two, need_two_small
+from termshelf.uniting import Uniting
 
 _MOST_PAIRS = 100
 
 
 def _in_letter_order(letters):
-    unlike = {letter: True for letter in letters}
-    return sorted(list(unlike), key=letter_rank)
+    return sorted(letters, key=rank_among_letters)
 
 
 def _are_pairs(thing):
@@ -57,19 +56,26 @@ class Putting:
     def put(self, term):
         need_term(term)
         need_like(self._words, term)
+        return self._put_into(term.signs())
+
+    def _put_into(self, signs):
+        given = {sign: self._terms[sign].signs() for sign in {sign: True for sign in signs} if sign in self._terms}
         # Counted ahead, as the signs themselves may be far too many to be written down.
-        many = sum([len(self._terms[sign]) if sign in self._terms else 1 for sign in term.signs()])
+        many = sum([len(given[sign]) if sign in given else 1 for sign in signs])
         if many > MOST_TOLD:
             raise TooGreat(many)
-        signs = []
-        for sign in term.signs():
-            signs.extend(self._terms[sign].signs() if sign in self._terms else [sign])
-        return made_term(self._words, signs)
+        told = []
+        for sign in signs:
+            if sign in given:
+                told.extend(given[sign])
+            else:
+                told.append(sign)
+        return made_term(self._words, told)
 
     def then(self, other):
         need_putting(other)
         need_like(self._words, other)
-        letters = _in_letter_order(self.letters() + other.letters())
+        letters = _in_letter_order(list({**self._terms, **other._terms}))
         return _made_putting(self._words, {letter: other.put(self.given(letter)) for letter in letters})
 
     def pairs(self):
@@ -79,7 +85,7 @@ class Putting:
 def _made_putting(words, terms):
     """A putting of terms that are known to be right: what is told may have more letters than what is handed in."""
     made = Putting(words)
-    made._terms = dict(terms)
+    made._terms = terms
     return made
 
 
@@ -90,20 +96,24 @@ def need_putting(thing):
 
 def _filled(ask, kept, terms):
     """What letters must become, some being given, that the ask becomes the kept term; None where it can't."""
+    places = ask.words().table()
     filled = dict(terms)
     signs = kept.signs()
     at = 0
     for sign in ask.signs():
-        if ask.words().has(sign):
+        if sign in places:
             if signs[at] != sign:
                 return None
             at += 1
-        else:
-            part = kept.part_from(at)
-            if sign in filled and filled[sign] != part:
+        elif sign in filled:
+            # Where one term's signs stand no other term begins, so its end needn't be looked for.
+            given = filled[sign].signs()
+            if signs[at:at + len(given)] != given:
                 return None
-            filled[sign] = part
-            at += len(part)
+            at += len(given)
+        else:
+            filled[sign] = kept.part_from(at)
+            at += len(filled[sign])
     return filled
 
 
@@ -122,13 +132,23 @@ def letters_themselves(term):
     return _made_putting(words, {letter: made_term(words, [letter]) for letter in term.letters()})
 
 
+def _becoming(words, become, table):
+    """The putting of what letters become, told by signs, by a table that has normal letters for all of theirs."""
+    terms = {letter: made_term(words, [table[sign] for sign in become[letter]]) for letter in become}
+    return _made_putting(words, terms)
+
+
 def met(one, other):
     """The meeting of two terms that were looked at already."""
-    signs = Reckoning(one, other).whole()
+    uniting = Uniting(one, other)
+    signs = uniting.whole()
     if signs is None:
         return None
-    whole = made_term(one.words(), signs).normal()
-    return (whole, matched(one, whole), matched(other, whole))
+    words = one.words()
+    whole = with_normal_letters(words.table(), signs)
+    table = {old: new for old, new in zip(signs, whole)}
+    left, right = [_becoming(words, uniting.becoming(side), table) for side in (0, 1)]
+    return (made_term(words, whole), left, right)
 
 
 def meeting(one, other):
@@ -140,8 +160,12 @@ def _gives(thing, term, whole):
     """Whether a thing is a putting of just a term's letters that gives, put into it, a whole of the same words."""
     if not isinstance(thing, Putting) or thing.words() != term.words():
         return False
+    pairs = thing.pairs()
+    letters = term.letters()
+    if len(pairs) != len(letters) or not all([letter in pairs for letter in letters]):
+        return False
     # Not put in, as what comes might be too great to be told.
-    return set(thing.letters()) == set(term.letters()) and _filled(term, whole, thing.pairs()) is not None
+    return _filled(term, whole, pairs) is not None
 
 
 def shows_meeting(one, other, whole, left, right):

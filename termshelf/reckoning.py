@@ -1,6 +1,4 @@
-"""A reckoning of two terms: which of their parts must become the same, row by row, and whether they can."""
-
-from termshelf.signs import sign_places
+"""A reckoning of two terms that don't meet: which of their parts must become the same, row by row, until they can't."""
 
 # By the word of a why: how long it is, and how many numbers of rows ahead stand just behind the word.
 WHY_LONG = {"over": 1, "letter": 1, "turned": 2, "joined": 3, "part": 3}
@@ -16,7 +14,7 @@ class Reckoning:
     """
 
     def __init__(self, one, other):
-        self._words = one.words()
+        self._table = one.words().table()
         self._signs = one.signs() + other.signs()
         self._places = [(0, spot) for spot in one.spots()] + [(1, spot) for spot in other.spots()]
         self._numbers = {place: number for number, place in enumerate(self._places)}
@@ -24,10 +22,10 @@ class Reckoning:
         self._roots = list(range(len(self._signs)))
         self._ways = [None] * len(self._signs)
         self._members = [[number] for number in self._roots]
-        self._bearers = [number if self._words.has(sign) else None for number, sign in enumerate(self._signs)]
+        self._bearers = [number if sign in self._table else None for number, sign in enumerate(self._signs)]
         self._todo = self._firsts()
         self._clash = self._closed()
-        self._whole = {} if self._clash is not None else self._wholes()
+        self._ended = {} if self._clash is not None else self._ending()
 
     def _firsts(self):
         """What must become the same from the beginning: parts at one spot, and letters of one side."""
@@ -39,7 +37,7 @@ class Reckoning:
             sign = self._signs[number]
             if (side, sign) in first:
                 pairs.append((number, first[(side, sign)], ("letter",)))
-            elif not self._words.has(sign):
+            elif sign not in self._table:
                 first[(side, sign)] = number
         return pairs
 
@@ -63,7 +61,7 @@ class Reckoning:
         return [(self._part(a, k), self._part(b, k), ("part", row, k)) for k in range(self._many_parts(a))]
 
     def _many_parts(self, number):
-        return sign_places(self._words, self._signs[number])
+        return self._table.get(self._signs[number], 0)
 
     def _part(self, number, k):
         side, spot = self._places[number]
@@ -122,29 +120,21 @@ class Reckoning:
     def _class_roots(self):
         return [number for number, root in enumerate(self._roots) if number == root]
 
-    def _wholes(self):
-        """The signs of what each class becomes, by its root; none of a class from which parts lead round a ring."""
-        wholes = {}
+    def _ending(self):
+        """The roots of the classes from which parts lead to an end, and not round a ring."""
+        ended = {}
         growing = True
         while growing:
             growing = False
             for root in self._class_roots():
-                parts = self._part_roots(root)
-                if root not in wholes and all([part in wholes for part in parts]):
-                    wholes[root] = self._whole_of(root, [wholes[part] for part in parts])
+                if root not in ended and all([part in ended for part in self._part_roots(root)]):
+                    ended[root] = True
                     growing = True
-        return wholes
-
-    def _whole_of(self, root, parts):
-        bearer = self._bearers[root]
-        signs = [f"N{root}" if bearer is None else self._signs[bearer]]
-        for part in parts:
-            signs.extend(part)
-        return signs
+        return ended
 
     def _ring(self):
         """Pairs (part, bearer) of a class each; the next one's part is one of the bearer's, round and round."""
-        root = [number for number in self._class_roots() if number not in self._whole][0]
+        root = [number for number in self._class_roots() if number not in self._ended][0]
         seen = []
         while root not in seen:
             seen.append(root)
@@ -155,7 +145,7 @@ class Reckoning:
     def _endless_part(self, root):
         bearer = self._bearers[root]
         parts = [self._part(bearer, k) for k in range(self._many_parts(bearer))]
-        return [part for part in parts if self._roots[part] not in self._whole][0]
+        return [part for part in parts if self._roots[part] not in self._ended][0]
 
     def _turns(self):
         """Turns of the ring, each a row and the number of the part to which it leads."""
@@ -186,20 +176,11 @@ class Reckoning:
         numbers = {row: number for number, row in enumerate(needed)}
         return [self._told_row(row, numbers) for row in needed], numbers
 
-    def _meets(self):
-        return len(self._whole) == len(self._class_roots())
-
     def paper(self):
-        """The paper that both don't meet, None where they meet."""
-        if self._meets():
-            return None
+        """The paper that both don't meet: a clash, or else a ring."""
         if self._clash is not None:
             rows, _ = self._told_rows([self._clash])
             return ("clash", rows)
         turns = self._turns()
         rows, numbers = self._told_rows([row for row, _ in turns])
         return ("ring", rows, [(numbers[row], self._places[part][1]) for row, part in turns])
-
-    def whole(self):
-        """The signs of what both become, with any letters, None where they don't meet."""
-        return list(self._whole[self._roots[0]]) if self._meets() else None

@@ -26,6 +26,7 @@ class Words:
         self._rows = tuple(rows)
         self._places = {row[0]: row[1] for row in rows}
         self._order = {row[0]: number for number, row in enumerate(rows)}
+        self._ranks = {name: (1, self._order[name]) for name in self._order}
 
     def names(self):
         return [row[0] for row in self._rows]
@@ -55,6 +56,14 @@ class Words:
     def __repr__(self):
         return f"Words({str(self)!r})"
 
+    def table(self):
+        """The places by the names: the very dict by which all signs are looked up, to be read alone."""
+        return self._places
+
+    def ranks(self):
+        """The ranks of the names among signs, to be read alone."""
+        return self._ranks
+
 
 def need_words(thing):
     if not isinstance(thing, Words):
@@ -63,15 +72,58 @@ def need_words(thing):
 
 def sign_places(words, sign):
     """How many terms stand behind a sign as its parts; behind a letter there are none."""
-    return words.places(sign) if words.has(sign) else 0
+    return words.table().get(sign, 0)
 
 
-def term_ends(words, signs):
+def term_ends(places, signs):
     """For each sign of a term the place behind the part that begins with it."""
-    ends = [0] * len(signs)
+    ends = list(range(1, len(signs) + 1))
     for at in reversed(range(len(signs))):
-        end = at + 1
-        for _ in range(sign_places(words, signs[at])):
-            end = ends[end]
-        ends[at] = end
+        sign = signs[at]
+        if sign in places:
+            end = at + 1
+            many = places[sign]
+            while many > 0:
+                end = ends[end]
+                many -= 1
+            ends[at] = end
     return ends
+
+
+def part_end(places, signs, at):
+    """The place behind the part that begins at one place, found without those of all the others."""
+    lacking = 1
+    while lacking > 0:
+        sign = signs[at]
+        lacking += places[sign] - 1 if sign in places else -1
+        at += 1
+    return at
+
+
+def letters_among(places, signs):
+    """The unlike letters among signs, as they first come."""
+    return [sign for sign in {sign: True for sign in signs} if sign not in places]
+
+
+def with_normal_letters(places, signs):
+    """The signs with the letters N0, N1, .. in the place of theirs, as they first come."""
+    told = {sign: sign for sign in signs}
+    number = 0
+    for sign in list(told):
+        if sign not in places:
+            told[sign] = f"N{number}"
+            number += 1
+    return [told[sign] for sign in signs]
+
+
+def sign_ranks(ranks, signs):
+    """The ranks of the normal form's signs."""
+    told = {sign: True for sign in signs}
+    number = 0
+    for sign in list(told):
+        if sign in ranks:
+            told[sign] = ranks[sign]
+        else:
+            told[sign] = (0, number)
+            number += 1
+    return tuple([told[sign] for sign in signs])

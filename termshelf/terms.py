@@ -3,7 +3,7 @@
 from termshelf.errors import Beyond, NoList, NoNumber, NoSign, NoSigns, NoSpot, NoTerm, NoTruth
 from termshelf.errors import TooGreat, Unended, Unlike
 from termshelf.marks import is_letter, is_list, is_whole, words_in
-from termshelf.signs import need_words, sign_places, term_ends
+from termshelf.signs import letters_among, need_words, part_end, sign_ranks, term_ends, with_normal_letters
 
 MOST_SIGNS = 100
 MOST_TOLD = 9999
@@ -16,47 +16,59 @@ def _are_texts(thing, most):
     return is_list(thing, 1, most) and all([isinstance(sign, str) for sign in thing])
 
 
-def _need_one_term(words, signs):
+def _lacks(places, signs):
+    """By each unlike sign, how many more terms lack behind it than ahead of it; refused is the first bad one."""
+    lacks = {}
+    for sign in {sign: True for sign in signs}:
+        if sign in places:
+            lacks[sign] = places[sign] - 1
+        elif is_letter(sign):
+            lacks[sign] = -1
+        else:
+            raise NoSign(list(signs).index(sign))
+    return lacks
+
+
+def _need_one_term(places, signs):
     """Refuse signs that are none, that go on behind the end of a term, or that end ahead of it."""
-    for at, sign in enumerate(signs):
-        if not is_letter(sign) and not words.has(sign):
-            raise NoSign(at)
+    lacks = _lacks(places, signs)
     lacking = 1
     for at, sign in enumerate(signs):
         if lacking == 0:
             raise Beyond(at)
-        lacking += sign_places(words, sign) - 1
+        lacking += lacks[sign]
     if lacking > 0:
         raise Unended(lacking)
 
 
-def _normal_signs(words, signs):
-    letters = {}
-    for sign in signs:
-        if not words.has(sign) and sign not in letters:
-            letters[sign] = f"N{len(letters)}"
-    return [letters.get(sign, sign) for sign in signs]
+def _looked_over(words, signs, most):
+    """The signs as a list of their own, where they are those of a term."""
+    need_words(words)
+    if not is_whole(most, 1, MOST_TOLD):
+        raise NoNumber(most)
+    if not _are_texts(signs, most):
+        raise NoSigns(signs)
+    _need_one_term(words.table(), signs)
+    return list(signs)
 
 
-def _sign_rank(words, sign):
-    if words.has(sign):
-        return (1, words.place_of(sign))
-    return (0, int(sign[1:]))
+class Known:
+    """Signs that are known to be those of a term, so that they aren't looked over anew."""
+
+    def __init__(self, signs):
+        self._signs = signs
 
 
 class Term:
     """A term; it never changes."""
 
     def __init__(self, words, signs, *, most=MOST_SIGNS):
-        need_words(words)
-        if not is_whole(most, 1, MOST_TOLD):
-            raise NoNumber(most)
-        if not _are_texts(signs, most):
-            raise NoSigns(signs)
-        _need_one_term(words, signs)
+        self._signs = signs._signs if isinstance(signs, Known) else _looked_over(words, signs, most)
         self._words = words
-        self._signs = list(signs)
-        self._ends = term_ends(words, signs)
+        # These are found when they are first asked for, as most terms are never asked for them.
+        self._ends = None
+        self._normal = None
+        self._rank = None
 
     def words(self):
         return self._words
@@ -71,16 +83,21 @@ class Term:
         return [self.part_from(start) for start in self._starts(0)]
 
     def spots(self):
+        places = self._words.table()
+        ends = self._found_ends()
         spots = [()] * len(self._signs)
-        for at in range(len(self._signs)):
-            for number, start in enumerate(self._starts(at)):
-                spots[start] = spots[at] + (number,)
+        for at, sign in enumerate(self._signs):
+            if sign in places:
+                start = at + 1
+                for number in range(places[sign]):
+                    spots[start] = spots[at] + (number,)
+                    start = ends[start]
         return spots
 
     def deep(self):
         deepest = 0
         around = []
-        for at, end in enumerate(self._ends):
+        for at, end in enumerate(self._found_ends()):
             while around and around[-1] <= at:
                 around.pop()
             deepest = max(deepest, len(around))
@@ -88,7 +105,7 @@ class Term:
         return deepest
 
     def letters(self):
-        return list({sign: True for sign in self._signs if not self._words.has(sign)})
+        return letters_among(self._words.table(), self._signs)
 
     def __len__(self):
         return len(self._signs)
@@ -103,7 +120,7 @@ class Term:
         at = self._need_place(spot)
         need_term(term)
         need_like(self._words, term)
-        return made_term(self._words, self._signs[:at] + term._signs + self._signs[self._ends[at]:])
+        return made_term(self._words, self._signs[:at] + term._signs + self._signs[self._end(at):])
 
     def __eq__(self, other):
         return isinstance(other, Term) and self._signs == other._signs and self._words == other._words
@@ -115,29 +132,61 @@ class Term:
         return f"Term({str(self)!r})"
 
     def normal(self):
-        return made_term(self._words, _normal_signs(self._words, self._signs))
+        told = made_term(self._words, self._found_normal())
+        told._normal = self._normal
+        return told
 
     def is_normal(self):
-        return self._signs == _normal_signs(self._words, self._signs)
+        return self._signs == self._found_normal()
 
     def rank(self):
-        return tuple([_sign_rank(self._words, sign) for sign in _normal_signs(self._words, self._signs)])
+        if self._rank is None:
+            self._rank = sign_ranks(self._words.ranks(), self._signs)
+        return self._rank
+
+    def normal_signs(self):
+        return list(self._found_normal())
 
     def part_from(self, at):
         """The part whose signs begin at a place among the signs."""
-        return made_term(self._words, self._signs[at:self._ends[at]])
+        return made_term(self._words, self._signs[at:self._end(at)])
+
+    def ends(self):
+        """For each sign the place behind the part that begins with it."""
+        return list(self._found_ends())
 
     def place_at(self, spot):
         """At which place among the signs the part at a spot begins, None of any thing that is no spot."""
         if not isinstance(spot, tuple):
             return None
+        places = self._words.table()
+        ends = self._found_ends()
         at = 0
         for number in spot:
-            starts = self._starts(at)
-            if not is_whole(number, 0, len(starts) - 1):
+            if not isinstance(number, int) or isinstance(number, bool):
                 return None
-            at = starts[number]
+            if not 0 <= number < places.get(self._signs[at], 0):
+                return None
+            at += 1
+            passed = 0
+            while passed < number:
+                at = ends[at]
+                passed += 1
         return at
+
+    def spot_from(self, place):
+        """The spot of the part whose signs begin at a place among the signs."""
+        ends = self._found_ends()
+        spot = []
+        at = 0
+        while at < place:
+            at += 1
+            number = 0
+            while ends[at] <= place:
+                at = ends[at]
+                number += 1
+            spot.append(number)
+        return tuple(spot)
 
     def _need_place(self, spot):
         at = self.place_at(spot)
@@ -147,20 +196,31 @@ class Term:
 
     def _starts(self, at):
         """The places at which the parts of the part that begins at a place begin."""
+        ends = self._found_ends()
         starts = []
         start = at + 1
-        while start < self._ends[at]:
+        while start < ends[at]:
             starts.append(start)
-            start = self._ends[start]
+            start = ends[start]
         return starts
+
+    def _found_ends(self):
+        if self._ends is None:
+            self._ends = term_ends(self._words.table(), self._signs)
+        return self._ends
+
+    def _end(self, at):
+        return part_end(self._words.table(), self._signs, at) if self._ends is None else self._ends[at]
+
+    def _found_normal(self):
+        if self._normal is None:
+            self._normal = with_normal_letters(self._words.table(), self._signs)
+        return self._normal
 
 
 def made_term(words, signs):
-    """A term of signs that are known to be one: what is told may be larger than what may be handed in."""
-    made = Term(words, ["A"])
-    made._signs = list(signs)
-    made._ends = term_ends(words, signs)
-    return made
+    """A term of a list of signs that are known to be one, and that nothing changes: it may be larger than others."""
+    return Term(words, Known(signs))
 
 
 def need_term(thing):
@@ -202,7 +262,7 @@ def ahead(one, other):
 
 def variants(one, other):
     need_two(one, other)
-    return one.normal() == other.normal()
+    return len(one) == len(other) and one.normal_signs() == other.normal_signs()
 
 
 def in_order(terms, *, falling=False):
@@ -210,7 +270,8 @@ def in_order(terms, *, falling=False):
         raise NoList(terms)
     for term in terms:
         need_term(term)
-        need_like(terms[0].words(), term)
+        if term.words() != terms[0].words():
+            raise Unlike(term)
     if not isinstance(falling, bool):
         raise NoTruth(falling)
     if falling:
