@@ -116,6 +116,11 @@ def with_normal_letters(places, signs):
     return [told[sign] for sign in signs]
 
 
+def sign_rank(ranks, sign):
+    """The rank of one sign of a normal form."""
+    return ranks[sign] if sign in ranks else (0, int(sign[1:]))
+
+
 def sign_ranks(ranks, signs):
     """The ranks of the normal form's signs."""
     told = {sign: True for sign in signs}

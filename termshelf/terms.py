@@ -234,17 +234,31 @@ def need_like(words, thing):
         raise Unlike(thing)
 
 
+def need_term_of(words, thing):
+    need_term(thing)
+    need_like(words, thing)
+
+
+def _need_few_signs(term):
+    if len(term) > MOST_SMALL:
+        raise TooGreat(len(term))
+
+
+def need_small(words, thing):
+    """Refuse what is no term of some words that may be kept, asked with or met."""
+    need_term_of(words, thing)
+    _need_few_signs(thing)
+
+
 def need_two(one, other):
     need_term(one)
-    need_term(other)
-    need_like(one.words(), other)
+    need_term_of(one.words(), other)
 
 
 def need_two_small(one, other):
     need_two(one, other)
-    for term in (one, other):
-        if len(term) > MOST_SMALL:
-            raise TooGreat(len(term))
+    _need_few_signs(one)
+    _need_few_signs(other)
 
 
 def term_of(words, text):

@@ -45,6 +45,13 @@ def put(tree, pairs):
     return (tree[0],) + tuple([put(part, pairs) for part in tree[1:]])
 
 
+def put_each(tree, become):
+    """A function's text for each letter, also for one that comes again."""
+    if isinstance(tree, str):
+        return become(tree)
+    return (tree[0],) + tuple([put_each(part, become) for part in tree[1:]])
+
+
 def letters_of(tree):
     return list(dict.fromkeys(part for part in parts_of(tree).values() if isinstance(part, str)))
 

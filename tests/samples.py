@@ -6,8 +6,14 @@ import unittest
 
 from termshelf import errors
 from termshelf.answers import answer_of
+from termshelf.handing import Handing
 from termshelf.puttings import Putting
+from termshelf.putshelf import PutShelf
+from termshelf.puttree import PutNode
+from termshelf.shelves import PlainShelf, Shelf
 from termshelf.signs import Words
+from termshelf.signshelf import SignShelf
+from termshelf.signtree import SignTree
 from termshelf.terms import Term
 
 ROWS = [("f", 2), ("g", 1), ("c", 0)]
@@ -26,6 +32,20 @@ def term(text, words=WORDS, most=9999):
 def putting(pairs, words=WORDS):
     """A putting of a dict of texts."""
     return Putting(words, {letter: term(text, words) for letter, text in pairs.items()})
+
+
+WAYS = ["instances", "above", "meets", "variants"]
+KINDS = [PlainShelf, SignShelf, PutShelf]
+
+
+def shelf_of(kind, rows, words=WORDS, most=40):
+    """A shelf with terms and notes: texts like `f A c : one two`."""
+    told = kind(words, most=most)
+    for row in rows:
+        text, notes = row.split(" : ")
+        for note in notes.split(" "):
+            told.put(term(text, words), note)
+    return told
 
 
 def great_signs(letter, many):
@@ -59,6 +79,8 @@ def any_things():
         ("f", True), ("clash", []), ("ring", [], []), ("unlike", ()), ("over",), ["x"] * 100, ("x",) * 110,
         nested(8), WORDS, OTHER, term("A"), term("f A g c"), term("A", OTHER), putting({}), putting({"A": "c"}),
         putting({}, OTHER), answer_of("meets", term("A"), term("c"), ["one"]), errors.NoTerm(None), errors.NoMore(),
+        shelf_of(PlainShelf, ["A : one"]), SignShelf(OTHER), PutShelf(WORDS), SignTree(WORDS, [term("A")]),
+        PutNode([term("A")]), Handing(PlainShelf(WORDS), "meets", term("A")),
     ]
 
 
@@ -73,6 +95,11 @@ def marked(thing):
         return (type(thing).__name__, [marked(part) for part in thing])
     if isinstance(thing, dict):
         return ("dict", [(repr(key), marked(part)) for key, part in thing.items()])
+    if isinstance(thing, Shelf):
+        kept = [(str(kept), thing.notes(kept)) for kept in thing.terms()]
+        return (type(thing).__name__, thing.most(), kept, thing.changes(), thing.log())
+    if isinstance(thing, Handing):
+        return (type(thing).__name__, thing.left(), thing.given())
     return (type(thing).__name__, str(thing))
 
 

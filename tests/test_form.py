@@ -9,7 +9,7 @@ import unittest
 PACKAGE = pathlib.Path(__file__).resolve().parent.parent / "termshelf"
 BUILTINS = """
     len range enumerate zip min max sum abs sorted reversed int str bool list tuple dict set isinstance ord
-    repr any all divmod ValueError KeyError LookupError super
+    repr any all divmod ValueError KeyError LookupError NotImplementedError super
 """.split()
 METHODS = """
     append clear copy count endswith extend find get index insert isalnum isalpha isdigit islower isspace
@@ -27,7 +27,7 @@ BARRED_WORDS = """
     namedtuple NamedTuple TypedDict TYPE_CHECKING abstractmethod
 """.split()
 BARRED_NODES = (ast.Global, ast.AsyncFunctionDef, ast.AsyncFor, ast.AsyncWith, ast.Await, ast.GeneratorExp, ast.Yield,
-                ast.YieldFrom, ast.Div, ast.AnnAssign, ast.Import, ast.Try, ast.With, ast.Match)
+                ast.YieldFrom, ast.Div, ast.AnnAssign, ast.Import, ast.With, ast.Match)
 
 
 def files():
@@ -77,6 +77,14 @@ class Statements(unittest.TestCase):
             for node in tree.body[1:]:
                 self.assertIsInstance(node, (ast.ImportFrom, ast.FunctionDef, ast.ClassDef, ast.Assign), path)
             self.assertIsNotNone(ast.get_docstring(tree), path)
+
+    def test_own_errors_alone_are_caught(self):
+        errors = [node.name for path, node in nodes(ast.ClassDef) if path.name == "errors.py"]
+        for path, node in nodes(ast.Try):
+            self.assertEqual(node.finalbody, [], (path, node.lineno))
+            for handler in node.handlers:
+                caught = handler.type.elts if isinstance(handler.type, ast.Tuple) else [handler.type]
+                self.assertLessEqual({name.id for name in caught}, set(errors), (path, node.lineno))
 
     def test_comparing_by_is(self):
         for path, node in nodes(ast.Compare):

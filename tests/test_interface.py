@@ -16,8 +16,15 @@ FUNCTIONS = {
     "nomatch": ["why_unlike(ask, kept)", "shows_unlike(ask, kept, thing)", "why_no_variant(one, other)",
                 "shows_no_variant(one, other, thing)", "why_not(way, ask, kept)", "shows_not(way, ask, kept, thing)"],
     "answers": ["answer_of(way, ask, kept, notes)"],
+    "puttree": ["is_pattern(words, thing)", "fits(pattern, term)", "common_part(terms)",
+                "filled(words, pattern, fills)"],
+    "putbars": ["bar_of(words, pattern, way, term)", "shows_bar(words, pattern, way, term, thing)"],
+    "handing": ["teller(shelf, way, *, limit=None)"],
+    "joined": ["told_by(shelf, ask)", "pushed(ask)", "why_told(shelf, term, ask)"],
 }
 SHOWN = ["__eq__(self, other)", "__str__(self)", "__repr__(self)"]
+KIND = ["index_put(self, term)", "index_take(self, term)", "empty_one(self)", "candidates(self, way, term)",
+        "walk(self, way, term)", "steps(self, way, term)"]
 CLASSES = {
     ("signs", "Words(rows)"): ["names(self)", "places(self, name)", "place_of(self, name)", "has(self, thing)",
                                "__len__(self)"] + SHOWN,
@@ -29,8 +36,27 @@ CLASSES = {
         "words(self)", "letters(self)", "given(self, letter)", "put(self, term)", "then(self, other)",
         "__len__(self)"] + SHOWN,
     ("answers", "Answer"): ["kept(self)", "notes(self)", "asked(self)", "keeping(self)", "whole(self)"] + SHOWN,
+    ("shelves", "Shelf(words, *, most=40)"): [
+        "put(self, term, note)", "take(self, term, note)", "words(self)", "most(self)", "terms(self)",
+        "notes(self, term)", "has(self, term)", "changes(self)", "__len__(self)", "copied(self)",
+        "ask(self, way, term, *, limit=None)",
+        "barred(self, way, term)", "need_ask(self, way, term)", "all_deeds(self, rows)", "log(self)"] + KIND + SHOWN,
+    ("shelves", "PlainShelf(words, *, most=40)"): KIND,
+    ("signtree", "SignTree(words, terms=())"): [
+        "put(self, term)", "take(self, term)", "nodes(self)", "has_node(self, thing)", "terms(self)",
+        "beneath(self, path)", "count_beneath(self, path)", "jumps(self, path)", "nested(self)", "__len__(self)",
+        "walk(self, way, term)",
+        "ends(self, way, term)"] + SHOWN,
+    ("signshelf", "SignShelf(words, *, most=40)"): KIND + ["tree(self)"],
+    ("puttree", "PutNode(terms)"): [
+        "words(self)", "terms(self)", "pattern(self)", "children(self)", "__len__(self)", "fills(self, number)",
+        "node_at(self, path)"] + SHOWN,
+    ("putshelf", "PutShelf(words, *, most=40)"): KIND + ["tree(self)", "nodes(self)"],
+    ("handing", "Handing(shelf, way, term, *, steady=True)"): [
+        "more(self)", "left(self)", "given(self)", "rest(self)", "begin_anew(self)"],
 }
-VALUES = {("marks", "MOST_PLAIN"): 9999, ("terms", "MOST_SIGNS"): 100}
+VALUES = {("marks", "MOST_PLAIN"): 9999, ("terms", "MOST_SIGNS"): 100, ("shelves", "MOST_KEPT"): 40,
+          ("puttree", "HOLE"): "?"}
 
 
 def module_of(name):

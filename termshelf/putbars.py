@@ -1,0 +1,151 @@
+"""What bars an ask from all terms that fit a pattern."""
+
+from termshelf.errors import NoList
+from termshelf.nomatch import need_way
+from termshelf.puttree import HOLE, is_pattern
+from termshelf.signs import part_end
+from termshelf.terms import MOST_SMALL, made_term, need_small
+from termshelf.uniting import Uniting
+
+
+def _bar_of_variants(pattern, ask):
+    signs, ends = ask.normal_signs(), ask.ends()
+    at = 0
+    for number, sign in enumerate(pattern.signs()):
+        if sign == HOLE:
+            at = ends[at]
+        elif signs[at] != sign:
+            return ("sign", pattern.spot_from(number))
+        else:
+            at += 1
+    return None
+
+
+def _bar_of_above(pattern, ask):
+    table = ask.words().table()
+    signs, ends = ask.signs(), ask.ends()
+    first = {}
+    at = 0
+    for number, sign in enumerate(pattern.signs()):
+        if sign in table:
+            if signs[at] != sign:
+                return ("sign", pattern.spot_from(number))
+            at += 1
+        else:
+            part = signs[at:ends[at]]
+            if sign != HOLE:
+                ahead = first.setdefault(sign, (number, part))
+                if ahead[1] != part:
+                    return ("letter", pattern.spot_from(ahead[0]), pattern.spot_from(number))
+            at = ends[at]
+    return None
+
+
+def _parts_clash(places, one, other):
+    """Whether two parts of patterns have unlike signs at a spot, both the same signs at all spots above it."""
+    at = beside = 0
+    while at < len(one):
+        if one[at] == HOLE or other[beside] == HOLE:
+            at = part_end(places, one, at)
+            beside = part_end(places, other, beside)
+        elif one[at] != other[beside]:
+            return True
+        else:
+            at += 1
+            beside += 1
+    return False
+
+
+def _bar_of_instances(pattern, ask):
+    table = ask.words().table()
+    signs, ends = pattern.signs(), pattern.ends()
+    asked, asked_ends = ask.signs(), ask.ends()
+    parts = {}
+    number = at = 0
+    while number < len(asked):
+        sign = asked[number]
+        if sign not in table:
+            part = signs[at:ends[at]]
+            earlier = parts.get(sign, [])
+            for ahead, other in earlier:
+                if _parts_clash(table, other, part):
+                    return ("letter", ask.spot_from(ahead), ask.spot_from(number))
+            parts[sign] = earlier + [(number, part)]
+            number, at = number + 1, ends[at]
+        elif signs[at] == HOLE:
+            # Of what the ask has beneath a hole the pattern has nothing.
+            number, at = asked_ends[number], at + 1
+        elif signs[at] != sign:
+            return ("sign", ask.spot_from(number))
+        else:
+            number, at = number + 1, at + 1
+    return None
+
+
+def _bar_of_meets(pattern, ask):
+    # No letter has a hole's sign, so with a number behind it each hole's is a letter of its own.
+    signs = [f"{HOLE}{at}" if sign == HOLE else sign for at, sign in enumerate(pattern.signs())]
+    return ("apart",) if Uniting(ask, made_term(ask.words(), signs)).whole() is None else None
+
+
+def first_bar(pattern, way, ask):
+    """The first bar, of a pattern and an ask that were looked at already."""
+    # As a term a pattern has its holes in the place of letters, which have no parts either.
+    whole = made_term(ask.words(), list(pattern))
+    if way == "variants":
+        return _bar_of_variants(whole, ask)
+    if way == "above":
+        return _bar_of_above(whole, ask)
+    if way == "instances":
+        return _bar_of_instances(whole, ask)
+    return _bar_of_meets(whole, ask)
+
+
+def _need_pattern_and_ask(words, pattern, way, term):
+    if not is_pattern(words, pattern) or len(pattern) > MOST_SMALL:
+        raise NoList(pattern)
+    need_way(way)
+    need_small(words, term)
+
+
+def bar_of(words, pattern, way, term):
+    _need_pattern_and_ask(words, pattern, way, term)
+    return first_bar(pattern, way, term)
+
+
+def _bars_by_sign(pattern, way, ask, spot):
+    if pattern.place_at(spot) is None or ask.place_at(spot) is None:
+        return False
+    sign = pattern.head_at(spot)
+    if sign == HOLE:
+        return False
+    if way == "variants":
+        return ask.normal().head_at(spot) != sign
+    barring = sign if way == "above" else ask.head_at(spot)
+    return ask.words().has(barring) and ask.head_at(spot) != sign
+
+
+def _bars_by_letter(pattern, way, ask, first, spot):
+    places = [term.place_at(place) for term in (pattern, ask) for place in (first, spot)]
+    if None in places or places[0] >= places[1]:
+        return False
+    asking, other = (pattern, ask) if way == "above" else (ask, pattern)
+    letter = asking.head_at(spot)
+    if letter == HOLE or ask.words().has(letter) or asking.head_at(first) != letter:
+        return False
+    one, two = other.part_at(first).signs(), other.part_at(spot).signs()
+    return one != two if way == "above" else _parts_clash(ask.words().table(), one, two)
+
+
+def shows_bar(words, pattern, way, term, thing):
+    _need_pattern_and_ask(words, pattern, way, term)
+    if not isinstance(thing, tuple) or not 1 <= len(thing) <= 3:
+        return False
+    if way == "meets":
+        return len(thing) == 1 and thing == first_bar(pattern, way, term)
+    whole = made_term(words, list(pattern))
+    if len(thing) == 2:
+        return thing[0] == "sign" and _bars_by_sign(whole, way, term, thing[1])
+    if len(thing) == 3 and way != "variants":
+        return thing[0] == "letter" and _bars_by_letter(whole, way, term, thing[1], thing[2])
+    return False

@@ -1,0 +1,250 @@
+"""Shelves, which keep terms with notes and are asked for terms, and the plain list among them."""
+
+from termshelf.answers import answer_of
+from termshelf.errors import Absent, NoDeed, NoList, NoNote, NoNumber, NotThere, TermError, TooMany, Twice
+from termshelf.marks import is_list, is_name, is_whole
+from termshelf.nomatch import need_way, why_not
+from termshelf.signs import need_words
+from termshelf.terms import Term, need_small, need_term_of
+
+MOST_KEPT = 40
+
+_MOST_NOTES = 8
+_MOST_DEEDS = 100
+_DEEDS = ("put", "take")
+
+
+def _need_note(thing):
+    if not is_name(thing):
+        raise NoNote(thing)
+
+
+def _need_deeds(rows):
+    if not is_list(rows, 0, _MOST_DEEDS):
+        raise NoList(rows)
+    for at, row in enumerate(rows):
+        if not isinstance(row, tuple) or len(row) != 3 or row[0] not in _DEEDS:
+            raise NoDeed(at)
+
+
+class Shelf:
+    """What all kinds of shelf do alike; a kind keeps its own index of the terms, and finds candidates by it."""
+
+    def __init__(self, words, *, most=MOST_KEPT):
+        need_words(words)
+        if not is_whole(most, 1, MOST_KEPT):
+            raise NoNumber(most)
+        self._words = words
+        self._most = most
+        # The kept terms in order, and by the text of each its notes.
+        self._terms = []
+        self._notes = {}
+        self._changes = 0
+        self._log = []
+
+    def put(self, term, note):
+        self._put(term, note)
+        self._log.append("put")
+
+    def take(self, term, note):
+        self._take(term, note)
+        self._log.append("take")
+
+    def words(self):
+        return self._words
+
+    def most(self):
+        return self._most
+
+    def terms(self):
+        return list(self._terms)
+
+    def notes(self, term):
+        need_term_of(self._words, term)
+        return list(self._notes[str(self._need_kept(term))])
+
+    def has(self, term):
+        return isinstance(term, Term) and term.words() == self._words and str(term.normal()) in self._notes
+
+    def changes(self):
+        return self._changes
+
+    def __len__(self):
+        return len(self._terms)
+
+    def __eq__(self, other):
+        return isinstance(other, Shelf) and self._words == other._words and self._notes == other._notes
+
+    def __str__(self):
+        many = sum([len(self._notes[text]) for text in self._notes])
+        return f"{len(self._terms)} {many}"
+
+    def __repr__(self):
+        return f"{self.__class__.__name__}({str(self)!r})"
+
+    def copied(self):
+        told = self.empty_one()
+        for term in self._terms:
+            for note in self._notes[str(term)]:
+                told._put(term, note)
+        # What was put into the copy so far makes it, and is no deed of its own.
+        told._changes = 0
+        return told
+
+    def ask(self, way, term, *, limit=None):
+        self.need_ask(way, term)
+        if limit is not None and not is_whole(limit, 1, MOST_KEPT):
+            raise NoNumber(limit)
+        answers = []
+        for kept in self._among(self.candidates(way, term)):
+            answer = answer_of(way, term, kept, self._notes[str(kept)])
+            if answer is not None:
+                answers.append(answer)
+                if len(answers) == limit:
+                    return answers
+        return answers
+
+    def barred(self, way, term):
+        self.need_ask(way, term)
+        papers = [(kept, why_not(way, term, kept)) for kept in self._terms]
+        return [(kept, paper) for kept, paper in papers if paper is not None]
+
+    def walk(self, way, term):
+        raise NotImplementedError("a kind of shelf tells its own walk")
+
+    def steps(self, way, term):
+        raise NotImplementedError("a kind of shelf counts its own steps")
+
+    def index_put(self, term):
+        raise NotImplementedError("a kind of shelf has its own index")
+
+    def index_take(self, term):
+        raise NotImplementedError("a kind of shelf has its own index")
+
+    def empty_one(self):
+        raise NotImplementedError("a kind of shelf makes shelves of its own kind")
+
+    def candidates(self, way, term):
+        raise NotImplementedError("a kind of shelf finds its own candidates")
+
+    def need_ask(self, way, term):
+        need_way(way)
+        need_small(self._words, term)
+
+    def all_deeds(self, rows):
+        _need_deeds(rows)
+        before = self._changes
+        undone = []
+        self._log.append("begin")
+        try:
+            for deed, term, note in rows:
+                undone.append(self._put(term, note) if deed == "put" else self._take(term, note))
+                self._log.append(deed)
+        except (TermError, Absent):
+            for deed in reversed(undone):
+                self._undo(deed)
+            self._changes = before
+            self._log.extend(["back", "end"])
+            raise
+        self._log.append("end")
+        return len(rows)
+
+    def log(self):
+        return list(self._log)
+
+    def _need_kept(self, term):
+        """The normal form, where it is kept."""
+        kept = term.normal()
+        if str(kept) not in self._notes:
+            raise NotThere(term)
+        return kept
+
+    def _among(self, candidates):
+        """The kept terms that are among some, in order."""
+        texts = {str(term): True for term in candidates}
+        return [kept for kept in self._terms if str(kept) in texts]
+
+    def _need_room(self, kept, note):
+        """Refuse a note, or a term that isn't kept, for which there is no room."""
+        notes = self._notes.get(str(kept))
+        if notes is None:
+            if len(self._terms) == self._most:
+                raise TooMany(self._most + 1)
+        elif note in notes:
+            raise Twice(note)
+        elif len(notes) == _MOST_NOTES:
+            raise TooMany(_MOST_NOTES + 1)
+
+    def _put(self, term, note):
+        """Put a term in with a note; told is what undoes it."""
+        need_small(self._words, term)
+        _need_note(note)
+        kept = term.normal()
+        self._need_room(kept, note)
+        at = len(self._notes.get(str(kept), []))
+        self._note(kept, at, note)
+        self._changes += 1
+        return ("take", kept, at, note)
+
+    def _take(self, term, note):
+        """Take a term with a note; told is what undoes it."""
+        need_term_of(self._words, term)
+        _need_note(note)
+        kept = self._need_kept(term)
+        notes = self._notes[str(kept)]
+        if note not in notes:
+            raise NotThere(note)
+        at = notes.index(note)
+        self._drop_note(kept, at)
+        self._changes += 1
+        return ("put", kept, at, note)
+
+    def _undo(self, deed):
+        way, kept, at, note = deed
+        if way == "put":
+            self._note(kept, at, note)
+        else:
+            self._drop_note(kept, at)
+
+    def _note(self, kept, at, note):
+        """Put a note at its place among those of a normal term, which is kept from then on."""
+        if str(kept) in self._notes:
+            self._notes[str(kept)].insert(at, note)
+        else:
+            self._notes[str(kept)] = [note]
+            self._terms.insert(len([term for term in self._terms if term.rank() < kept.rank()]), kept)
+            self.index_put(kept)
+
+    def _drop_note(self, kept, at):
+        """Drop a note of a normal term, which isn't kept any more where it has no other one."""
+        notes = self._notes[str(kept)]
+        notes.pop(at)
+        if notes == []:
+            del self._notes[str(kept)]
+            self._terms = [term for term in self._terms if term != kept]
+            self.index_take(kept)
+
+
+class PlainShelf(Shelf):
+    """A shelf that is a plain list, and goes through all of it for each ask."""
+
+    def index_put(self, term):
+        pass
+
+    def index_take(self, term):
+        pass
+
+    def empty_one(self):
+        return PlainShelf(self.words(), most=self.most())
+
+    def candidates(self, way, term):
+        return self.terms()
+
+    def walk(self, way, term):
+        self.need_ask(way, term)
+        answers = [answer_of(way, term, kept, []) for kept in self.terms()]
+        return [(number, answer is not None) for number, answer in enumerate(answers)]
+
+    def steps(self, way, term):
+        self.need_ask(way, term)
+        return 1 + sum([len(kept) for kept in self.terms()])
