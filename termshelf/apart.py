@@ -10,29 +10,20 @@ from termshelf.uniting import Uniting
 _MOST_ROWS = 1000
 
 
-def _spot_of_clash(one, other):
-    """The first spot of both at which they have unlike words, None where there is none."""
-    words = one.words()
-    signs, others = one.signs(), other.signs()
-    ends, other_ends = one.ends(), other.ends()
-    at = beside = 0
-    while at < len(signs):
-        if not words.has(signs[at]) or not words.has(others[beside]):
-            at, beside = ends[at], other_ends[beside]
-        elif signs[at] == others[beside]:
-            at, beside = at + 1, beside + 1
-        else:
-            return one.spot_from(at)
-    return None
-
-
 def paper_apart(one, other):
     """The paper of two terms that were looked at already, None where they meet."""
-    # Most papers are of one row, or are none: a whole reckoning is only done where it is needed.
-    spot = _spot_of_clash(one, other)
-    if spot is not None:
+    uniting = Uniting(one, other)
+    if uniting.whole() is not None:
+        return None
+    if uniting.clash() is None:
+        rows, turns = Reckoning(one, other, uniting).ring(uniting.ring())
+        return ("ring", rows, turns)
+    at, beside, number = uniting.clash()
+    if number == 0:
+        # Two words at one spot, as most terms have them, clash by a row that needs no other one.
+        spot = one.spot_from(at)
         return ("clash", [((0, spot), (1, spot), ("over",))])
-    return Reckoning(one, other).paper() if Uniting(one, other).whole() is None else None
+    return ("clash", Reckoning(one, other, uniting).clash(at, beside, number))
 
 
 def why_apart(one, other):

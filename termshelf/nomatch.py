@@ -12,7 +12,7 @@ def need_way(thing):
         raise NoWay(thing)
 
 
-def _bar(ask, kept):
+def first_unlike(ask, kept):
     """The first bar, of terms that were looked at already."""
     table = ask.words().table()
     signs, ends = kept.signs(), kept.ends()
@@ -60,7 +60,7 @@ def _bars(ask, kept, thing):
 
 def why_unlike(ask, kept):
     need_two_small(ask, kept)
-    return _bar(ask, kept)
+    return first_unlike(ask, kept)
 
 
 def shows_unlike(ask, kept, thing):
@@ -88,9 +88,9 @@ def why_not(way, ask, kept):
     need_way(way)
     need_two_small(ask, kept)
     if way == "instances":
-        return _bar(ask, kept)
+        return first_unlike(ask, kept)
     if way == "above":
-        return _bar(kept, ask)
+        return first_unlike(kept, ask)
     if way == "meets":
         return paper_apart(ask, kept)
     return why_no_variant(ask, kept)

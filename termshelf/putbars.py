@@ -1,11 +1,14 @@
 """What bars an ask from all terms that fit a pattern."""
 
 from termshelf.errors import NoList
-from termshelf.nomatch import need_way
+from termshelf.nomatch import first_unlike, need_way
 from termshelf.puttree import HOLE, is_pattern
 from termshelf.signs import part_end
 from termshelf.terms import MOST_SMALL, made_term, need_small
 from termshelf.uniting import Uniting
+
+# What bars an instance, as nomatch.py calls it, and as it is called here.
+_BARS = {"unlike": "sign", "two": "letter"}
 
 
 def _bar_of_variants(pattern, ask):
@@ -21,24 +24,16 @@ def _bar_of_variants(pattern, ask):
     return None
 
 
+def _with_own_letters(pattern):
+    """The term that a pattern becomes when each hole has a letter of its own."""
+    # No letter has a hole's sign, so with a number behind it each one is a letter that stands nowhere else.
+    signs = [f"{HOLE}{at}" if sign == HOLE else sign for at, sign in enumerate(pattern.signs())]
+    return made_term(pattern.words(), signs)
+
+
 def _bar_of_above(pattern, ask):
-    table = ask.words().table()
-    signs, ends = ask.signs(), ask.ends()
-    first = {}
-    at = 0
-    for number, sign in enumerate(pattern.signs()):
-        if sign in table:
-            if signs[at] != sign:
-                return ("sign", pattern.spot_from(number))
-            at += 1
-        else:
-            part = signs[at:ends[at]]
-            if sign != HOLE:
-                ahead = first.setdefault(sign, (number, part))
-                if ahead[1] != part:
-                    return ("letter", pattern.spot_from(ahead[0]), pattern.spot_from(number))
-            at = ends[at]
-    return None
+    bar = first_unlike(_with_own_letters(pattern), ask)
+    return None if bar is None else (_BARS[bar[0]],) + bar[1:]
 
 
 def _parts_clash(places, one, other):
@@ -83,9 +78,7 @@ def _bar_of_instances(pattern, ask):
 
 
 def _bar_of_meets(pattern, ask):
-    # No letter has a hole's sign, so with a number behind it each hole's is a letter of its own.
-    signs = [f"{HOLE}{at}" if sign == HOLE else sign for at, sign in enumerate(pattern.signs())]
-    return ("apart",) if Uniting(ask, made_term(ask.words(), signs)).whole() is None else None
+    return ("apart",) if Uniting(ask, _with_own_letters(pattern)).whole() is None else None
 
 
 def first_bar(pattern, way, ask):
@@ -133,19 +126,17 @@ def _bars_by_letter(pattern, way, ask, first, spot):
     letter = asking.head_at(spot)
     if letter == HOLE or ask.words().has(letter) or asking.head_at(first) != letter:
         return False
-    one, two = other.part_at(first).signs(), other.part_at(spot).signs()
-    return one != two if way == "above" else _parts_clash(ask.words().table(), one, two)
+    # Parts without holes clash just where they are unlike.
+    return _parts_clash(ask.words().table(), other.part_at(first).signs(), other.part_at(spot).signs())
 
 
 def shows_bar(words, pattern, way, term, thing):
     _need_pattern_and_ask(words, pattern, way, term)
-    if not isinstance(thing, tuple) or not 1 <= len(thing) <= 3:
-        return False
     if way == "meets":
-        return len(thing) == 1 and thing == first_bar(pattern, way, term)
+        return isinstance(thing, tuple) and thing == first_bar(pattern, way, term)
+    if not isinstance(thing, tuple) or len(thing) not in (2, 3):
+        return False
     whole = made_term(words, list(pattern))
     if len(thing) == 2:
         return thing[0] == "sign" and _bars_by_sign(whole, way, term, thing[1])
-    if len(thing) == 3 and way != "variants":
-        return thing[0] == "letter" and _bars_by_letter(whole, way, term, thing[1], thing[2])
-    return False
+    return thing[0] == "letter" and way != "variants" and _bars_by_letter(whole, way, term, thing[1], thing[2])

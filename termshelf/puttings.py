@@ -59,7 +59,7 @@ class Putting:
         return self._put_into(term.signs())
 
     def _put_into(self, signs):
-        given = {sign: self._terms[sign].signs() for sign in {sign: True for sign in signs} if sign in self._terms}
+        given = {sign: self._terms[sign].signs() for sign in {one: True for one in signs} if sign in self._terms}
         # Counted ahead, as the signs themselves may be far too many to be written down.
         many = sum([len(given[sign]) if sign in given else 1 for sign in signs])
         if many > MOST_TOLD:

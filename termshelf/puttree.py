@@ -105,7 +105,7 @@ class PutNode:
         return len(self._paths)
 
     def __eq__(self, other):
-        return isinstance(other, PutNode) and self._words == other._words and self._terms == other._terms
+        return isinstance(other, PutNode) and self._terms == other._terms
 
     def __str__(self):
         return " ".join(self._pattern)

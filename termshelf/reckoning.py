@@ -1,4 +1,4 @@
-"""A reckoning of two terms that don't meet: which of their parts must become the same, row by row, until they can't."""
+"""Reckonings: rows that show why two terms don't meet."""
 
 # By the word of a why: how long it is, and how many numbers of rows ahead stand just behind the word.
 WHY_LONG = {"over": 1, "letter": 1, "turned": 2, "joined": 3, "part": 3}
@@ -6,181 +6,98 @@ WHY_ROWS = {"over": 0, "letter": 0, "turned": 1, "joined": 2, "part": 1}
 
 
 class Reckoning:
-    """Parts are called by numbers, those of the one ahead of those of the other one.
+    """Rows are found backwards, from what can't be, by what was noted down, so that there are just those needed.
 
-    Parts that must become the same stand in one class, which is called by its root, one of them. For each other
-    part of a class a row is kept that has this part ahead and the root behind. So each row can be found in few
-    steps, and those of two terms of sixteen signs stay far below a thousand.
+    Parts are called by places as in the uniting. Steps lead from a part to another one that must become the same: from
+    letter to letter, and along each note. Two parts that must become the same are joined by a row of such steps.
     """
 
-    def __init__(self, one, other):
-        self._table = one.words().table()
+    def __init__(self, one, other, uniting):
+        self._uniting = uniting
+        self._words = one.words()
         self._signs = one.signs() + other.signs()
         self._places = [(0, spot) for spot in one.spots()] + [(1, spot) for spot in other.spots()]
-        self._numbers = {place: number for number, place in enumerate(self._places)}
+        self._at = {place: at for at, place in enumerate(self._places)}
+        self._notes = uniting.notes()
         self._rows = []
-        self._roots = list(range(len(self._signs)))
-        self._ways = [None] * len(self._signs)
-        self._members = [[number] for number in self._roots]
-        self._bearers = [number if sign in self._table else None for number, sign in enumerate(self._signs)]
-        self._todo = self._firsts()
-        self._clash = self._closed()
-        self._ended = {} if self._clash is not None else self._ending()
+        self._numbers = {}
 
-    def _firsts(self):
-        """What must become the same from the beginning: parts at one spot, and letters of one side."""
-        pairs = []
-        first = {}
-        for number, (side, spot) in enumerate(self._places):
-            if side == 0 and (1, spot) in self._numbers:
-                pairs.append((number, self._numbers[(1, spot)], ("over",)))
-            sign = self._signs[number]
-            if (side, sign) in first:
-                pairs.append((number, first[(side, sign)], ("letter",)))
-            elif sign not in self._table:
-                first[(side, sign)] = number
-        return pairs
+    def clash(self, one, other, number):
+        """The rows of which the last one has two clashing parts of a pair."""
+        last = self._noted_row(one, other, number)
+        return self._told_rows()[:last + 1]
 
-    def _closed(self):
-        """Join classes until nothing is left to do; the number of the row that clashes, None where none does."""
-        done = 0
-        while done < len(self._todo):
-            a, b, why = self._todo[done]
-            done += 1
-            if self._roots[a] != self._roots[b]:
-                bearers = self._merged(self._row(a, b, why))
-                if None not in bearers:
-                    row = self._way(bearers[0], bearers[1])
-                    if self._signs[bearers[0]] != self._signs[bearers[1]]:
-                        return row
-                    self._todo.extend(self._part_pairs(row))
-        return None
+    def ring(self, pairs):
+        """The rows that have the pairs of a ring, and the turns."""
+        rows = [self._path_row(letter, bearer, len(self._notes)) for letter, bearer in pairs]
+        letters = [letter for letter, _ in pairs]
+        spots = [self._places[at][1] for at in letters[1:] + letters[:1]]
+        return self._told_rows(), list(zip(rows, spots))
 
-    def _part_pairs(self, row):
-        a, b, _ = self._rows[row]
-        return [(self._part(a, k), self._part(b, k), ("part", row, k)) for k in range(self._many_parts(a))]
-
-    def _many_parts(self, number):
-        return self._table.get(self._signs[number], 0)
-
-    def _part(self, number, k):
-        side, spot = self._places[number]
-        return self._numbers[(side, spot + (k,))]
+    def _told_rows(self):
+        return [(self._places[a], self._places[b], why) for a, b, why in self._rows]
 
     def _row(self, a, b, why):
-        self._rows.append((a, b, why))
-        return len(self._rows) - 1
+        """The number of a row that has these parts, one that there is already or a new one."""
+        if (a, b) not in self._numbers:
+            self._numbers[(a, b)] = len(self._rows)
+            self._rows.append((a, b, why))
+        return self._numbers[(a, b)]
 
-    def _turned(self, row):
-        a, b, _ = self._rows[row]
-        return self._row(b, a, ("turned", row))
+    def _noted_row(self, one, other, number):
+        """A row of two parts with the same spot within the parts of a pair."""
+        if number == 0:
+            return self._row(one, other, ("over",))
+        a, b, known = self._uniting.pair(number)
+        row = self._path_row(a, b, known)
+        for k in self._places[one][1][len(self._places[a][1]):]:
+            a, b = self._part(a, k), self._part(b, k)
+            row = self._row(a, b, ("part", row, k))
+        return row
 
-    def _joined(self, row, behind):
-        """A row of both, None standing for a part that is the same as itself, which needs no row."""
-        if row is None:
-            return behind
-        if behind is None:
-            return row
-        return self._row(self._rows[row][0], self._rows[behind][1], ("joined", row, behind))
+    def _part(self, at, k):
+        side, spot = self._places[at]
+        return self._at[(side, spot + (k,))]
 
-    def _back(self, number):
-        """A row from the root to a part."""
-        return None if self._ways[number] is None else self._turned(self._ways[number])
+    def _path_row(self, a, b, known):
+        """A row of two parts that the first so many notes make the same."""
+        row = None
+        for at, behind, note in self._path(a, b, known):
+            step = self._step_row(at, behind, note)
+            row = step if row is None else self._row(a, behind, ("joined", row, step))
+        return row
 
-    def _way(self, a, b):
-        """A row that has two parts of a class, unlike ones."""
-        return self._joined(self._ways[a], self._back(b))
+    def _step_row(self, a, b, note):
+        if note is None:
+            return self._row(a, b, ("letter",))
+        one, other, number = note
+        row = self._noted_row(one, other, number)
+        return row if a == one else self._row(a, b, ("turned", row))
 
-    def _merged(self, row):
-        """Join the classes of a row's parts; told are the parts with a word that stood for them."""
-        a, b, _ = self._rows[row]
-        # Only the ways of the smaller class are made anew, so that there are few rows.
-        if len(self._members[self._roots[a]]) > len(self._members[self._roots[b]]):
-            row = self._turned(row)
-            a, b = b, a
-        old = self._roots[a]
-        new = self._roots[b]
-        over = self._joined(self._joined(self._back(a), row), self._ways[b])
-        for number in self._members[old]:
-            self._ways[number] = self._joined(self._ways[number], over)
-            self._roots[number] = new
-        self._members[new].extend(self._members[old])
-        bearers = (self._bearers[old], self._bearers[new])
-        if self._bearers[new] is None:
-            self._bearers[new] = self._bearers[old]
-        return bearers
+    def _path(self, a, b, known):
+        """The fewest steps from a part to another one."""
+        # By each part that was come to: the steps that led there.
+        paths = {a: []}
+        todo = [a]
+        done = 0
+        while b not in paths:
+            at = todo[done]
+            done += 1
+            for behind, note in self._steps(at, known):
+                if behind not in paths:
+                    paths[behind] = paths[at] + [(at, behind, note)]
+                    todo.append(behind)
+        return paths[b]
 
-    def _part_roots(self, root):
-        """The roots of the parts that what a class becomes has."""
-        bearer = self._bearers[root]
-        if bearer is None:
-            return []
-        return [self._roots[self._part(bearer, k)] for k in range(self._many_parts(bearer))]
-
-    def _class_roots(self):
-        return [number for number, root in enumerate(self._roots) if number == root]
-
-    def _ending(self):
-        """The roots of the classes from which parts lead to an end, and not round a ring."""
-        ended = {}
-        growing = True
-        while growing:
-            growing = False
-            for root in self._class_roots():
-                if root not in ended and all([part in ended for part in self._part_roots(root)]):
-                    ended[root] = True
-                    growing = True
-        return ended
-
-    def _ring(self):
-        """Pairs (part, bearer) of a class each; the next one's part is one of the bearer's, round and round."""
-        root = [number for number in self._class_roots() if number not in self._ended][0]
-        seen = []
-        while root not in seen:
-            seen.append(root)
-            root = self._roots[self._endless_part(root)]
-        ring = seen[seen.index(root):]
-        return [(self._endless_part(ring[at - 1]), self._bearers[ring[at]]) for at in range(len(ring))]
-
-    def _endless_part(self, root):
-        bearer = self._bearers[root]
-        parts = [self._part(bearer, k) for k in range(self._many_parts(bearer))]
-        return [part for part in parts if self._roots[part] not in self._ended][0]
-
-    def _turns(self):
-        """Turns of the ring, each a row and the number of the part to which it leads."""
-        # Where the part itself bears the word nothing turns there, and the turn ahead leads further down.
-        pairs = [pair for pair in self._ring() if pair[0] != pair[1]]
-        rows = [self._way(pair[0], pair[1]) for pair in pairs]
-        return [(rows[at], pairs[(at + 1) % len(pairs)][0]) for at in range(len(pairs))]
-
-    def _needed(self, rows):
-        """The numbers of the rows on which some rows stand, these too, rising."""
-        needed = {row: True for row in rows}
-        for row in reversed(range(len(self._rows))):
-            if row in needed:
-                why = self._rows[row][2]
-                for ahead in why[1:1 + WHY_ROWS[why[0]]]:
-                    needed[ahead] = True
-        return sorted(list(needed))
-
-    def _told_row(self, row, numbers):
-        a, b, why = self._rows[row]
-        many = 1 + WHY_ROWS[why[0]]
-        ahead = tuple([numbers[number] for number in why[1:many]])
-        return (self._places[a], self._places[b], why[:1] + ahead + why[many:])
-
-    def _told_rows(self, wanted):
-        """The rows on which some rows stand, numbered anew, and their new numbers by the old ones."""
-        needed = self._needed(wanted)
-        numbers = {row: number for number, row in enumerate(needed)}
-        return [self._told_row(row, numbers) for row in needed], numbers
-
-    def paper(self):
-        """The paper that both don't meet: a clash, or else a ring."""
-        if self._clash is not None:
-            rows, _ = self._told_rows([self._clash])
-            return ("clash", rows)
-        turns = self._turns()
-        rows, numbers = self._told_rows([row for row, _ in turns])
-        return ("ring", rows, [(numbers[row], self._places[part][1]) for row, part in turns])
+    def _steps(self, at, known):
+        """The parts to which one step leads, each with its note, or None where it is the same letter."""
+        told = []
+        if not self._words.has(self._signs[at]):
+            like = [place for place, sign in enumerate(self._signs) if sign == self._signs[at] and place != at]
+            told = [(place, None) for place in like if self._places[place][0] == self._places[at][0]]
+        for note in self._notes[:known]:
+            if note[0] == at:
+                told.append((note[1], note))
+            elif note[1] == at:
+                told.append((note[0], note))
+        return told

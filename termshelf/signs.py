@@ -102,7 +102,7 @@ def part_end(places, signs, at):
 
 def letters_among(places, signs):
     """The unlike letters among signs, as they first come."""
-    return [sign for sign in {sign: True for sign in signs} if sign not in places]
+    return [sign for sign in {one: True for one in signs} if sign not in places]
 
 
 def with_normal_letters(places, signs):

@@ -79,7 +79,7 @@ class SignTree:
 
     def jumps(self, path):
         self._need_node(path)
-        return self._nodes_behind(path, 1) if self._behind[path] else []
+        return self._nodes_behind(path, 1)
 
     def nested(self):
         return self._nested_from(())

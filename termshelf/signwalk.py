@@ -9,7 +9,8 @@ class SignWalk:
     def __init__(self, tree, way, ask):
         self._tree = tree
         self._table = ask.words().table()
-        self._signs = ask.normal_signs() if way == "variants" else ask.signs()
+        # How the ask's letters are called says nothing, so the normal form's do by all ways.
+        self._signs = ask.normal_signs()
         self._ends = term_ends(self._table, self._signs)
         # In their order, since from each node on all beneath it are gone to ahead of the next one.
         self._gone = []

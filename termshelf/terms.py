@@ -19,7 +19,7 @@ def _are_texts(thing, most):
 def _lacks(places, signs):
     """By each unlike sign, how many more terms lack behind it than ahead of it; refused is the first bad one."""
     lacks = {}
-    for sign in {sign: True for sign in signs}:
+    for sign in {one: True for one in signs}:
         if sign in places:
             lacks[sign] = places[sign] - 1
         elif is_letter(sign):
@@ -132,8 +132,11 @@ class Term:
         return f"Term({str(self)!r})"
 
     def normal(self):
+        if self.is_normal():
+            return self
         told = made_term(self._words, self._found_normal())
         told._normal = self._normal
+        told._rank = self._rank
         return told
 
     def is_normal(self):

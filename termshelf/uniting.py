@@ -1,11 +1,13 @@
-"""What two terms become together, found without the rows that would show it."""
+"""What two terms become together, or where they can't, found without the rows that would show it."""
 
 
 class Uniting:
     """Two terms that are to become one; the signs of both stand in one list, and parts are called by places in it.
 
     Letters that must become the same stand in one class, which is called by its root, a place of one of them. A class
-    whose letters must become some part that begins with a word has such a part as its bearer.
+    whose letters must become some part that begins with a word has such a part as its bearer. Where two such parts
+    must become the same, they are a pair, as both terms are the first pair, and are walked side by side; what is found
+    to be the same in a pair is noted down, to be told why.
     """
 
     def __init__(self, one, other):
@@ -16,44 +18,50 @@ class Uniting:
         self._first_places = ({}, {})
         self._roots = {}
         self._bearers = {}
+        self._pairs = [(0, self._shift)]
+        self._notes = []
+        self._known = [0]
+        self._clash = None
         self._become = {}
         for at, sign in enumerate(self._signs):
             if sign not in self._table:
                 self._roots[at] = self._first_places[0 if at < self._shift else 1].setdefault(sign, at)
-        self._whole = self._part_signs(0) if self._united() else None
+        self._unite()
+        self._whole = self._part_signs(0) if self._clash is None else None
 
-    def _united(self):
-        """Make parts the same, pair by pair, until nothing is left to do; whether no two words clash."""
-        todo = [(0, self._shift)]
+    def _unite(self):
+        """Walk pair by pair, until nothing is left to do or two words clash."""
         done = 0
-        while done < len(todo):
-            pairs = self._walked(todo[done][0], todo[done][1])
-            if pairs is None:
-                return False
-            # In a ring the same pairs would come again and again.
-            todo.extend([pair for pair in pairs if pair not in todo])
+        while done < len(self._pairs) and self._clash is None:
+            self._walk(done)
             done += 1
-        return True
 
-    def _walked(self, one, other):
-        """Walk two parts side by side; told are the pairs that must be walked as well, None where words clash."""
-        pairs = []
+    def _walk(self, number):
+        one, other = self._pairs[number]
         end = self._ends[one]
         while one < end:
-            words = [sign for sign in (self._signs[one], self._signs[other]) if sign in self._table]
-            if len(words) < 2:
-                pairs.extend(self._joined(one, other))
+            if one in self._roots or other in self._roots:
+                self._join(one, other, number)
                 one = self._ends[one]
                 other = self._ends[other]
-            elif words[0] == words[1]:
+            elif self._signs[one] == self._signs[other]:
                 one += 1
                 other += 1
             else:
-                return None
-        return pairs
+                self._clash = (one, other, number)
+                return
 
-    def _joined(self, one, other):
-        """Make two parts the same, at least one of which is a letter; told is the pair of bearers, where it has two."""
+    def _join(self, one, other, number):
+        """Make two parts of a pair the same, at least one of which is a letter."""
+        self._notes.append((one, other, number))
+        pair = self._joined_bearers(one, other)
+        # In a ring the same pairs would come again and again.
+        if len(pair) == 2 and pair not in self._pairs:
+            self._pairs.append(pair)
+            self._known.append(len(self._notes))
+
+    def _joined_bearers(self, one, other):
+        """Make one class of both; told are the parts with words that must become the same by it, a tuple."""
         if one not in self._roots:
             one, other = other, one
         root = self._root(one)
@@ -62,13 +70,13 @@ class Uniting:
             old = root
             root = self._root(other)
             if old == root:
-                return []
+                return ()
             self._roots[old] = root
             other = self._bearers.get(root)
         bearers = [bearer for bearer in bearers + [other] if bearer is not None]
         if bearers:
             self._bearers[root] = bearers[0]
-        return [tuple(bearers)] if len(bearers) == 2 else []
+        return tuple(bearers)
 
     def _root(self, at):
         while self._roots[at] != at:
@@ -105,3 +113,36 @@ class Uniting:
         """The signs of what each letter of a side becomes, of two terms that meet."""
         firsts = self._first_places[side]
         return {letter: self._letter_signs(firsts[letter]) for letter in firsts}
+
+    def clash(self):
+        """The two parts whose words clash and the number of the pair in which they do, None where none do."""
+        return self._clash
+
+    def pair(self, number):
+        """The two parts of a pair, and how many notes there were when it was found."""
+        one, other = self._pairs[number]
+        return (one, other, self._known[number])
+
+    def notes(self):
+        """Tuples of two parts, and of the number of the pair in which they were found to be the same."""
+        return list(self._notes)
+
+    def ring(self):
+        """Pairs of a letter and its class's bearer, in which the next one's letter stands, round and round."""
+        at = [place for place in self._roots if self._is_endless(place)][0]
+        seen = []
+        while self._root(at) not in [self._root(letter) for letter in seen]:
+            seen.append(at)
+            at = self._endless_letter(self._bearers[self._root(at)])
+        roots = [self._root(letter) for letter in seen]
+        # The ring is closed by the letter that led back to where it begins.
+        letters = [at] + seen[roots.index(self._root(at)) + 1:]
+        return [(letter, self._bearers[self._root(letter)]) for letter in letters]
+
+    def _is_endless(self, at):
+        return self._become.get(self._root(at), []) is None
+
+    def _endless_letter(self, bearer):
+        """A letter within a part that would have to become a part of itself."""
+        places = range(bearer, self._ends[bearer])
+        return [place for place in places if place in self._roots and self._is_endless(place)][0]

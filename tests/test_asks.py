@@ -7,6 +7,7 @@ from termshelf import errors
 from termshelf.answers import Answer
 from termshelf.nomatch import shows_not, why_not
 from termshelf.shelves import PlainShelf
+from termshelf.signs import Words
 from termshelf.terms import Term
 from tests import plain, plainshelves
 from tests.samples import KINDS, LIKE, OTHER, WAYS, WIDE, WORDS
@@ -109,6 +110,20 @@ class Told(Looks):
             self.looked_at(shelf, "meets", self.sixteen())
             self.looked_at(shelf, "above", self.sixteen())
             self.looked_at(shelf, "variants", term(str(self.sixteen()).replace("A", "B")))
+
+    def test_with_other_names_all_is_told_likewise(self):
+        names = {"f": "a", "g": "zz", "c": "m", "A": "Z9", "B": "A", "z": "note"}
+        words = Words([(names[name], WORDS.places(name)) for name in WORDS.names()])
+
+        def renamed(text):
+            return " ".join([names.get(sign, sign) for sign in text.split(" ")])
+
+        for kind, way, ask in itertools.product(KINDS, WAYS, ["A", "f A B", "f A A", "g A", "f A c"]):
+            shelf, other = shelf_of(kind, ROWS), shelf_of(kind, [renamed(row) for row in ROWS], words)
+            self.assertEqual([renamed(str(kept)) for kept in shelf.terms()], [str(kept) for kept in other.terms()])
+            told = [renamed(str(answer)) for answer in shelf.ask(way, term(ask))]
+            self.assertEqual([str(answer) for answer in other.ask(way, term(renamed(ask), words))], told)
+            self.assertEqual(other.steps(way, term(renamed(ask), words)), shelf.steps(way, term(ask)))
 
     def test_limits(self):
         for kind in KINDS:

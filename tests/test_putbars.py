@@ -22,7 +22,8 @@ def all_forms(pattern, ask):
     """All things of the forms of 75 whose spots are spots of one of both, and some others."""
     spots = list(dict.fromkeys(spot for tree in (pattern, ask) for spot in plain.parts_of(tree)))
     spots += [(2,), (0, 0, 0, 0), (True,)]
-    told = [("apart",), ("apart", ()), ("sign",), ("letter", ())] + [("sign", spot) for spot in spots]
+    told = [("apart",), ("apart", ()), ("sign",), ("letter",), ("letter", ()), (), ("sign", (), (), ())]
+    told += [("sign", spot) for spot in spots]
     pairs = list(itertools.product(spots, repeat=2))
     return told + [(word, first, spot) for word in ("letter", "sign") for first, spot in pairs]
 
@@ -58,6 +59,9 @@ class Bars(Case):
                 ("instances", "f c f ? g c", "f A f B A", ("letter", (0,), (1, 1))),
                 ("instances", "f ? f c g c", "f A f A A", ("letter", (1, 0), (1, 1))),
                 ("instances", "f ? c", "f f A A A", None), ("instances", "N0", "c", ("sign", ())),
+                ("instances", "f f ? c f c g c", "f A A", ("letter", (0,), (1,))),
+                ("instances", "f f c g c f ? c", "f A A", ("letter", (0,), (1,))),
+                ("instances", "f f ? c f g c c", "f A A", None), ("instances", "f f g c c f ? c", "f A A", None),
                 ("meets", "f ? c", "f A A", None), ("meets", "f N0 g N0", "f A A", ("apart",)),
                 ("meets", "f ? g ?", "f A A", None), ("meets", "c", "g A", ("apart",)), ("meets", "?", "g A", None)]:
             self.assertEqual(bar_of(WORDS, pattern.split(" "), way, term(ask)), told)

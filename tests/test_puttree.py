@@ -16,7 +16,8 @@ PATTERNS = terms_of(4, ["N0", "A", "?"])
 NO_PATTERNS = [thing for thing in any_things() if not isinstance(thing, (list, tuple)) or list(thing) not in (
     ["A"], ["f", "A", "c"])]
 NO_PATTERNS += [["??"], [""], ["? "], ["d"], ["N00"], ["N100"], ["f", "?"], ["f", "?", "?", "?"], ["?", "A"], [None],
-                ["f", "?", None], ["f", "?", ["A"]], ["f", ("?",), "A"], ["Ff"], ["f A"], [1], [True], ["?", "?"]]
+                ["f", "?", None], ["f", "?", ["A"]], ["f", ("?",), "A"], ["Ff"], ["f A"], [1], [True], ["?", "?"],
+                ["c", "g"], ["?", "g"], ["A", "f", "c"], ["g", "?", "g", "f", "c"]]
 
 
 def some(texts, words=WORDS):
