@@ -116,16 +116,19 @@ class Shelf:
         raise NotImplementedError("a kind of shelf counts its own steps")
 
     def index_put(self, term):
-        raise NotImplementedError("a kind of shelf has its own index")
+        """Nothing is to be done where a kind has no index."""
+        pass
 
     def index_take(self, term):
-        raise NotImplementedError("a kind of shelf has its own index")
+        """Nothing is to be done where a kind has no index."""
+        pass
 
     def empty_one(self):
         raise NotImplementedError("a kind of shelf makes shelves of its own kind")
 
     def candidates(self, way, term):
-        raise NotImplementedError("a kind of shelf finds its own candidates")
+        """Where a kind has no index, all that is kept may be told."""
+        return self.terms()
 
     def need_ask(self, way, term):
         need_way(way)

@@ -132,11 +132,12 @@ class Names(unittest.TestCase):
             self.assertEqual(found, set(), path)
 
     def test_locals_are_called_unlike_classes_and_imports_of_their_file(self):
+        bound = bound_names()
         for path, tree in trees():
             taken = [alias.name for node in tree.body if isinstance(node, ast.ImportFrom) for alias in node.names]
             taken += [node.name for node in tree.body if isinstance(node, ast.ClassDef)]
             self.assertEqual(len(taken), len(set(taken)), path)
-            for at, name in bound_names():
+            for at, name in bound:
                 if at == path and name not in [node.name for node in tree.body if isinstance(node, ast.ClassDef)]:
                     self.assertNotIn(name, taken, path)
 

@@ -67,7 +67,7 @@ class Told(Case):
                 self.assertEqual(texts(told_by(shelf=shelf, ask=ask)), told)
 
     def test_by_chance(self):
-        for seed in range(150):
+        for seed in range(80):
             ask = made(Chance(seed), 4)
             before = marked(ask)
             for shelf in SHELVES:

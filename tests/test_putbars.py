@@ -75,7 +75,7 @@ class Bars(Case):
 
     def test_all_that_is_shown_of_small_ones(self):
         chance = Chance(75)
-        for _ in range(500):
+        for _ in range(300):
             pattern, ask = chance.one_of(PATTERNS[-120:]), chance.one_of(terms_of(4))
             for way in WAYS:
                 self.shown(WORDS, pattern, way, term(ask))
@@ -83,7 +83,7 @@ class Bars(Case):
     def test_by_chance(self):
         chance = Chance(76)
         seen = set()
-        for _ in range(500):
+        for _ in range(300):
             words = chance.one_of([WORDS, WIDE, ONE])
             pattern = chance.text(words, 16, chance.one_of([["?"], ["?", "N0"], ["N0", "N1", "?"]])).split(" ")
             ask = term(chance.text(words, 16, chance.one_of([["A"], ["A", "B"], ["N0", "N1"]])), words)
