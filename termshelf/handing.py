@@ -1,9 +1,8 @@
 """Answers handed out one at a time while a shelf changes, and tellers of answers."""
 
-from termshelf.errors import Changed, NoMore, NoNumber, NoShelf, NoTruth
-from termshelf.marks import is_whole
+from termshelf.errors import Changed, NoMore, NoShelf, NoTruth
 from termshelf.nomatch import need_way
-from termshelf.shelves import MOST_KEPT, Shelf
+from termshelf.shelves import Shelf, need_limit
 
 
 def need_shelf(thing):
@@ -59,8 +58,7 @@ class Handing:
 def teller(shelf, way, *, limit=None):
     need_shelf(shelf)
     need_way(way)
-    if limit is not None and not is_whole(limit, 1, MOST_KEPT):
-        raise NoNumber(limit)
+    need_limit(limit)
 
     def told(term):
         return shelf.ask(way, term, limit=limit)

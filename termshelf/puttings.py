@@ -17,6 +17,26 @@ def _are_pairs(thing):
     return isinstance(thing, dict) and len(thing) <= _MOST_PAIRS and all([is_letter(letter) for letter in thing])
 
 
+def _given_signs(signs, terms):
+    """By each letter among signs to which a dict gives a term, this term's signs."""
+    return {sign: terms[sign].signs() for sign in {one: True for one in signs} if sign in terms}
+
+
+def _with_given(signs, given):
+    told = []
+    for sign in signs:
+        if sign in given:
+            told.extend(given[sign])
+        else:
+            told.append(sign)
+    return told
+
+
+def signs_put(signs, terms):
+    """A term's signs with the terms that a dict gives in the place of letters, however many signs these are."""
+    return _with_given(signs, _given_signs(signs, terms))
+
+
 class Putting:
     """A term for each of some letters; it never changes."""
 
@@ -59,30 +79,24 @@ class Putting:
         return self._put_into(term.signs())
 
     def _put_into(self, signs):
-        given = {sign: self._terms[sign].signs() for sign in {one: True for one in signs} if sign in self._terms}
+        given = _given_signs(signs, self._terms)
         # Counted ahead, as the signs themselves may be far too many to be written down.
         many = sum([len(given[sign]) if sign in given else 1 for sign in signs])
         if many > MOST_TOLD:
             raise TooGreat(many)
-        told = []
-        for sign in signs:
-            if sign in given:
-                told.extend(given[sign])
-            else:
-                told.append(sign)
-        return made_term(self._words, told)
+        return made_term(self._words, _with_given(signs, given))
 
     def then(self, other):
         need_putting(other)
         need_like(self._words, other)
         letters = _in_letter_order(list({**self._terms, **other._terms}))
-        return _made_putting(self._words, {letter: other.put(self.given(letter)) for letter in letters})
+        return made_putting(self._words, {letter: other.put(self.given(letter)) for letter in letters})
 
     def pairs(self):
         return dict(self._terms)
 
 
-def _made_putting(words, terms):
+def made_putting(words, terms):
     """A putting of terms that are known to be right: what is told may have more letters than what is handed in."""
     made = Putting(words)
     made._terms = terms
@@ -94,7 +108,7 @@ def need_putting(thing):
         raise NoPutting(thing)
 
 
-def _filled(ask, kept, terms):
+def filling(ask, kept, terms):
     """What letters must become, some being given, that the ask becomes the kept term; None where it can't."""
     places = ask.words().table()
     filled = dict(terms)
@@ -122,20 +136,20 @@ def matched(ask, kept, *, within=None):
     if within is not None:
         need_putting(within)
         need_like(ask.words(), within)
-    filled = _filled(ask, kept, {} if within is None else within.pairs())
-    return None if filled is None else _made_putting(ask.words(), filled)
+    filled = filling(ask, kept, {} if within is None else within.pairs())
+    return None if filled is None else made_putting(ask.words(), filled)
 
 
 def letters_themselves(term):
     """The putting that gives each letter of a term to itself."""
     words = term.words()
-    return _made_putting(words, {letter: made_term(words, [letter]) for letter in term.letters()})
+    return made_putting(words, {letter: made_term(words, [letter]) for letter in term.letters()})
 
 
 def _becoming(words, become, table):
     """The putting of what letters become, told by signs, by a table that has normal letters for all of theirs."""
     terms = {letter: made_term(words, [table[sign] for sign in become[letter]]) for letter in become}
-    return _made_putting(words, terms)
+    return made_putting(words, terms)
 
 
 def met(one, other):
@@ -165,7 +179,7 @@ def _gives(thing, term, whole):
     if len(pairs) != len(letters) or not all([letter in pairs for letter in letters]):
         return False
     # Not put in, as what comes might be too great to be told.
-    return _filled(term, whole, pairs) is not None
+    return filling(term, whole, pairs) is not None
 
 
 def shows_meeting(one, other, whole, left, right):

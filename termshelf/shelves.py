@@ -8,8 +8,8 @@ from termshelf.signs import need_words
 from termshelf.terms import Term, need_small, need_term_of
 
 MOST_KEPT = 40
+MOST_NOTES = 8
 
-_MOST_NOTES = 8
 _MOST_DEEDS = 100
 _DEEDS = ("put", "take")
 
@@ -17,6 +17,11 @@ _DEEDS = ("put", "take")
 def _need_note(thing):
     if not is_name(thing):
         raise NoNote(thing)
+
+
+def need_limit(thing):
+    if thing is not None and not is_whole(thing, 1, MOST_KEPT):
+        raise NoNumber(thing)
 
 
 def _need_deeds(rows):
@@ -83,18 +88,11 @@ class Shelf:
         return f"{self.__class__.__name__}({str(self)!r})"
 
     def copied(self):
-        told = self.empty_one()
-        for term in self._terms:
-            for note in self._notes[str(term)]:
-                told._put(term, note)
-        # What was put into the copy so far makes it, and is no deed of its own.
-        told._changes = 0
-        return told
+        return filled_shelf(self.empty_one(), [(term, self._notes[str(term)]) for term in self._terms])
 
     def ask(self, way, term, *, limit=None):
         self.need_ask(way, term)
-        if limit is not None and not is_whole(limit, 1, MOST_KEPT):
-            raise NoNumber(limit)
+        need_limit(limit)
         answers = []
         for kept in self._among(self.candidates(way, term)):
             answer = answer_of(way, term, kept, self._notes[str(kept)])
@@ -175,8 +173,8 @@ class Shelf:
                 raise TooMany(self._most + 1)
         elif note in notes:
             raise Twice(note)
-        elif len(notes) == _MOST_NOTES:
-            raise TooMany(_MOST_NOTES + 1)
+        elif len(notes) == MOST_NOTES:
+            raise TooMany(MOST_NOTES + 1)
 
     def _put(self, term, note):
         """Put a term in with a note; told is what undoes it."""
@@ -226,6 +224,15 @@ class Shelf:
             del self._notes[str(kept)]
             self._terms = [term for term in self._terms if term != kept]
             self.index_take(kept)
+
+
+def filled_shelf(shelf, rows):
+    """A new shelf with the terms and notes of some rows, put in as by put; they make it, and are no deeds of it."""
+    for term, notes in rows:
+        for note in notes:
+            shelf._put(term, note)
+    shelf._changes = 0
+    return shelf
 
 
 class PlainShelf(Shelf):

@@ -3,12 +3,13 @@
 from termshelf.errors import NotThere, NoWords
 from termshelf.marks import is_list, is_name, is_whole
 
+MOST_PLACES = 4
+
 _MOST_WORDS = 12
-_MOST_PLACES = 4
 
 
 def _is_row(thing):
-    return isinstance(thing, tuple) and len(thing) == 2 and is_name(thing[0]) and is_whole(thing[1], 0, _MOST_PLACES)
+    return isinstance(thing, tuple) and len(thing) == 2 and is_name(thing[0]) and is_whole(thing[1], 0, MOST_PLACES)
 
 
 def _are_rows(thing):

@@ -242,7 +242,7 @@ def need_term_of(words, thing):
     need_like(words, thing)
 
 
-def _need_few_signs(term):
+def need_few_signs(term):
     if len(term) > MOST_SMALL:
         raise TooGreat(len(term))
 
@@ -250,7 +250,7 @@ def _need_few_signs(term):
 def need_small(words, thing):
     """Refuse what is no term of some words that may be kept, asked with or met."""
     need_term_of(words, thing)
-    _need_few_signs(thing)
+    need_few_signs(thing)
 
 
 def need_two(one, other):
@@ -260,8 +260,8 @@ def need_two(one, other):
 
 def need_two_small(one, other):
     need_two(one, other)
-    _need_few_signs(one)
-    _need_few_signs(other)
+    need_few_signs(one)
+    need_few_signs(other)
 
 
 def term_of(words, text):

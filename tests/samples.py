@@ -6,10 +6,12 @@ import unittest
 
 from termshelf import errors
 from termshelf.answers import answer_of
+from termshelf.desk import Desk
 from termshelf.handing import Handing
 from termshelf.puttings import Putting
 from termshelf.putshelf import PutShelf
 from termshelf.puttree import PutNode
+from termshelf.rules import Rule, Rules
 from termshelf.shelves import PlainShelf, Shelf
 from termshelf.signs import Words
 from termshelf.signshelf import SignShelf
@@ -48,6 +50,25 @@ def shelf_of(kind, rows, words=WORDS, most=40):
     return told
 
 
+BYS = ["plain", "signs", "puts"]
+
+
+def rule(text, words=WORDS):
+    """A rule of a text like `f A B -> A`."""
+    left, right = text.split(" -> ")
+    return Rule(term(left, words), term(right, words))
+
+
+def rules_of(by, texts, words=WORDS):
+    """Rules of texts; None stands for a number that is dropped."""
+    told = Rules(words, by=by)
+    for text in texts:
+        number = told.put(rule("g g g g g g g g c -> c" if text is None else text, words))
+        if text is None:
+            told.drop(number)
+    return told
+
+
 def great_signs(letter, many):
     """So many signs of a term, an odd number, whose parts are halved again and again, so that it isn't deep."""
     if many == 1:
@@ -80,7 +101,8 @@ def any_things():
         nested(8), WORDS, OTHER, term("A"), term("f A g c"), term("A", OTHER), putting({}), putting({"A": "c"}),
         putting({}, OTHER), answer_of("meets", term("A"), term("c"), ["one"]), errors.NoTerm(None), errors.NoMore(),
         shelf_of(PlainShelf, ["A : one"]), SignShelf(OTHER), PutShelf(WORDS), SignTree(WORDS, [term("A")]),
-        PutNode([term("A")]), Handing(PlainShelf(WORDS), "meets", term("A")),
+        PutNode([term("A")]), Handing(PlainShelf(WORDS), "meets", term("A")), rule("g A -> c"), Rules(WORDS),
+        Rules(OTHER, by="signs"), Desk(WORDS), [term("A")], [(0, rule("g A -> c"))], [PlainShelf(WORDS)],
     ]
 
 
@@ -98,6 +120,11 @@ def marked(thing):
     if isinstance(thing, Shelf):
         kept = [(str(kept), thing.notes(kept)) for kept in thing.terms()]
         return (type(thing).__name__, thing.most(), kept, thing.changes(), thing.log())
+    if isinstance(thing, Rules):
+        return (type(thing).__name__, str(thing), str(thing.shelf()), thing.log())
+    if isinstance(thing, Desk):
+        shelves = [(name, marked(thing.shelf(name))) for name in thing.names()]
+        return (type(thing).__name__, shelves, thing.hands(), thing.done(), thing.log(), thing.busy())
     if isinstance(thing, Handing):
         return (type(thing).__name__, thing.left(), thing.given())
     return (type(thing).__name__, str(thing))
@@ -147,6 +174,20 @@ class Chance:
             whole = behind == 0 and self.one_of([True, False])
             signs.extend(self._signs(words, left if whole else 1 + self._random.randrange(left), letters))
         return signs
+
+
+def drawn_rules(chance, words, many):
+    """Texts of rules by chance, no two alike, and None here and there."""
+    told = []
+    while len(told) < many:
+        left = chance.text(words, 7, chance.one_of([["A"], ["A", "B"], ["A", "B", "C"]]))
+        letters = term(left, words).letters()
+        text = f"{left} -> {chance.text(words, chance.one_of([1, 5, 9]), letters or ['c'])}"
+        if left not in letters and text not in told:
+            told.append(text)
+            if chance.one_of(range(4)) == 0:
+                told.append(None)
+    return told
 
 
 FAMILIES = (errors.TermError, errors.Absent, errors.Ended)

@@ -81,7 +81,8 @@ class Statements(unittest.TestCase):
     def test_own_errors_alone_are_caught(self):
         errors = [node.name for path, node in nodes(ast.ClassDef) if path.name == "errors.py"]
         for path, node in nodes(ast.Try):
-            self.assertEqual(node.finalbody, [], (path, node.lineno))
+            for row in node.finalbody:
+                self.assertIsInstance(row, (ast.Assign, ast.Expr), (path, node.lineno))
             for handler in node.handlers:
                 caught = handler.type.elts if isinstance(handler.type, ast.Tuple) else [handler.type]
                 self.assertLessEqual({name.id for name in caught}, set(errors), (path, node.lineno))

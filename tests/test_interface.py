@@ -21,6 +21,17 @@ FUNCTIONS = {
     "putbars": ["bar_of(words, pattern, way, term)", "shows_bar(words, pattern, way, term, thing)"],
     "handing": ["teller(shelf, way, *, limit=None)"],
     "joined": ["told_by(shelf, ask)", "pushed(ask)", "why_told(shelf, term, ask)"],
+    "rewriting": ["steps_of(rules, term, *, only=None)", "first_step(rules, term, *, only=None)",
+                  "rewritten(rules, term, *, most=50, only=None)", "normal_of(rules, term, *, most=50)",
+                  "shows_rows(rules, term, thing)", "plain_rewritten(rows, term, *, most=50)"],
+    "meetings": ["meetings(rules)", "plain_meetings(rows)", "shows_met(rules, thing)",
+                 "joins(rules, thing, *, most=50)"],
+    "covers": ["covers(words, one, other)", "no_cover(words, one, other)", "shows_no_cover(words, one, other, thing)",
+               "shows_cover(words, one, other, putting, places)", "uncovered(words, rows)"],
+    "cutting": ["root_of(term)", "cut(shelf)", "joined(shelves, *, kind='plain', most=40)",
+                "roots_for(parts, way, term)", "asked_of(parts, way, term, *, limit=None)", "unlike_terms(one, other)"],
+    "shelftext": ["shelf_text(shelf)", "shelf_of(text)"],
+    "desklines": ["is_line(thing)"],
 }
 SHOWN = ["__eq__(self, other)", "__str__(self)", "__repr__(self)"]
 KIND = ["index_put(self, term)", "index_take(self, term)", "empty_one(self)", "candidates(self, way, term)",
@@ -54,9 +65,19 @@ CLASSES = {
     ("putshelf", "PutShelf(words, *, most=40)"): KIND + ["tree(self)", "nodes(self)"],
     ("handing", "Handing(shelf, way, term, *, steady=True)"): [
         "more(self)", "left(self)", "given(self)", "rest(self)", "begin_anew(self)"],
+    ("rules", "Rule(left, right)"): ["words(self)", "left(self)", "right(self)", "normal(self)",
+                                     "rewritten_at(self, term, spot)"] + SHOWN,
+    ("rules", "Rules(words, *, by='plain')"): [
+        "put(self, rule)", "drop(self, number)", "put_all(self, rules)", "log(self)", "words(self)", "rules(self)",
+        "rule_of(self, number)", "shelf(self)", "__len__(self)"] + SHOWN,
+    ("desk", "Desk(words, *, most=6)"): [
+        "say(self, line)", "say_all(self, lines)", "names(self)", "hands(self)", "shelf(self, name)", "busy(self)",
+        "done(self)", "log(self)"],
 }
 VALUES = {("marks", "MOST_PLAIN"): 9999, ("terms", "MOST_SIGNS"): 100, ("shelves", "MOST_KEPT"): 40,
-          ("puttree", "HOLE"): "?"}
+          ("puttree", "HOLE"): "?", ("rules", "MOST_RULES"): 40, ("rewriting", "MOST_STEPS"): 50,
+          ("meetings", "MOST_STEPS"): 50, ("cutting", "KINDS"): ("plain", "signs", "puttings"),
+          ("desk", "MOST_SHELVES"): 6}
 
 
 def module_of(name):
