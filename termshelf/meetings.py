@@ -35,30 +35,30 @@ def _row(first, spot, second, whole, asked):
     return (first[0], spot, second[0], peak, one, other)
 
 
-def _rows_of(first, find):
+def _rows_of(first, search):
     """All meetings of a numbered rule with others, which a function of a part of its left side finds."""
     left = first[1].left()
     told = []
     for at, spot in enumerate(left.spots()):
         part = left.part_from(at)
         if left.words().has(part.head()):
-            met_there = [row for row in find(part) if spot != () or row[0] > first[0]]
+            met_there = [row for row in search(part) if spot != () or row[0] > first[0]]
             told.extend([_row(first, spot, (number, rule), whole, asked) for number, rule, whole, asked in met_there])
     return told
 
 
-def _meetings(rows, find):
-    return [row for first in rows for row in _rows_of(first, find)]
+def _meetings(rows, search):
+    return [row for first in rows for row in _rows_of(first, search)]
 
 
 def meetings(rules):
     need_rules(rules)
 
-    def find(part):
+    def search(part):
         found = rules.found_by("meets", part)
         return [(number, rule, answer.whole(), answer.asked()) for number, rule, answer in found]
 
-    return _meetings(rules.rules(), find)
+    return _meetings(rules.rules(), search)
 
 
 def plain_meetings(rows):
@@ -68,11 +68,11 @@ def plain_meetings(rows):
             raise Unlike(row[1].left())
     rules = list(rows)
 
-    def find(part):
+    def search(part):
         shown = [(number, rule, met(part, rule.left())) for number, rule in rules]
         return [(number, rule, told[0], told[1]) for number, rule, told in shown if told is not None]
 
-    return _meetings(rules, find)
+    return _meetings(rules, search)
 
 
 def _is_meeting_spot(rule, thing):

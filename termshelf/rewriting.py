@@ -39,18 +39,18 @@ def _finder(rules, only):
     return told
 
 
-def _steps_at(term, at, spot, find):
+def _steps_at(term, at, spot, search):
     part = term.part_from(at)
     if not term.words().has(part.head()):
         # No left side is a letter, so none becomes one.
         return []
-    steps = [(spot, number, rule.made_of(term, at, part)) for number, rule in find(part)]
+    steps = [(spot, number, rule.made_of(term, at, part)) for number, rule in search(part)]
     return [step for step in steps if step[2] is not None]
 
 
-def _first_step(term, find):
+def _first_step(term, search):
     for at, spot in enumerate(term.spots()):
-        steps = _steps_at(term, at, spot, find)
+        steps = _steps_at(term, at, spot, search)
         if steps:
             return steps[0]
     return None
@@ -59,8 +59,8 @@ def _first_step(term, find):
 def steps_of(rules, term, *, only=None):
     _need_rules_and_term(rules, term)
     _need_only(rules, only)
-    find = _finder(rules, only)
-    return [step for at, spot in enumerate(term.spots()) for step in _steps_at(term, at, spot, find)]
+    search = _finder(rules, only)
+    return [step for at, spot in enumerate(term.spots()) for step in _steps_at(term, at, spot, search)]
 
 
 def first_step(rules, term, *, only=None):
@@ -69,11 +69,11 @@ def first_step(rules, term, *, only=None):
     return _first_step(term, _finder(rules, only))
 
 
-def _run(term, most, find):
+def _run(term, most, search):
     """The ending, the rows, and the step that isn't done any more, None where none is left."""
     rows = []
     while True:
-        step = _first_step(term, find)
+        step = _first_step(term, search)
         if step is None:
             return ("done", rows, None)
         if len(rows) == most:
@@ -118,9 +118,9 @@ def shows_rows(rules, term, thing):
     _need_rules_and_term(rules, term)
     if not isinstance(thing, (list, tuple)):
         return False
-    find = _finder(rules, None)
+    search = _finder(rules, None)
     for row in thing:
-        if len(term) > MOST_SMALL or not _is_step(term, row, _first_step(term, find)):
+        if len(term) > MOST_SMALL or not _is_step(term, row, _first_step(term, search)):
             return False
         term = row[2]
     return True

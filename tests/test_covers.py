@@ -1,6 +1,5 @@
 """Rows of terms that cover rows: points 104 and 105."""
 
-import itertools
 import unittest
 
 from termshelf import errors

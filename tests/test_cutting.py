@@ -185,7 +185,8 @@ class Parts(Case):
             parts.pop("g")
             parts.pop("N0")
             for way, text, roots in [("variants", "g A", []), ("above", "g c", []), ("meets", "g A", []),
-                                     ("above", "f A B", ["f"]), ("meets", "A", ["f", "c"]), ("instances", "A", ["f", "c"]),
+                                     ("above", "f A B", ["f"]), ("meets", "A", ["f", "c"]),
+                                     ("instances", "A", ["f", "c"]),
                                      ("variants", "A", []), ("above", "A", [])]:
                 self.assertEqual(roots_for(parts, way, term(text)), roots)
             for way in WAYS:

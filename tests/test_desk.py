@@ -5,13 +5,11 @@ import unittest
 
 from termshelf import errors
 from termshelf.desk import Desk
-from termshelf.shelftext import shelf_text
-from termshelf.shelves import PlainShelf
 from termshelf.signs import Words
 from tests.plaindesk import Plain
 from tests.samples import LIKE, OTHER, WAYS, WORDS
 from tests.samples import Case, Chance, any_things, marked, shelf_of, term, things_but
-from tests.test_cutting import KIND_OF, ROWS, kept
+from tests.test_cutting import KIND_OF, kept
 
 FILL = ["put a z A", "put a one f A B", "put a two f A B", "put a a f A A", "put a b f c A", "put a one c"]
 
@@ -245,11 +243,13 @@ class Refused(Looks):
     def test_names_from_the_left(self):
         desk = desk_of(["shelf a plain 40", "shelf b signs 40", "hand h a meets A"])
         for line, error, name in [
-                ("shelf a plain 1", errors.Twice, "a"), ("copy c a", errors.NotThere, "c"), ("copy a b", errors.Twice, "b"),
+                ("shelf a plain 1", errors.Twice, "a"), ("copy c a", errors.NotThere, "c"),
+                ("copy a b", errors.Twice, "b"),
                 ("copy c c", errors.NotThere, "c"), ("copy a a", errors.Twice, "a"), ("drop h", errors.NotThere, "h"),
                 ("put c one d", errors.NotThere, "c"), ("take c one d", errors.NotThere, "c"),
                 ("together c put one d", errors.NotThere, "c"), ("terms h", errors.NotThere, "h"),
-                ("notes c d", errors.NotThere, "c"), ("changes c", errors.NotThere, "c"), ("log c", errors.NotThere, "c"),
+                ("notes c d", errors.NotThere, "c"), ("changes c", errors.NotThere, "c"),
+                ("log c", errors.NotThere, "c"),
                 ("ask c meets d", errors.NotThere, "c"), ("first 1 c meets d", errors.NotThere, "c"),
                 ("shown c meets d", errors.NotThere, "c"), ("steps c meets d", errors.NotThere, "c"),
                 ("barred c meets d", errors.NotThere, "c"), ("hand h c meets d", errors.Twice, "h"),
@@ -457,9 +457,11 @@ def drawn_line(chance, shelves, hands):
         f"shelf {name} {kind} {chance.one_of([2, 40])}", f"copy {name} {other}", f"drop {name}", "shelves", "hands",
         f"take {name} {note} {text}", f"together {name} {deeds}", f"together {name} {deeds}", f"terms {name}",
         f"notes {name} {text}", f"changes {name}", f"log {name}", f"ask {name} {way} {text}",
-        f"first {chance.one_of([1, 2, 41])} {name} {way} {text}", f"shown {name} {way} {text}", f"barred {name} {way} {text}",
+        f"first {chance.one_of([1, 2, 41])} {name} {way} {text}", f"shown {name} {way} {text}",
+        f"barred {name} {way} {text}",
         f"meet {text} / {chance.text(WORDS, 5, ['A', 'B'])}", f"hand {hand} {name} {way} {text}",
-        f"loose {hand} {name} {way} {text}", f"more {hand}", f"more {hand}", f"left {hand}", f"rest {hand}", f"anew {hand}",
+        f"loose {hand} {name} {way} {text}", f"more {hand}", f"more {hand}", f"left {hand}", f"rest {hand}",
+        f"anew {hand}",
         f"text {name}", f"read {name} {rows}", f"cut {name}", f"join {name} {kind} {other} {chance.one_of(shelves)}",
         f"unlike {name} {other}", f"steps {name} {way} {text}"])
 
@@ -511,7 +513,8 @@ class Histories(Case):
 
     def test_shelves_made_by_other_orders_of_lines_go_on_alike(self):
         chance = Chance(7)
-        puts = [f"put a {note} {text}" for note, text in zip("abcdefgh", ["A", "f A B", "c", "g A", "f A A", "g c", "f c c"])]
+        texts = ["A", "f A B", "c", "g A", "f A A", "g c", "f c c"]
+        puts = [f"put a {note} {text}" for note, text in zip("abcdefg", texts)]
         for kind in KIND_OF:
             desks = []
             for _ in range(3):

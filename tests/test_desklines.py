@@ -21,8 +21,8 @@ BAD = """
 shelf a Plain 1|shelf a puts 1|shelf a plain 1 1|shelf A plain 1|shelf abcdefghi plain 1|shelf plain 1|Shelf a plain 1
 copy a|copy a b c|copy a B|copy|drop|drop a b|drop A|shelves a|put a one|put a|put a One c|put A one c|put a one /
 put a one c / c|put a one / c|take a one c /|put one|together a|together|together a put one|together a put one c /
-together a / put one c|together a put one c / / put two c|together a drop one c|together a put One c|together a put one c x / put
-together a put c|terms|terms a b|notes a|notes a /|notes a c / c|changes|changes a b|log|log a b|ask a|ask a meets
+together a / put one c|together a put one c / / put two c|together a drop one c|together a put One c
+together a put one c / put|together a put c|terms|terms a b|notes a|notes a /|notes a c / c|changes|changes a b|log|log a b|ask a|ask a meets
 ask a meet A|ask a A meets|ask meets A|ask a meets /|ask a meets A / B|ask a Meets A|first a meets A|first 0 a meets A
 first 41 a meets A|first 1 a meets|first a 1 meets A|first 01 a meets A|shown a meets|shown a c|steps a meets|steps a
 barred a above|barred a|meet|meet A|meet A /|meet / A|meet A / B / C|meet A / B /|meet / A / B|meet A // B|meet /

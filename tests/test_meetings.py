@@ -1,6 +1,5 @@
 """Where rules meet: points 101 to 103."""
 
-import itertools
 import unittest
 
 from termshelf import errors

@@ -1,11 +1,10 @@
 """Rewriting by rules: points 92 and 96 to 99."""
 
-import itertools
 import unittest
 
 from termshelf import errors
 from termshelf.rewriting import MOST_STEPS, first_step, normal_of, plain_rewritten, rewritten, shows_rows, steps_of
-from termshelf.rules import Rule, Rules
+from termshelf.rules import Rules
 from termshelf.terms import Term
 from tests import plain, plainrules
 from tests.samples import BYS, LIKE, OTHER, WIDE, WORDS
@@ -246,7 +245,8 @@ class Rewritten(Case):
                 self.assertEqual(texts(rewritten(kind, tree, most=most)[1]), told)
                 self.assertEqual(rewritten(kind, tree, most=most), plain_rewritten(kind.rules(), tree, most=most))
                 if ending == "done":
-                    self.assertEqual(str(normal_of(kind, tree, most=most)), ([str(tree)] + [row[2] for row in told])[-1])
+                    last = ([str(tree)] + [row[2] for row in told])[-1]
+                    self.assertEqual(str(normal_of(kind, tree, most=most)), last)
                 elif ending == "most":
                     self.refused(errors.Endless, "many", most, normal_of, kind, tree, most=most)
                 else:
@@ -270,8 +270,8 @@ class Rewritten(Case):
 
     def test_forty_rules_and_two_hundred_steps(self):
         for by in BYS:
-            rules = rules_of(by, [f"{'g ' * many}f {end} -> c" for many in range(1, 14) for end in ("c c", "A A", "c A")]
-                             + ["f c A -> f c A"])
+            texts = [f"{'g ' * many}f {end} -> c" for many in range(1, 14) for end in ("c c", "A A", "c A")]
+            rules = rules_of(by, texts + ["f c A -> f c A"])
             tree = term("f c " * 7 + "c")
             self.assertEqual(len(tree), 15)
             ending, told = rewritten(rules, tree, most=200)

@@ -9,7 +9,6 @@ from termshelf.rules import Rule, Rules
 from termshelf.shelves import PlainShelf
 from termshelf.signs import Words
 from termshelf.signshelf import SignShelf
-from termshelf.terms import Term
 from tests import plain
 from tests.samples import BYS, LIKE, OTHER, WIDE, WORDS
 from tests.samples import Case, Chance, any_things, great, marked, rule, rules_of, term, things_but

@@ -5,14 +5,12 @@ import re
 import unittest
 
 from termshelf import errors
-from termshelf.putshelf import PutShelf
 from termshelf.shelftext import shelf_of as read
 from termshelf.shelftext import shelf_text
-from termshelf.shelves import PlainShelf, Shelf
+from termshelf.shelves import Shelf
 from termshelf.signs import Words
-from termshelf.signshelf import SignShelf
 from tests.samples import KINDS, LIKE, WAYS, WIDE, WORDS
-from tests.samples import Case, Chance, any_things, great, marked, shelf_of, term, terms_of, things_but
+from tests.samples import Case, Chance, any_things, great, marked, shelf_of, term, things_but
 from tests.test_cutting import KIND_OF, ROWS, drawn_shelf, kept
 
 HEAD = ["shelf plain 40", "words f 2 g 1 c 0"]
@@ -167,8 +165,10 @@ class Refused(Case):
     def test_later_rows(self):
         bad = ["", " ", "term", "term :", "term c", "term c :", "term : one", "term c one", "term c : One", "term c : ",
                "term c  : one", " term c : one", "term c : one ", "term c : one  two", "term c: one", "term c :one",
-               "term f A : one", "term c c : one", "term d : one", "term f c : one", "term A0 B : one", "term A00 : one",
-               "term c : one one", "term c : a b a", "term c : a b c d e f g h i", "term c : ninesigns", "terms c : one",
+               "term f A : one", "term c c : one", "term d : one", "term f c : one", "term A0 B : one",
+               "term A00 : one",
+               "term c : one one", "term c : a b a", "term c : a b c d e f g h i", "term c : ninesigns",
+               "terms c : one",
                "Term c : one", "c : one", "term c : one :", "term c : : one", "term : c : one", "term c : one : two",
                "term ? : one", "term g : one", "term term : one", "words f 2 g 1 c 0", "term C : 1", "term c : A",
                f"term {'g ' * 16}c : one"]
@@ -220,7 +220,8 @@ class Refused(Case):
     def test_each_sign_otherwise(self):
         text = "shelf signs 37\nwords f 2 c 0\nterm f N0 c : one two\nterm c : a"
         seen = [self.looked_at(text)]
-        for at, other in itertools.product(range(len(text) + 1), [" ", "\n", ":", "?", "a", "A", "0", "3", "f", "c", "~", ""]):
+        others = [" ", "\n", ":", "?", "a", "A", "0", "3", "f", "c", "~", ""]
+        for at, other in itertools.product(range(len(text) + 1), others):
             seen.append(self.looked_at(text[:at] + other + text[at + 1:]))
             seen.append(self.looked_at(text[:at] + other + text[at:]))
         self.assertGreater(min(seen.count(True), seen.count(False)), 100)
