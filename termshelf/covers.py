@@ -65,8 +65,7 @@ def no_cover(words, one, other):
 
 def shows_no_cover(words, one, other, thing):
     _need_rows(words, one, other)
-    tries = _tries(one, other, {})
-    return tries is not None and isinstance(thing, list) and thing == tries
+    return isinstance(thing, list) and thing == _tries(one, other, {})
 
 
 def _are_letters_of(row, putting):
@@ -92,8 +91,8 @@ def shows_cover(words, one, other, putting, places):
 
 
 def _is_covered(covering, number):
-    """Whether another row covers this one, but for those behind it that it covers, too."""
-    others = [other for other in range(len(covering)) if other != number and covering[other][number]]
+    """Whether a row covers this one, but for those from it on that it covers, too."""
+    others = [other for other in range(len(covering)) if covering[other][number]]
     return any([other < number or not covering[number][other] for other in others])
 
 

@@ -55,8 +55,7 @@ def joined(shelves, *, kind="plain", most=MOST_KEPT):
     rows = _joined_rows(shelves)
     if any([len(notes) > MOST_NOTES for _, notes in rows]):
         raise TooMany(MOST_NOTES + 1)
-    if len(rows) > most:
-        raise TooMany(most + 1)
+    # More terms than it may keep the shelf itself refuses.
     return filled_shelf(shelf_of_kind(kind, shelves[0].words(), most), rows)
 
 

@@ -76,7 +76,7 @@ class Desk:
         return self._kept.hands()
 
     def shelf(self, name):
-        if not isinstance(name, str) or name not in self._kept.names():
+        if name not in self.names():
             raise NotThere(name)
         return self._kept.shelf(name).copied()
 

@@ -42,7 +42,6 @@ _FORMS = {
     "unlike": ("name", "name"),
 }
 _OPEN_ENDED = ("term", "two terms", "deeds", "rows", "names")
-_NAMES = ("new", "name", "new hand", "hand", "note")
 
 
 def _parted(words):
@@ -61,12 +60,10 @@ def _one_word(part, word):
     if part == "number":
         return number_in(word, low=1, high=MOST_KEPT)
     if part == "kind":
-        good = word in KINDS
-    elif part == "way":
-        good = word in WAYS
-    else:
-        good = part in _NAMES and is_name(word)
-    return word if good else None
+        return word if word in KINDS else None
+    if part == "way":
+        return word if word in WAYS else None
+    return word if is_name(word) else None
 
 
 def _is_deed(words):

@@ -83,8 +83,7 @@ def _is_meeting_spot(rule, thing):
 
 def _is_end(rule, peak, spot, thing):
     at = peak.place_at(spot)
-    made = rule.made_of(peak, at, peak.part_from(at))
-    return made is not None and isinstance(thing, Term) and thing == made
+    return isinstance(thing, Term) and thing == rule.made_of(peak, at, peak.part_from(at))
 
 
 def _shows_met(rules, thing):

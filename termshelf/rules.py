@@ -10,7 +10,6 @@ from termshelf.terms import made_term, need_like, need_term_of, need_two_small
 
 MOST_RULES = 40
 
-_MOST_ALIKE = 8
 _NOTE_SIGNS = "abcdefghijklmnopqrstuvwxyz"
 
 # The kinds of shelf by which rules are found, and how the shelves call them.
@@ -177,17 +176,12 @@ class Rules:
             raise Twice(rule)
         if len(self._rules) == MOST_RULES:
             raise TooMany(MOST_RULES + 1)
-        self._need_few_alike(rule)
         number = self._next
+        # The shelf refuses a ninth note, and so a rule where eight are kept whose left sides are variants of its own.
         self._shelf.put(rule.left(), _note_of(number))
         self._rules[number] = rule
         self._next += 1
         return number
-
-    def _need_few_alike(self, rule):
-        left = rule.left()
-        if self._shelf.has(left) and len(self._shelf.notes(left)) == _MOST_ALIKE:
-            raise TooMany(_MOST_ALIKE + 1)
 
     def _drop(self, number):
         self._shelf.take(self.rule_of(number).left(), _note_of(number))

@@ -37,10 +37,10 @@ def _read_shelf(row):
 def _read_words(row):
     """The words, None of a row that isn't the second one of a whole text."""
     words = words_in(row)
-    if words is None or len(words) < 3 or words[0] != "words" or len(words) % 2 == 0:
+    if words is None or words[0] != "words" or len(words) % 2 == 0:
         return None
     pairs = [(name, number_in(places, high=MOST_PLACES)) for name, places in zip(words[1::2], words[2::2])]
-    # What is no word and what are none together is refused alike, a number that isn't plainly written too.
+    # No words at all, or a number that isn't plainly written, make no words either.
     try:
         return Words(pairs)
     except TermError:

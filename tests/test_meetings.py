@@ -1,6 +1,7 @@
 """Where rules meet: points 101 to 103."""
 
 import unittest
+from unittest import mock
 
 from termshelf import errors
 from termshelf.meetings import joins, meetings, plain_meetings, shows_met
@@ -18,6 +19,12 @@ GROUP = ["f f A B C -> f A f B C", "f c A -> A"]
 
 def texts(rows):
     return [row[:3] + tuple([str(one) for one in row[3:]]) for row in rows]
+
+
+def kept_by(by, rules):
+    told = Rules(WIDE, by=by)
+    told.put_all(rules)
+    return told
 
 
 class All(Case):
@@ -102,6 +109,20 @@ class All(Case):
         self.assertEqual(texts(plain_meetings(rows)), told)
         peak = [row for row in plain_meetings(rows) if row[:3] == (0, (), 1)][0]
         self.assertEqual([len(peak[3]), len(peak[4])], [1 + 213 + 53 + 13 + 4, 3 + 10 * 213])
+
+    def test_more_signs_than_may_be_told(self):
+        rules = [rule("f g A B -> t B B B B", WIDE), rule("g A -> t A A c A", WIDE), rule("f A B -> c", WIDE)]
+        rows = list(enumerate(rules))
+        self.assertEqual([len(one) for row in plain_meetings(rows) for one in row[3:]],
+                         [4, 5, 1, 4, 5, 7])
+        # Rules whose peaks have as many signs as are refused are hard to find, so fewer are let by here.
+        for most, found in [(7, None), (6, 7), (5, 7), (4, 5), (3, 4)]:
+            with mock.patch("termshelf.meetings.MOST_TOLD", most):
+                for ask in [lambda: plain_meetings(rows)] + [lambda by=by: meetings(kept_by(by, rules)) for by in BYS]:
+                    if found is None:
+                        self.assertEqual(len(ask()), 2)
+                    else:
+                        self.refused(errors.TooGreat, "many", found, ask)
 
     def test_forty_rules(self):
         drawn = [f"{'g ' * many}A -> {'g ' * less}A" for many in range(1, 9) for less in range(5)]
@@ -238,6 +259,7 @@ class Shown(Case):
         other = term("f N0 f c N1", OTHER)
         self.told(False, shows_met(rules, row[:3] + (other,) + row[4:]))
         self.told(False, shows_met(rules, row[:5] + (term("f N0 N1", OTHER),)))
+        self.told(False, shows_met(rules, row[:3] + tuple([term(str(one), OTHER) for one in row[3:]])))
         self.told(True, shows_met(rules, row[:5] + (term("f N0 N1", LIKE),)))
 
     def test_great_terms(self):
