@@ -139,6 +139,8 @@ class Joined(Case):
             self.refused(errors.TooMany, "many", 9, joined, [one, other, more])
             # A term's ninth note is refused ahead of one term more.
             self.refused(errors.TooMany, "many", 9, joined, [one, other, more], most=1)
+            self.found(errors.NoNumber, 0, joined, [one, other, more], most=0)
+            self.found(errors.NoShelf, "puts", joined, [one, other, more], kind="puts", most=0)
 
     def test_by_chance(self):
         chance = Chance(112)
