@@ -30,13 +30,26 @@ def _need_rules_and_term(rules, term):
     need_small(rules.words(), term)
 
 
-def _finder(rules, only):
-    """A function of a part that tells the rules that fit there, by rising numbers; they are found by the shelf."""
-    def told(part):
-        found = rules.found_by("above", part)
-        return [(number, rule) for number, rule, _ in found if only is None or number in only]
+class Search:
+    """Called with a part it tells the rules that fit there, by rising numbers; they are found by the shelf.
 
-    return told
+    While a term is rewritten the rules stay as they are, so what was found of a part is kept until the same one comes.
+    """
+
+    def __init__(self, rules, only):
+        self._kept = rules
+        self._only = only
+        self._known = {}
+
+    def __call__(self, part):
+        text = str(part)
+        if text not in self._known:
+            found = self._kept.found_by("above", part)
+            self._known[text] = [(number, rule) for number, rule, _ in found if self._counts(number)]
+        return self._known[text]
+
+    def _counts(self, number):
+        return self._only is None or number in self._only
 
 
 def _steps_at(term, at, spot, search):
@@ -59,14 +72,14 @@ def _first_step(term, search):
 def steps_of(rules, term, *, only=None):
     _need_rules_and_term(rules, term)
     _need_only(rules, only)
-    search = _finder(rules, only)
+    search = Search(rules, only)
     return [step for at, spot in enumerate(term.spots()) for step in _steps_at(term, at, spot, search)]
 
 
 def first_step(rules, term, *, only=None):
     _need_rules_and_term(rules, term)
     _need_only(rules, only)
-    return _first_step(term, _finder(rules, only))
+    return _first_step(term, Search(rules, only))
 
 
 def _run(term, most, search):
@@ -88,14 +101,14 @@ def rewritten(rules, term, *, most=MOST_STEPS, only=None):
     _need_rules_and_term(rules, term)
     _need_most(most)
     _need_only(rules, only)
-    ending, rows, _ = _run(term, most, _finder(rules, only))
+    ending, rows, _ = _run(term, most, Search(rules, only))
     return (ending, rows)
 
 
 def normal_of(rules, term, *, most=MOST_STEPS):
     _need_rules_and_term(rules, term)
     _need_most(most)
-    ending, rows, step = _run(term, most, _finder(rules, None))
+    ending, rows, step = _run(term, most, Search(rules, None))
     if ending == "most":
         raise Endless(most)
     if ending == "wide":
@@ -118,7 +131,7 @@ def shows_rows(rules, term, thing):
     _need_rules_and_term(rules, term)
     if not isinstance(thing, (list, tuple)):
         return False
-    search = _finder(rules, None)
+    search = Search(rules, None)
     for row in thing:
         if len(term) > MOST_SMALL or not _is_step(term, row, _first_step(term, search)):
             return False

@@ -268,6 +268,9 @@ class Refused(Looks):
             for line in ("shelf z plain 1", "copy a z", "read z", "read z x", "join z plain a"):
                 self.refuses(desk, line, errors.TooMany, "many", most + 1)
             self.refuses(desk, "copy z a", errors.NotThere, "found", "z")
+            self.refuses(desk, "copy a a", errors.Twice, "found", "a")
+            self.refuses(desk, "shelf a plain 1", errors.Twice, "found", "a")
+            self.refuses(desk, "read a x", errors.Twice, "found", "a")
             self.refuses(desk, "join z plain y", errors.NotThere, "found", "y")
             desk.say("drop a")
             self.told(desk, "shelf z puttings 1")

@@ -16,7 +16,7 @@ METHODS = """
     isupper items join keys ljust lower lstrip partition pop remove replace reverse rfind rjust rpartition
     rsplit rstrip setdefault split splitlines startswith strip update upper values zfill bit_length
 """.split()
-DOUBLE = "__init__ __eq__ __repr__ __str__ __len__".split()
+DOUBLE = "__init__ __eq__ __repr__ __str__ __len__ __call__".split()
 BARRED_NAMES = """
     register mro elements open input law version_info with_traceback add_note attrgetter breakpoint builtins
     compile copyright delattr dir eval exec exit gc getattr globals hasattr help id importlib license locals

@@ -6,7 +6,7 @@ from unittest import mock
 from termshelf import errors
 from termshelf.meetings import joins, meetings, plain_meetings, shows_met
 from termshelf.rewriting import normal_of
-from termshelf.rules import Rules
+from termshelf.rules import Rule, Rules
 from termshelf.terms import Term
 from tests import plain, plainrules
 from tests.samples import BYS, LIKE, OTHER, WIDE, WORDS
@@ -131,6 +131,28 @@ class All(Case):
         self.assertEqual(len(plainly), 40 * 39 // 2 + sum(5 * (many - 1) * 40 for many in range(1, 9)))
         for rules in told:
             self.assertEqual(meetings(rules), plainly)
+
+    def test_forty_rules_with_sides_of_sixteen_signs(self):
+        chance = Chance(140)
+        made = []
+        while len(made) < 40:
+            left, right = [term(chance.text(WIDE, 16, ["A", "B", "C", "D"]), WIDE) for _ in range(2)]
+            if len(left) > 10 and set(right.letters()) <= set(left.letters()):
+                made.append(Rule(left, right))
+        kinds = [kept_by(by, made) for by in BYS]
+        told = plain_meetings(kinds[0].rules())
+        self.assertGreater(len(told), 100)
+        for rules in kinds:
+            self.assertEqual(meetings(rules), told)
+            for row in told[::10]:
+                self.told_row(rules, row)
+
+    def told_row(self, rules, row):
+        self.assertIs(shows_met(rules, row), True)
+        try:
+            self.assertIn(joins(rules, row, most=200), [True, False])
+        except (errors.Endless, errors.TooGreat) as refusal:
+            self.assertIn(type(refusal), [errors.Endless, errors.TooGreat])
 
     def test_lists_are_new_ones(self):
         rules = rules_of("signs", GROUP)
