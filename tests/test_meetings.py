@@ -101,14 +101,18 @@ class All(Case):
             told = [plainrules.texts_of(row) for row in plainrules.meetings(plainrules.trees_of(rows))]
             self.assertEqual(texts(plain_meetings(rows)), told)
 
-    def test_great_peaks(self):
+    def test_great_peaks_and_ends(self):
         # Each letter becomes some of the next one, by turns of the one rule's and of the other one's.
-        lefts = ["t A t B B B B B h C C C", "t t A A A A A h B B B B"]
-        rows = [(0, rule(lefts[0] + " -> t A A A t A A A t A A A A", WIDE)), (1, rule(lefts[1] + " -> c", WIDE))]
+        texts_of_rules = ["t A t B B B B B t C C C h C C C -> t A A A t A A A t A A A h A A A",
+                          "t t A A A A A t B B B h B B B B -> A"]
+        rows = [(number, rule(text, WIDE)) for number, text in enumerate(texts_of_rules)]
         told = [plainrules.texts_of(row) for row in plainrules.meetings(plainrules.trees_of(rows))]
+        self.assertEqual([[len(text.split(" ")) for text in row[3:]] for row in told], [[1065, 9664, 201]])
         self.assertEqual(texts(plain_meetings(rows)), told)
-        peak = [row for row in plain_meetings(rows) if row[:3] == (0, (), 1)][0]
-        self.assertEqual([len(peak[3]), len(peak[4])], [1 + 213 + 53 + 13 + 4, 3 + 10 * 213])
+        for by in BYS:
+            rules = kept_by(by, [made for _, made in rows])
+            self.assertEqual(texts(meetings(rules)), told)
+            self.told_row(rules, meetings(rules)[0])
 
     def test_more_signs_than_may_be_told(self):
         rules = [rule("f g A B -> t B B B B", WIDE), rule("g A -> t A A c A", WIDE), rule("f A B -> c", WIDE)]
