@@ -1,7 +1,7 @@
 """Answers: the kept terms that an ask tells, with what shows it."""
 
-from termshelf.puttings import letters_themselves, matched, met
-from termshelf.terms import variants
+from termshelf.puttings import letters_themselves, matching, met
+from termshelf.terms import need_two, variants
 
 
 class Answer:
@@ -48,15 +48,21 @@ def _shown(way, ask, kept):
     if way == "meets":
         return met(ask, kept)
     if way == "above":
-        keeping = matched(kept, ask)
+        keeping = matching(kept, ask, {})
         return None if keeping is None else (ask, letters_themselves(ask), keeping)
     if way == "variants" and not variants(ask, kept):
         return None
-    asked = matched(ask, kept)
+    asked = matching(ask, kept, {})
     return None if asked is None else (kept, asked, letters_themselves(kept))
 
 
 def answer_of(way, ask, kept, notes):
+    need_two(ask, kept)
+    return answer_found(way, ask, kept, notes)
+
+
+def answer_found(way, ask, kept, notes):
+    """The answer, or None, of terms that were looked at already."""
     shown = _shown(way, ask, kept)
     if shown is None:
         return None

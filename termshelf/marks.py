@@ -26,7 +26,8 @@ def is_whole(thing, low, high):
 
 
 def _consists_of(text, marks):
-    return all([sign in marks for sign in text])
+    # Marks are stripped from both ends as far as there are any, so nothing is left just of a text of these alone.
+    return text.strip(marks) == ""
 
 
 def is_name(thing):

@@ -1,64 +1,65 @@
 """Where rules meet, and whether what comes of it is rewritten to the same."""
 
 from termshelf.errors import NoRow, TooGreat, Unlike
-from termshelf.puttings import met, signs_put
+from termshelf.puttings import with_given
 from termshelf.rewriting import MOST_STEPS, normal_of
-from termshelf.rules import need_numbered, need_rules
+from termshelf.rules import need_numbered, need_rules, rows_by_heads
+from termshelf.signs import normal_names
 from termshelf.terms import MOST_TOLD, Term, made_term
+from termshelf.uniting import united
+
+# Neither a word nor any letter of a uniting begins with this.
+_ELSE = "+"
 
 
-def _peak(left, whole, asked):
-    """The most general term of a left side at whose part a meeting stands, which the part becomes by a putting."""
-    words = left.words()
-    pairs = asked.pairs()
-    number = len(whole.letters())
-    for letter in left.letters():
-        # The meeting says nothing of a letter that doesn't stand in the part, so it becomes one that stands nowhere.
-        if letter not in pairs:
-            pairs[letter] = made_term(words, [f"N{number}"])
-            number += 1
-    return made_term(words, signs_put(left.signs(), pairs)).normal()
-
-
-def _need_told(term):
-    if len(term) > MOST_TOLD:
-        raise TooGreat(len(term))
-    return term
-
-
-def _row(first, spot, second, whole, asked):
-    """The meeting of two numbered rules at a spot, by that of the part there and of the second one's left side."""
-    peak = _need_told(_peak(first[1].left(), whole, asked))
-    at = peak.place_at(spot)
-    one = _need_told(first[1].made_of(peak, 0, peak))
-    other = _need_told(second[1].made_of(peak, at, peak.part_from(at)))
-    return (first[0], spot, second[0], peak, one, other)
-
-
-def _rows_of(first, search):
-    """All meetings of a numbered rule with others, which a function of a part of its left side finds."""
+def _row(first, at, second, uniting):
+    """The meeting of two numbered rules, by what the part at a place of the first left side and the second became."""
     left = first[1].left()
+    signs = left.signs()
+    given = uniting.becoming(0)
+    for letter in left.letters():
+        # The part says nothing of a letter that doesn't stand in it, so this becomes one that stands nowhere else.
+        given.setdefault(letter, [_ELSE + letter])
+    ahead = with_given(signs[:at], given)
+    behind = with_given(signs[left.ends()[at]:], given)
+    peak = ahead + uniting.whole() + behind
+    one = with_given(first[1].right().signs(), given)
+    other = ahead + with_given(second[1].right().signs(), uniting.becoming(1)) + behind
+    words = left.words()
+    # Each letter of the ends stands in the peak, too.
+    names = normal_names(words.table(), peak)
+    terms = [made_term(words, [names.get(sign, sign) for sign in _need_told(told)]) for told in (peak, one, other)]
+    return (first[0], left.spot_from(at), second[0], terms[0], terms[1], terms[2])
+
+
+def _need_told(signs):
+    if len(signs) > MOST_TOLD:
+        raise TooGreat(len(signs))
+    return signs
+
+
+def _rows_of(first, by_heads):
+    """All meetings of a numbered rule with others, which a table has by the words that their left sides begin with."""
+    number, rule = first
+    left = rule.left()
     told = []
-    for at, spot in enumerate(left.spots()):
-        part = left.part_from(at)
-        if left.words().has(part.head()):
-            met_there = [row for row in search(part) if spot != () or row[0] > first[0]]
-            told.extend([_row(first, spot, (number, rule), whole, asked) for number, rule, whole, asked in met_there])
+    for at, sign in enumerate(left.signs()):
+        others = [other for other in by_heads.get(sign, ()) if at > 0 or other[0] > number]
+        part = left.part_from(at) if others else None
+        for second in others:
+            uniting = united(part, second[1].left())
+            if uniting is not None:
+                told.append(_row(first, at, second, uniting))
     return told
 
 
-def _meetings(rows, search):
-    return [row for first in rows for row in _rows_of(first, search)]
+def _meetings(rows, by_heads):
+    return [row for first in rows for row in _rows_of(first, by_heads)]
 
 
 def meetings(rules):
     need_rules(rules)
-
-    def search(part):
-        found = rules.found_by("meets", part)
-        return [(number, rule, answer.whole(), answer.asked()) for number, rule, answer in found]
-
-    return _meetings(rules.rules(), search)
+    return _meetings(rules.rules(), rules.by_heads())
 
 
 def plain_meetings(rows):
@@ -66,13 +67,7 @@ def plain_meetings(rows):
     for row in rows:
         if row[1].words() != rows[0][1].words():
             raise Unlike(row[1].left())
-    rules = list(rows)
-
-    def search(part):
-        shown = [(number, rule, met(part, rule.left())) for number, rule in rules]
-        return [(number, rule, told[0], told[1]) for number, rule, told in shown if told is not None]
-
-    return _meetings(rules, search)
+    return _meetings(rows, rows_by_heads(rows))
 
 
 def _is_meeting_spot(rule, thing):
@@ -82,8 +77,7 @@ def _is_meeting_spot(rule, thing):
 
 
 def _is_end(rule, peak, spot, thing):
-    at = peak.place_at(spot)
-    return isinstance(thing, Term) and thing == rule.made_of(peak, at, peak.part_from(at))
+    return isinstance(thing, Term) and thing == rule.made_of(peak, peak.place_at(spot))
 
 
 def _shows_met(rules, thing):

@@ -2,10 +2,10 @@
 
 from termshelf.errors import NoList
 from termshelf.nomatch import first_unlike, need_way
-from termshelf.puttree import HOLE, is_pattern
+from termshelf.puttree import HOLE, Shape, is_pattern
 from termshelf.signs import part_end
 from termshelf.terms import MOST_SMALL, made_term, need_small
-from termshelf.uniting import Uniting
+from termshelf.uniting import united
 
 # What bars an instance, as nomatch.py calls it, and as it is called here.
 _BARS = {"unlike": "sign", "two": "letter"}
@@ -24,15 +24,8 @@ def _bar_of_variants(pattern, ask):
     return None
 
 
-def _with_own_letters(pattern):
-    """The term that a pattern becomes when each hole has a letter of its own."""
-    # No letter has a hole's sign, so with a number behind it each one is a letter that stands nowhere else.
-    signs = [f"{HOLE}{at}" if sign == HOLE else sign for at, sign in enumerate(pattern.signs())]
-    return made_term(pattern.words(), signs)
-
-
 def _bar_of_above(pattern, ask):
-    bar = first_unlike(_with_own_letters(pattern), ask)
+    bar = first_unlike(pattern, ask)
     return None if bar is None else (_BARS[bar[0]],) + bar[1:]
 
 
@@ -78,20 +71,18 @@ def _bar_of_instances(pattern, ask):
 
 
 def _bar_of_meets(pattern, ask):
-    return ("apart",) if Uniting(ask, _with_own_letters(pattern)).whole() is None else None
+    return ("apart",) if united(ask, pattern) is None else None
 
 
-def first_bar(pattern, way, ask):
-    """The first bar, of a pattern and an ask that were looked at already."""
-    # As a term a pattern has its holes in the place of letters, which have no parts either.
-    whole = made_term(ask.words(), list(pattern))
+def first_bar(shape, way, ask):
+    """The first bar, of the shape of a pattern and an ask that were looked at already."""
     if way == "variants":
-        return _bar_of_variants(whole, ask)
+        return _bar_of_variants(shape.with_holes(), ask)
     if way == "above":
-        return _bar_of_above(whole, ask)
+        return _bar_of_above(shape.with_letters(), ask)
     if way == "instances":
-        return _bar_of_instances(whole, ask)
-    return _bar_of_meets(whole, ask)
+        return _bar_of_instances(shape.with_holes(), ask)
+    return _bar_of_meets(shape.with_letters(), ask)
 
 
 def _need_pattern_and_ask(words, pattern, way, term):
@@ -103,7 +94,7 @@ def _need_pattern_and_ask(words, pattern, way, term):
 
 def bar_of(words, pattern, way, term):
     _need_pattern_and_ask(words, pattern, way, term)
-    return first_bar(pattern, way, term)
+    return first_bar(Shape(words, pattern), way, term)
 
 
 def _bars_by_sign(pattern, way, ask, spot):
@@ -133,7 +124,7 @@ def _bars_by_letter(pattern, way, ask, first, spot):
 def shows_bar(words, pattern, way, term, thing):
     _need_pattern_and_ask(words, pattern, way, term)
     if way == "meets":
-        return isinstance(thing, tuple) and thing == first_bar(pattern, way, term)
+        return isinstance(thing, tuple) and thing == first_bar(Shape(words, pattern), way, term)
     if not isinstance(thing, tuple) or len(thing) not in (2, 3):
         return False
     whole = made_term(words, list(pattern))

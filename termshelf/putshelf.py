@@ -15,7 +15,7 @@ def _nodes_from(node, path):
 
 def _gone_to(node, path, way, term):
     """The node and all that is gone to beneath it, each as a tuple of its path, itself, and what bars it."""
-    bar = first_bar(node.pattern(), way, term)
+    bar = first_bar(node.shape(), way, term)
     told = [(path, node, bar)]
     if bar is None:
         for number, child in enumerate(node.children()):

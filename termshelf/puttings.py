@@ -2,9 +2,9 @@
 
 from termshelf.errors import NoLetter, NoPairs, NoPutting, TooGreat
 from termshelf.marks import is_letter, rank_among_letters
-from termshelf.signs import need_words, with_normal_letters
+from termshelf.signs import need_words, part_end, with_normal_letters
 from termshelf.terms import MOST_TOLD, Term, made_term, need_like, need_term, need_two, need_two_small
-from termshelf.uniting import Uniting
+from termshelf.uniting import united
 
 _MOST_PAIRS = 100
 
@@ -22,7 +22,8 @@ def _given_signs(signs, terms):
     return {sign: terms[sign].signs() for sign in {one: True for one in signs} if sign in terms}
 
 
-def _with_given(signs, given):
+def with_given(signs, given):
+    """Signs with those that a dict gives in the place of letters."""
     told = []
     for sign in signs:
         if sign in given:
@@ -30,11 +31,6 @@ def _with_given(signs, given):
         else:
             told.append(sign)
     return told
-
-
-def signs_put(signs, terms):
-    """A term's signs with the terms that a dict gives in the place of letters, however many signs these are."""
-    return _with_given(signs, _given_signs(signs, terms))
 
 
 class Putting:
@@ -84,7 +80,7 @@ class Putting:
         many = sum([len(given[sign]) if sign in given else 1 for sign in signs])
         if many > MOST_TOLD:
             raise TooGreat(many)
-        return made_term(self._words, _with_given(signs, given))
+        return made_term(self._words, with_given(signs, given))
 
     def then(self, other):
         need_putting(other)
@@ -108,26 +104,39 @@ def need_putting(thing):
         raise NoPutting(thing)
 
 
-def filling(ask, kept, terms):
-    """What letters must become, some being given, that the ask becomes the kept term; None where it can't."""
-    places = ask.words().table()
-    filled = dict(terms)
-    signs = kept.signs()
-    at = 0
-    for sign in ask.signs():
+def fill_in(places, asked, signs, at, given):
+    """Give letters the signs by which asked signs become those that begin at a place, besides what they were given.
+
+    Told is the place behind what they become, None where they can't become it.
+    """
+    for sign in asked:
         if sign in places:
             if signs[at] != sign:
                 return None
             at += 1
-        elif sign in filled:
+        elif sign in given:
             # Where one term's signs stand no other term begins, so its end needn't be looked for.
-            given = filled[sign].signs()
-            if signs[at:at + len(given)] != given:
+            part = given[sign]
+            if signs[at:at + len(part)] != part:
                 return None
-            at += len(given)
+            at += len(part)
         else:
-            filled[sign] = kept.part_from(at)
-            at += len(filled[sign])
+            end = part_end(places, signs, at)
+            given[sign] = signs[at:end]
+            at = end
+    return at
+
+
+def filling(ask, kept, terms):
+    """What letters must become, some being given, that the ask becomes the kept term; None where it can't."""
+    words = ask.words()
+    given = {letter: terms[letter].signs() for letter in terms}
+    if fill_in(words.table(), ask.signs(), kept.signs(), 0, given) is None:
+        return None
+    filled = dict(terms)
+    for letter in given:
+        if letter not in filled:
+            filled[letter] = made_term(words, given[letter])
     return filled
 
 
@@ -136,7 +145,12 @@ def matched(ask, kept, *, within=None):
     if within is not None:
         need_putting(within)
         need_like(ask.words(), within)
-    filled = filling(ask, kept, {} if within is None else within.pairs())
+    return matching(ask, kept, {} if within is None else within.pairs())
+
+
+def matching(ask, kept, terms):
+    """The putting by which the ask becomes the kept term, letters being given some terms; both were looked at."""
+    filled = filling(ask, kept, terms)
     return None if filled is None else made_putting(ask.words(), filled)
 
 
@@ -154,11 +168,11 @@ def _becoming(words, become, table):
 
 def met(one, other):
     """The meeting of two terms that were looked at already."""
-    uniting = Uniting(one, other)
-    signs = uniting.whole()
-    if signs is None:
+    uniting = united(one, other)
+    if uniting is None:
         return None
     words = one.words()
+    signs = uniting.whole()
     whole = with_normal_letters(words.table(), signs)
     table = {old: new for old, new in zip(signs, whole)}
     left, right = [_becoming(words, uniting.becoming(side), table) for side in (0, 1)]

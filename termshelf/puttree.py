@@ -3,7 +3,7 @@
 from termshelf.errors import NoList, NoNumber, NoSpot
 from termshelf.marks import is_letter, is_list, is_whole
 from termshelf.signs import need_words, part_end, sign_rank
-from termshelf.terms import MOST_SIGNS, need_term, need_term_of
+from termshelf.terms import MOST_SIGNS, made_term, need_term, need_term_of
 
 HOLE = "?"
 
@@ -54,6 +54,8 @@ def _common_of(terms):
     told = terms[0].signs()
     for term in terms[1:]:
         told = _common(places, told, term.signs())
+        if told == [HOLE]:
+            break
     return told
 
 
@@ -76,15 +78,45 @@ def _unlike_in_order(terms):
     return [normal[rank] for rank in sorted(list(normal))]
 
 
+class Shape:
+    """A pattern as a term, of which holes stand in the place of letters, as these have no parts either."""
+
+    def __init__(self, words, pattern):
+        self._with_holes = made_term(words, list(pattern))
+        self._with_letters = None
+
+    def with_holes(self):
+        return self._with_holes
+
+    def with_letters(self):
+        """The term that the pattern becomes when each hole has a letter of its own."""
+        if self._with_letters is None:
+            # No letter has a hole's sign, so with a number behind it each one is a letter that stands nowhere else.
+            signs = [f"{HOLE}{at}" if sign == HOLE else sign for at, sign in enumerate(self._with_holes.signs())]
+            self._with_letters = made_term(self._with_holes.words(), signs)
+        return self._with_letters
+
+
+class Ordered:
+    """Normal terms that are known to be unlike and in order, so that they aren't looked over anew."""
+
+    def __init__(self, terms):
+        self._terms = terms
+
+
 class PutNode:
     """A node of a tree of puttings, with all that is beneath it; it never changes."""
 
     def __init__(self, terms):
-        _need_terms(terms)
-        self._words = terms[0].words()
-        self._terms = _unlike_in_order(terms)
+        if isinstance(terms, Ordered):
+            self._terms = terms._terms
+        else:
+            _need_terms(terms)
+            self._terms = _unlike_in_order(terms)
+        self._words = self._terms[0].words()
         self._pattern = _common_of(self._terms)
-        self._children = [PutNode(group) for group in self._groups()]
+        self._shape = Shape(self._words, self._pattern)
+        self._children = [PutNode(Ordered(group)) for group in self._groups()]
         self._paths = [()]
         for number, child in enumerate(self._children):
             self._paths.extend([(number,) + path for path in child.paths()])
@@ -137,6 +169,9 @@ class PutNode:
                 raise NoSpot(path)
             node = children[number]
         return node
+
+    def shape(self):
+        return self._shape
 
     def paths(self):
         """The paths of the node and of all beneath it, each ahead of those beneath it, in order."""

@@ -2,8 +2,9 @@
 
 from termshelf.errors import Endless, NoList, NoNumber, NotThere, TooGreat
 from termshelf.marks import is_list, is_whole
-from termshelf.rules import MOST_RULES, need_numbered, need_rules
-from termshelf.terms import MOST_SMALL, Term, need_few_signs, need_like, need_small, need_term
+from termshelf.rules import MOST_RULES, need_numbered, need_rules, rows_by_heads
+from termshelf.signs import spot_around
+from termshelf.terms import MOST_SMALL, Term, made_term, need_few_signs, need_like, need_small, need_term
 
 MOST_STEPS = 50
 
@@ -30,112 +31,135 @@ def _need_rules_and_term(rules, term):
     need_small(rules.words(), term)
 
 
-class Search:
-    """Called with a part it tells the rules that fit there, by rising numbers; they are found by the shelf.
+def _table_of(rules, only):
+    """By each word the rules whose left sides begin with it and that count, by rising numbers."""
+    found = rules.by_heads()
+    if only is None:
+        return found
+    return {word: [row for row in found[word] if row[0] in only] for word in found}
 
-    While a term is rewritten the rules stay as they are, so what was found of a part is kept until the same one comes.
+
+class Run:
+    """A term that is rewritten step by step, by a table of rules by the words that their left sides begin with.
+
+    It has just the signs of the term as it has become, and the places among them at which a rule may fit, in order.
     """
 
-    def __init__(self, rules, only):
-        self._kept = rules
-        self._only = only
-        self._known = {}
+    def __init__(self, term, table):
+        self._places = term.words().table()
+        self._table = table
+        self._signs = term.signs()
+        self._todo = list(range(len(self._signs)))
+        self._next = None
 
-    def __call__(self, part):
-        text = str(part)
-        if text not in self._known:
-            found = self._kept.found_by("above", part)
-            self._known[text] = [(number, rule) for number, rule, _ in found if self._counts(number)]
-        return self._known[text]
+    def step(self):
+        """The first step, a tuple (spot, number, signs of the term behind), None where there is none."""
+        places, table, signs = self._places, self._table, self._signs
+        for at in self._todo:
+            for number, rule in table.get(signs[at], ()):
+                behind = rule.signs_made(places, signs, at)
+                if behind is not None:
+                    spot, around = spot_around(places, signs, at)
+                    # What stands ahead and not around stays as it is, and no rule fits there.
+                    self._next = (behind, around + list(range(at, len(behind))))
+                    return (spot, number, behind)
+        return None
 
-    def _counts(self, number):
-        return self._only is None or number in self._only
-
-
-def _steps_at(term, at, spot, search):
-    part = term.part_from(at)
-    if not term.words().has(part.head()):
-        # No left side is a letter, so none becomes one.
-        return []
-    steps = [(spot, number, rule.made_of(term, at, part)) for number, rule in search(part)]
-    return [step for step in steps if step[2] is not None]
+    def go(self):
+        """Do the step that was told last."""
+        self._signs, self._todo = self._next
 
 
-def _first_step(term, search):
-    for at, spot in enumerate(term.spots()):
-        steps = _steps_at(term, at, spot, search)
-        if steps:
-            return steps[0]
-    return None
+def _told(term, step):
+    """A step with the term in the place of its signs."""
+    return (step[0], step[1], made_term(term.words(), step[2]))
+
+
+def _steps_at(places, signs, at, table):
+    fits = [(number, rule.signs_made(places, signs, at)) for number, rule in table.get(signs[at], ())]
+    return [(spot_around(places, signs, at)[0], number, behind) for number, behind in fits if behind is not None]
 
 
 def steps_of(rules, term, *, only=None):
     _need_rules_and_term(rules, term)
     _need_only(rules, only)
-    search = Search(rules, only)
-    return [step for at, spot in enumerate(term.spots()) for step in _steps_at(term, at, spot, search)]
+    table = _table_of(rules, only)
+    places, signs = term.words().table(), term.signs()
+    return [_told(term, step) for at in range(len(signs)) for step in _steps_at(places, signs, at, table)]
 
 
 def first_step(rules, term, *, only=None):
     _need_rules_and_term(rules, term)
     _need_only(rules, only)
-    return _first_step(term, Search(rules, only))
+    step = Run(term, _table_of(rules, only)).step()
+    return None if step is None else _told(term, step)
 
 
-def _run(term, most, search):
-    """The ending, the rows, and the step that isn't done any more, None where none is left."""
-    rows = []
+def _run(term, most, table):
+    """The ending, the steps, and the one that isn't done any more, None where none is left."""
+    run = Run(term, table)
+    steps = []
     while True:
-        step = _first_step(term, search)
+        step = run.step()
         if step is None:
-            return ("done", rows, None)
-        if len(rows) == most:
-            return ("most", rows, step)
-        term = step[2]
-        if len(term) > MOST_SMALL:
-            return ("wide", rows, step)
-        rows.append(step)
+            return ("done", steps, None)
+        if len(steps) == most:
+            return ("most", steps, step)
+        if len(step[2]) > MOST_SMALL:
+            return ("wide", steps, step)
+        steps.append(step)
+        run.go()
+
+
+def _rewritten(term, most, table):
+    ending, steps, _ = _run(term, most, table)
+    return (ending, [_told(term, step) for step in steps])
 
 
 def rewritten(rules, term, *, most=MOST_STEPS, only=None):
     _need_rules_and_term(rules, term)
     _need_most(most)
     _need_only(rules, only)
-    ending, rows, _ = _run(term, most, Search(rules, only))
-    return (ending, rows)
+    return _rewritten(term, most, _table_of(rules, only))
 
 
 def normal_of(rules, term, *, most=MOST_STEPS):
     _need_rules_and_term(rules, term)
     _need_most(most)
-    ending, rows, step = _run(term, most, Search(rules, None))
+    ending, steps, step = _run(term, most, rules.by_heads())
     if ending == "most":
         raise Endless(most)
     if ending == "wide":
         raise TooGreat(len(step[2]))
-    return rows[-1][2] if rows else term
+    return made_term(term.words(), steps[-1][2]) if steps else term
+
+
+def _is_spot(thing, spot):
+    # Python holds True to be equal to 1.
+    return isinstance(thing, tuple) and thing == spot and not any([isinstance(number, bool) for number in thing])
 
 
 def _is_step(term, thing, step):
-    """Whether any thing is a step, or, where this is None, never."""
+    """Whether any thing is a step of a term, or, where this is None, never."""
     if step is None or not isinstance(thing, tuple) or len(thing) != 3:
         return False
     spot, number, behind = thing
-    # Looked at as a spot and as a number first, since Python holds True to be equal to 1.
-    if term.place_at(spot) is None or not is_whole(number, step[1], step[1]):
+    if not _is_spot(spot, step[0]) or not is_whole(number, step[1], step[1]):
         return False
-    return spot == step[0] and isinstance(behind, Term) and behind == step[2]
+    return isinstance(behind, Term) and behind == made_term(term.words(), step[2])
 
 
 def shows_rows(rules, term, thing):
     _need_rules_and_term(rules, term)
     if not isinstance(thing, (list, tuple)):
         return False
-    search = Search(rules, None)
+    run = Run(term, rules.by_heads())
+    many = len(term)
     for row in thing:
-        if len(term) > MOST_SMALL or not _is_step(term, row, _first_step(term, search)):
+        if many > MOST_SMALL or not _is_step(term, row, run.step()):
             return False
-        term = row[2]
+        many = len(row[2])
+        run.go()
     return True
 
 
@@ -152,6 +176,4 @@ def _need_rows_and_term(rows, term):
 def plain_rewritten(rows, term, *, most=MOST_STEPS):
     _need_rows_and_term(rows, term)
     _need_most(most)
-    rules = list(rows)
-    ending, told, _ = _run(term, most, lambda part: rules)
-    return (ending, told)
+    return _rewritten(term, most, rows_by_heads(rows))

@@ -2,15 +2,16 @@
 
 from termshelf.errors import Absent, NoList, NoRule, NoSpot, NotThere, NoWay, TermError, TooMany, Twice
 from termshelf.kinds import shelf_of_kind
-from termshelf.marks import is_list, is_whole
-from termshelf.puttings import filling, signs_put
-from termshelf.shelves import MOST_KEPT
+from termshelf.marks import is_list
+from termshelf.puttings import fill_in, with_given
+from termshelf.shelves import MOST_KEPT, MOST_NOTES, filled_shelf
 from termshelf.signs import need_words, with_normal_letters
 from termshelf.terms import made_term, need_like, need_term_of, need_two_small
 
 MOST_RULES = 40
 
-_NOTE_SIGNS = "abcdefghijklmnopqrstuvwxyz"
+# A left side has as many of these as there are rules with variants of it.
+_NOTES = "abcdefgh"
 
 # The kinds of shelf by which rules are found, and how the shelves call them.
 _KINDS = {"plain": "plain", "signs": "signs", "puts": "puttings"}
@@ -28,6 +29,13 @@ class Rule:
             raise NoRule(right)
         self._left = left
         self._right = right
+        # The signs ahead of the first letter are looked at first, all at once, as most terms haven't even these.
+        signs = left.signs()
+        many = signs.index(letters[0]) if letters else len(signs)
+        self._ahead = signs[:many]
+        self._behind = signs[many:]
+        self._made = right.signs()
+        self._kept_text = None
 
     def words(self):
         return self._left.words()
@@ -58,31 +66,28 @@ class Rule:
         at = term.place_at(spot)
         if at is None:
             raise NoSpot(spot)
-        return self.made_of(term, at, term.part_from(at))
+        return self.made_of(term, at)
 
-    def made_of(self, term, at, part):
+    def made_of(self, term, at):
         """What a term becomes at the part that begins at a place among its signs, None where the rule doesn't fit."""
-        filled = filling(self._left, part, {})
-        if filled is None:
+        words = term.words()
+        signs = self.signs_made(words.table(), term.signs(), at)
+        return None if signs is None else made_term(words, signs)
+
+    def signs_made(self, places, signs, at):
+        """What the signs of a term become at the part that begins at a place, None where the rule doesn't fit there."""
+        behind = at + len(self._ahead)
+        if signs[at:behind] != self._ahead:
             return None
-        signs = term.signs()
-        return made_term(term.words(), signs[:at] + signs_put(self._right.signs(), filled) + signs[at + len(part):])
+        given = {}
+        end = fill_in(places, self._behind, signs, behind, given)
+        return None if end is None else signs[:at] + with_given(self._made, given) + signs[end:]
 
-
-def _note_of(number):
-    """A name for the rule of a number, by which it is found on the shelf."""
-    note = _NOTE_SIGNS[number % len(_NOTE_SIGNS)]
-    while number >= len(_NOTE_SIGNS):
-        number //= len(_NOTE_SIGNS)
-        note = _NOTE_SIGNS[number % len(_NOTE_SIGNS)] + note
-    return note
-
-
-def _number_of(note):
-    number = 0
-    for sign in note:
-        number = number * len(_NOTE_SIGNS) + _NOTE_SIGNS.index(sign)
-    return number
+    def kept_text(self):
+        """The text of the left side's normal form, as a shelf keeps it."""
+        if self._kept_text is None:
+            self._kept_text = " ".join(self._left.normal_signs())
+        return self._kept_text
 
 
 def need_rule(thing):
@@ -91,16 +96,25 @@ def need_rule(thing):
 
 
 class Rules:
-    """Some rules, each under a number of its own; a shelf keeps their left sides, with a note for each rule."""
+    """Some rules, each under a number of its own, and by the text of each left side's normal form the numbers of those
+    that have it.
+
+    A shelf keeps these normal forms, and finds the rules by them. It is told what came and went when it is asked for
+    the first time since.
+    """
 
     def __init__(self, words, *, by="plain"):
         need_words(words)
         if not isinstance(by, str) or by not in _KINDS:
             raise NoWay(by)
-        self._shelf = shelf_of_kind(_KINDS[by], words, MOST_KEPT)
+        self._words = words
+        self._kind = _KINDS[by]
         self._rules = {}
+        self._numbers = {}
         self._next = 0
         self._log = []
+        self._shelf = self._empty_shelf()
+        self._found = None
 
     def put(self, rule):
         number = self._put(rule)
@@ -133,7 +147,7 @@ class Rules:
         return list(self._log)
 
     def words(self):
-        return self._shelf.words()
+        return self._words
 
     def rules(self):
         return [(number, self._rules[number]) for number in self._rules]
@@ -144,13 +158,15 @@ class Rules:
         return self._rules[number]
 
     def shelf(self):
-        return self._shelf.copied()
+        groups = list(self._numbers.values())
+        rows = [(self._rules[numbers[0]].left(), _NOTES[:len(numbers)]) for numbers in groups]
+        return filled_shelf(self._empty_shelf(), rows)
 
     def __len__(self):
         return len(self._rules)
 
     def __eq__(self, other):
-        return isinstance(other, Rules) and self.words() == other.words() and self._rules == other._rules
+        return isinstance(other, Rules) and self._words == other._words and self._rules == other._rules
 
     def __str__(self):
         return "; ".join([f"{number} {self._rules[number]}" for number in self._rules])
@@ -160,32 +176,64 @@ class Rules:
 
     def has_number(self, thing):
         """Whether any thing is the number of a rule that is kept."""
-        return is_whole(thing, 0, self._next - 1) and thing in self._rules
+        # Python counts True and False as numbers, this package doesn't.
+        return isinstance(thing, int) and not isinstance(thing, bool) and thing in self._rules
 
-    def found_by(self, way, part):
-        """The rules whose left sides an ask tells: tuples (number, rule, answer), by rising numbers."""
-        told = []
-        for answer in self._shelf.ask(way, part):
-            told.extend([(_number_of(note), answer) for note in answer.notes()])
-        return [(number, self._rules[number], answer) for number, answer in sorted(told, key=lambda row: row[0])]
+    def by_heads(self):
+        """By each word the rules whose left sides begin with it, tuples (number, rule) by rising numbers.
+
+        They are found by the shelf, and kept until a rule is put in or dropped.
+        """
+        if self._found is None:
+            self._bring_up_shelf()
+            self._found = {name: self._found_by(name) for name in self._words.names()}
+        return self._found
 
     def _put(self, rule):
         need_rule(rule)
-        need_like(self.words(), rule)
-        if rule in list(self._rules.values()):
+        need_like(self._words, rule)
+        alike = self._numbers.get(rule.kept_text(), [])
+        if any([self._rules[number] == rule for number in alike]):
             raise Twice(rule)
         if len(self._rules) == MOST_RULES:
             raise TooMany(MOST_RULES + 1)
+        if len(alike) == MOST_NOTES:
+            raise TooMany(MOST_NOTES + 1)
         number = self._next
-        # The shelf refuses a ninth note, and so a rule where eight are kept whose left sides are variants of its own.
-        self._shelf.put(rule.left(), _note_of(number))
         self._rules[number] = rule
+        self._numbers[rule.kept_text()] = alike + [number]
         self._next += 1
+        self._found = None
         return number
 
     def _drop(self, number):
-        self._shelf.take(self.rule_of(number).left(), _note_of(number))
+        text = self.rule_of(number).kept_text()
         del self._rules[number]
+        self._numbers[text].remove(number)
+        if self._numbers[text] == []:
+            del self._numbers[text]
+        self._found = None
+
+    def _empty_shelf(self):
+        return shelf_of_kind(self._kind, self._words, MOST_KEPT)
+
+    def _bring_up_shelf(self):
+        """Take from the shelf the left sides that no rule has any more, and put those in that it lacks."""
+        note = _NOTES[0]
+        kept = {str(term): term for term in self._shelf.terms()}
+        for text in kept:
+            if text not in self._numbers:
+                self._shelf.take(kept[text], note)
+        for text in self._numbers:
+            if text not in kept:
+                self._shelf.put(self._rules[self._numbers[text][0]].left(), note)
+
+    def _found_by(self, name):
+        ask = made_term(self._words, [name] + [f"N{number}" for number in range(self._words.places(name))])
+        # Candidates may be more than those that are asked for.
+        texts = [str(kept) for kept in self._shelf.candidates("instances", ask) if kept.head() == name]
+        numbers = sorted([number for text in texts for number in self._numbers[text]])
+        return [(number, self._rules[number]) for number in numbers]
 
 
 def need_rules(thing):
@@ -204,3 +252,11 @@ def need_numbered(thing):
         if not isinstance(row[0], int) or isinstance(row[0], bool) or row[0] < least:
             raise NoList(thing)
         least = row[0] + 1
+
+
+def rows_by_heads(rows):
+    """By each word with which left sides begin the numbered rules that have these."""
+    told = {}
+    for row in rows:
+        told.setdefault(row[1].left().head(), []).append(row)
+    return told

@@ -1,6 +1,6 @@
 """Shelves, which keep terms with notes and are asked for terms, and the plain list among them."""
 
-from termshelf.answers import answer_of
+from termshelf.answers import answer_found
 from termshelf.errors import Absent, NoDeed, NoList, NoNote, NoNumber, NotThere, TermError, TooMany, Twice
 from termshelf.marks import is_list, is_name, is_whole
 from termshelf.nomatch import need_way, why_not
@@ -30,6 +30,19 @@ def _need_deeds(rows):
     for at, row in enumerate(rows):
         if not isinstance(row, tuple) or len(row) != 3 or row[0] not in _DEEDS:
             raise NoDeed(at)
+
+
+def _place_of(kept, terms):
+    """The place among normal terms in order at which a normal one stands or would stand."""
+    low = 0
+    high = len(terms)
+    while low < high:
+        middle = (low + high) // 2
+        if terms[middle].rank() < kept.rank():
+            low = middle + 1
+        else:
+            high = middle
+    return low
 
 
 class Shelf:
@@ -66,10 +79,10 @@ class Shelf:
 
     def notes(self, term):
         need_term_of(self._words, term)
-        return list(self._notes[str(self._need_kept(term))])
+        return list(self._notes[self._need_kept(term).text()])
 
     def has(self, term):
-        return isinstance(term, Term) and term.words() == self._words and str(term.normal()) in self._notes
+        return isinstance(term, Term) and term.words() == self._words and term.normal().text() in self._notes
 
     def changes(self):
         return self._changes
@@ -88,14 +101,14 @@ class Shelf:
         return f"{self.__class__.__name__}({str(self)!r})"
 
     def copied(self):
-        return filled_shelf(self.empty_one(), [(term, self._notes[str(term)]) for term in self._terms])
+        return filled_shelf(self.empty_one(), [(term, self._notes[term.text()]) for term in self._terms])
 
     def ask(self, way, term, *, limit=None):
         self.need_ask(way, term)
         need_limit(limit)
         answers = []
         for kept in self._among(self.candidates(way, term)):
-            answer = answer_of(way, term, kept, self._notes[str(kept)])
+            answer = answer_found(way, term, kept, self._notes[kept.text()])
             if answer is not None:
                 answers.append(answer)
                 if len(answers) == limit:
@@ -156,18 +169,17 @@ class Shelf:
     def _need_kept(self, term):
         """The normal form, where it is kept."""
         kept = term.normal()
-        if str(kept) not in self._notes:
+        if kept.text() not in self._notes:
             raise NotThere(term)
         return kept
 
     def _among(self, candidates):
         """The kept terms that are among some, in order."""
-        texts = {str(term): True for term in candidates}
-        return [kept for kept in self._terms if str(kept) in texts]
+        texts = {term.text(): True for term in candidates}
+        return [kept for kept in self._terms if kept.text() in texts]
 
-    def _need_room(self, kept, note):
-        """Refuse a note, or a term that isn't kept, for which there is no room."""
-        notes = self._notes.get(str(kept))
+    def _need_room(self, notes, note):
+        """Refuse a note besides others, or of a term that isn't kept, whose notes are None, where there is no room."""
         if notes is None:
             if len(self._terms) == self._most:
                 raise TooMany(self._most + 1)
@@ -181,8 +193,9 @@ class Shelf:
         need_small(self._words, term)
         _need_note(note)
         kept = term.normal()
-        self._need_room(kept, note)
-        at = len(self._notes.get(str(kept), []))
+        notes = self._notes.get(kept.text())
+        self._need_room(notes, note)
+        at = 0 if notes is None else len(notes)
         self._note(kept, at, note)
         self._changes += 1
         return ("take", kept, at, note)
@@ -192,7 +205,7 @@ class Shelf:
         need_term_of(self._words, term)
         _need_note(note)
         kept = self._need_kept(term)
-        notes = self._notes[str(kept)]
+        notes = self._notes[kept.text()]
         if note not in notes:
             raise NotThere(note)
         at = notes.index(note)
@@ -209,20 +222,20 @@ class Shelf:
 
     def _note(self, kept, at, note):
         """Put a note at its place among those of a normal term, which is kept from then on."""
-        if str(kept) in self._notes:
-            self._notes[str(kept)].insert(at, note)
+        if kept.text() in self._notes:
+            self._notes[kept.text()].insert(at, note)
         else:
-            self._notes[str(kept)] = [note]
-            self._terms.insert(len([term for term in self._terms if term.rank() < kept.rank()]), kept)
+            self._notes[kept.text()] = [note]
+            self._terms.insert(_place_of(kept, self._terms), kept)
             self.index_put(kept)
 
     def _drop_note(self, kept, at):
         """Drop a note of a normal term, which isn't kept any more where it has no other one."""
-        notes = self._notes[str(kept)]
+        notes = self._notes[kept.text()]
         notes.pop(at)
         if notes == []:
-            del self._notes[str(kept)]
-            self._terms = [term for term in self._terms if term != kept]
+            del self._notes[kept.text()]
+            self._terms.pop(_place_of(kept, self._terms))
             self.index_take(kept)
 
 
@@ -252,7 +265,7 @@ class PlainShelf(Shelf):
 
     def walk(self, way, term):
         self.need_ask(way, term)
-        answers = [answer_of(way, term, kept, []) for kept in self.terms()]
+        answers = [answer_found(way, term, kept, []) for kept in self.terms()]
         return [(number, answer is not None) for number, answer in enumerate(answers)]
 
     def steps(self, way, term):

@@ -101,19 +101,42 @@ def part_end(places, signs, at):
     return at
 
 
+def spot_around(places, signs, at):
+    """The spot of the part that begins at one place, and the places at which those around it begin, in order."""
+    around = []
+    spot = []
+    passed = 0
+    for place in reversed(range(at)):
+        # A word behind which too few whole parts were passed is one that stands around.
+        many = places.get(signs[place], 0)
+        if passed < many:
+            around.append(place)
+            spot.append(passed)
+            passed = 0
+        else:
+            passed += 1 - many
+    return tuple(spot[::-1]), around[::-1]
+
+
 def letters_among(places, signs):
     """The unlike letters among signs, as they first come."""
     return [sign for sign in {one: True for one in signs} if sign not in places]
 
 
-def with_normal_letters(places, signs):
-    """The signs with the letters N0, N1, .. in the place of theirs, as they first come."""
+def normal_names(places, signs):
+    """By each sign what stands in its place in the normal form: itself, or N0, N1, .. for letters as they come."""
     told = {sign: sign for sign in signs}
     number = 0
     for sign in list(told):
         if sign not in places:
             told[sign] = f"N{number}"
             number += 1
+    return told
+
+
+def with_normal_letters(places, signs):
+    """The signs with the letters N0, N1, .. in the place of theirs, as they first come."""
+    told = normal_names(places, signs)
     return [told[sign] for sign in signs]
 
 

@@ -42,8 +42,10 @@ class SignTree:
             raise TooMany(_MOST_TERMS + 1)
         self._terms[signs] = term.normal()
         self._many[()] += 1
-        for at in range(len(signs)):
-            self._grow(signs[:at], signs[at])
+        path = ()
+        for sign in signs:
+            self._grow(path, sign)
+            path = path + (sign,)
         return True
 
     def take(self, term):
@@ -53,8 +55,10 @@ class SignTree:
             return False
         del self._terms[signs]
         self._many[()] -= 1
-        for at in range(len(signs)):
-            self._shrink(signs[:at], signs[at])
+        path = ()
+        for sign in signs:
+            self._shrink(path, sign)
+            path = path + (sign,)
         return True
 
     def nodes(self):
@@ -120,8 +124,10 @@ class SignTree:
         if below not in self._many:
             self._behind[below] = []
             self._many[below] = 0
-            ranks = self._words.ranks()
-            self._behind[path] = sorted(self._behind[path] + [sign], key=lambda one: sign_rank(ranks, one))
+            self._behind[path].append(sign)
+            if len(self._behind[path]) > 1:
+                ranks = self._words.ranks()
+                self._behind[path] = sorted(self._behind[path], key=lambda one: sign_rank(ranks, one))
         self._many[below] += 1
 
     def _shrink(self, path, sign):

@@ -68,7 +68,9 @@ class Term:
         # These are found when they are first asked for, as most terms are never asked for them.
         self._ends = None
         self._normal = None
+        self._normal_term = None
         self._rank = None
+        self._text = None
 
     def words(self):
         return self._words
@@ -134,10 +136,11 @@ class Term:
     def normal(self):
         if self.is_normal():
             return self
-        told = made_term(self._words, self._found_normal())
-        told._normal = self._normal
-        told._rank = self._rank
-        return told
+        if self._normal_term is None:
+            self._normal_term = made_term(self._words, self._normal)
+            self._normal_term._normal = self._normal
+            self._normal_term._rank = self._rank
+        return self._normal_term
 
     def is_normal(self):
         return self._signs == self._found_normal()
@@ -146,6 +149,12 @@ class Term:
         if self._rank is None:
             self._rank = sign_ranks(self._words.ranks(), self._signs)
         return self._rank
+
+    def text(self):
+        """The text, which is kept."""
+        if self._text is None:
+            self._text = str(self)
+        return self._text
 
     def normal_signs(self):
         return list(self._found_normal())

@@ -1,5 +1,33 @@
 """What two terms become together, or where they can't, found without the rows that would show it."""
 
+from termshelf.signs import part_end
+
+
+def _clash_at_once(one, other):
+    """Whether both have unlike words at a spot, by which most terms that don't meet are told at once."""
+    places = one.words().table()
+    signs, others = one.signs(), other.signs()
+    at = beside = 0
+    while at < len(signs):
+        sign = signs[at]
+        if sign == others[beside]:
+            at += 1
+            beside += 1
+        elif sign in places and others[beside] in places:
+            return True
+        else:
+            at = part_end(places, signs, at)
+            beside = part_end(places, others, beside)
+    return False
+
+
+def united(one, other):
+    """The uniting of two terms that meet, None of others."""
+    if _clash_at_once(one, other):
+        return None
+    uniting = Uniting(one, other)
+    return None if uniting.whole() is None else uniting
+
 
 class Uniting:
     """Two terms that are to become one; the signs of both stand in one list, and parts are called by places in it.

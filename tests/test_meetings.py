@@ -65,6 +65,9 @@ class All(Case):
                    (0, (1,), 0, "f g g N0 f g N0 f N0 N1", "f N0 N1", "f g g N0 N1"),
                    (1, (0,), 0, "g f g N0 f N0 N1", "g N0", "g N1")])
         self.told(["f B g A -> B", "g N1 -> N1"], [(0, (1,), 1, "f N0 g N1", "N0", "f N0 N1")])
+        for number in range(12):
+            self.told([f"f N{number} g A -> N{number}", f"g N{number} -> c"],
+                      [(0, (1,), 1, "f N0 g N1", "N0", "f N0 c")])
 
     def test_none_and_few(self):
         self.told([], [])
