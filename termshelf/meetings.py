@@ -1,9 +1,10 @@
 """Where rules meet, and whether what comes of it is rewritten to the same."""
 
+from termshelf.beginnings import rows_by_heads
 from termshelf.errors import NoRow, TooGreat, Unlike
 from termshelf.puttings import with_given
 from termshelf.rewriting import MOST_STEPS, normal_of
-from termshelf.rules import need_numbered, need_rules, rows_by_heads
+from termshelf.rules import need_numbered, need_rules
 from termshelf.signs import normal_names
 from termshelf.terms import MOST_TOLD, Term, made_term
 from termshelf.uniting import united

@@ -1,8 +1,9 @@
 """Steps of a term by rules, one behind the other."""
 
+from termshelf.beginnings import beginnings_of
 from termshelf.errors import Endless, NoList, NoNumber, NotThere, TooGreat
 from termshelf.marks import is_list, is_whole
-from termshelf.rules import MOST_RULES, need_numbered, need_rules, rows_by_heads
+from termshelf.rules import MOST_RULES, need_numbered, need_rules
 from termshelf.signs import spot_around
 from termshelf.terms import MOST_SMALL, Term, made_term, need_few_signs, need_like, need_small, need_term
 
@@ -31,32 +32,28 @@ def _need_rules_and_term(rules, term):
     need_small(rules.words(), term)
 
 
-def _table_of(rules, only):
-    """By each word the rules whose left sides begin with it and that count, by rising numbers."""
-    found = rules.by_heads()
-    if only is None:
-        return found
-    return {word: [row for row in found[word] if row[0] in only] for word in found}
+def _beginnings_that_count(rules, only):
+    return rules.beginnings() if only is None else rules.beginnings_among(only)
 
 
 class Run:
-    """A term that is rewritten step by step, by a table of rules by the words that their left sides begin with.
+    """A term that is rewritten step by step, by rules that are told by the words with which their left sides begin.
 
     It has just the signs of the term as it has become, and the places among them at which a rule may fit, in order.
     """
 
-    def __init__(self, term, table):
+    def __init__(self, term, beginnings):
         self._places = term.words().table()
-        self._table = table
+        self._beginnings = beginnings
         self._signs = term.signs()
         self._todo = list(range(len(self._signs)))
         self._next = None
 
     def step(self):
         """The first step, a tuple (spot, number, signs of the term behind), None where there is none."""
-        places, table, signs = self._places, self._table, self._signs
+        places, beginnings, signs = self._places, self._beginnings, self._signs
         for at in self._todo:
-            for number, rule in table.get(signs[at], ()):
+            for number, rule in beginnings.rows_at(signs, at):
                 behind = rule.signs_made(places, signs, at)
                 if behind is not None:
                     spot, around = spot_around(places, signs, at)
@@ -75,29 +72,29 @@ def _told(term, step):
     return (step[0], step[1], made_term(term.words(), step[2]))
 
 
-def _steps_at(places, signs, at, table):
-    fits = [(number, rule.signs_made(places, signs, at)) for number, rule in table.get(signs[at], ())]
+def _steps_at(places, signs, at, beginnings):
+    fits = [(number, rule.signs_made(places, signs, at)) for number, rule in beginnings.rows_at(signs, at)]
     return [(spot_around(places, signs, at)[0], number, behind) for number, behind in fits if behind is not None]
 
 
 def steps_of(rules, term, *, only=None):
     _need_rules_and_term(rules, term)
     _need_only(rules, only)
-    table = _table_of(rules, only)
+    beginnings = _beginnings_that_count(rules, only)
     places, signs = term.words().table(), term.signs()
-    return [_told(term, step) for at in range(len(signs)) for step in _steps_at(places, signs, at, table)]
+    return [_told(term, step) for at in range(len(signs)) for step in _steps_at(places, signs, at, beginnings)]
 
 
 def first_step(rules, term, *, only=None):
     _need_rules_and_term(rules, term)
     _need_only(rules, only)
-    step = Run(term, _table_of(rules, only)).step()
+    step = Run(term, _beginnings_that_count(rules, only)).step()
     return None if step is None else _told(term, step)
 
 
-def _run(term, most, table):
+def _run(term, most, beginnings):
     """The ending, the steps, and the one that isn't done any more, None where none is left."""
-    run = Run(term, table)
+    run = Run(term, beginnings)
     steps = []
     while True:
         step = run.step()
@@ -111,8 +108,8 @@ def _run(term, most, table):
         run.go()
 
 
-def _rewritten(term, most, table):
-    ending, steps, _ = _run(term, most, table)
+def _rewritten(term, most, beginnings):
+    ending, steps, _ = _run(term, most, beginnings)
     return (ending, [_told(term, step) for step in steps])
 
 
@@ -120,13 +117,13 @@ def rewritten(rules, term, *, most=MOST_STEPS, only=None):
     _need_rules_and_term(rules, term)
     _need_most(most)
     _need_only(rules, only)
-    return _rewritten(term, most, _table_of(rules, only))
+    return _rewritten(term, most, _beginnings_that_count(rules, only))
 
 
 def normal_of(rules, term, *, most=MOST_STEPS):
     _need_rules_and_term(rules, term)
     _need_most(most)
-    ending, steps, step = _run(term, most, rules.by_heads())
+    ending, steps, step = _run(term, most, rules.beginnings())
     if ending == "most":
         raise Endless(most)
     if ending == "wide":
@@ -153,7 +150,7 @@ def shows_rows(rules, term, thing):
     _need_rules_and_term(rules, term)
     if not isinstance(thing, (list, tuple)):
         return False
-    run = Run(term, rules.by_heads())
+    run = Run(term, rules.beginnings())
     many = len(term)
     for row in thing:
         if many > MOST_SMALL or not _is_step(term, row, run.step()):
@@ -176,4 +173,4 @@ def _need_rows_and_term(rows, term):
 def plain_rewritten(rows, term, *, most=MOST_STEPS):
     _need_rows_and_term(rows, term)
     _need_most(most)
-    return _rewritten(term, most, rows_by_heads(rows))
+    return _rewritten(term, most, beginnings_of(rows))

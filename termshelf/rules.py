@@ -1,5 +1,6 @@
 """Rules, and some rules kept together, found by a shelf of their left sides."""
 
+from termshelf.beginnings import beginnings_of
 from termshelf.errors import Absent, NoList, NoRule, NoSpot, NotThere, NoWay, TermError, TooMany, Twice
 from termshelf.kinds import shelf_of_kind
 from termshelf.marks import is_list
@@ -83,6 +84,10 @@ class Rule:
         end = fill_in(places, self._behind, signs, behind, given)
         return None if end is None else signs[:at] + with_given(self._made, given) + signs[end:]
 
+    def ahead(self):
+        """The signs of the left side ahead of its first letter."""
+        return list(self._ahead)
+
     def kept_text(self):
         """The text of the left side's normal form, as a shelf keeps it."""
         if self._kept_text is None:
@@ -115,6 +120,7 @@ class Rules:
         self._log = []
         self._shelf = self._empty_shelf()
         self._found = None
+        self._beginnings = None
 
     def put(self, rule):
         number = self._put(rule)
@@ -189,6 +195,16 @@ class Rules:
             self._found = {name: self._found_by(name) for name in self._words.names()}
         return self._found
 
+    def beginnings(self):
+        """The rules by the words with which their left sides begin, likewise found and kept."""
+        if self._beginnings is None:
+            self._beginnings = beginnings_of(self._found_rows())
+        return self._beginnings
+
+    def beginnings_among(self, numbers):
+        """The like of the rules of some numbers alone."""
+        return beginnings_of([row for row in self._found_rows() if row[0] in numbers])
+
     def _put(self, rule):
         need_rule(rule)
         need_like(self._words, rule)
@@ -203,7 +219,7 @@ class Rules:
         self._rules[number] = rule
         self._numbers[rule.kept_text()] = alike + [number]
         self._next += 1
-        self._found = None
+        self._forget()
         return number
 
     def _drop(self, number):
@@ -212,7 +228,15 @@ class Rules:
         self._numbers[text].remove(number)
         if self._numbers[text] == []:
             del self._numbers[text]
+        self._forget()
+
+    def _forget(self):
         self._found = None
+        self._beginnings = None
+
+    def _found_rows(self):
+        found = self.by_heads()
+        return [row for name in found for row in found[name]]
 
     def _empty_shelf(self):
         return shelf_of_kind(self._kind, self._words, MOST_KEPT)
@@ -252,11 +276,3 @@ def need_numbered(thing):
         if not isinstance(row[0], int) or isinstance(row[0], bool) or row[0] < least:
             raise NoList(thing)
         least = row[0] + 1
-
-
-def rows_by_heads(rows):
-    """By each word with which left sides begin the numbered rules that have these."""
-    told = {}
-    for row in rows:
-        told.setdefault(row[1].left().head(), []).append(row)
-    return told

@@ -82,29 +82,30 @@ class Uniting:
     def _join(self, one, other, number):
         """Make two parts of a pair the same, at least one of which is a letter."""
         self._notes.append((one, other, number))
-        pair = self._joined_bearers(one, other)
-        # In a ring the same pairs would come again and again.
-        if len(pair) == 2 and pair not in self._pairs:
-            self._pairs.append(pair)
-            self._known.append(len(self._notes))
-
-    def _joined_bearers(self, one, other):
-        """Make one class of both; told are the parts with words that must become the same by it, a tuple."""
         if one not in self._roots:
             one, other = other, one
         root = self._root(one)
-        bearers = [self._bearers.get(root)]
+        bearer = self._bearers.get(root)
         if other in self._roots:
             old = root
             root = self._root(other)
             if old == root:
-                return ()
+                return
             self._roots[old] = root
             other = self._bearers.get(root)
-        bearers = [bearer for bearer in bearers + [other] if bearer is not None]
-        if bearers:
-            self._bearers[root] = bearers[0]
-        return tuple(bearers)
+        if bearer is None:
+            bearer, other = other, None
+        if bearer is not None:
+            self._bearers[root] = bearer
+        if other is not None:
+            self._pair(bearer, other)
+
+    def _pair(self, one, other):
+        """Note down that two parts with words must become the same."""
+        # In a ring the same pairs would come again and again.
+        if (one, other) not in self._pairs:
+            self._pairs.append((one, other))
+            self._known.append(len(self._notes))
 
     def _root(self, at):
         while self._roots[at] != at:
